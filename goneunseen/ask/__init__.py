@@ -1,0 +1,1 @@
+"""What is asked of a base."""

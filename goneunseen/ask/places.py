@@ -1,0 +1,115 @@
+"""Places: a table or a view with terms, and the rows for which they stand."""
+
+from goneunseen.errors import InvalidOperation, InvalidPlace, InvalidRow
+from goneunseen.scheme.names import is_integer, is_name, is_row_of, is_term
+
+_MOST_TERMS = 4
+
+
+class Place:
+    """A place of a query, filtered or free; a place never changes."""
+
+    def __init__(self, source, *terms, filtered=False):
+        if not is_name(source):
+            raise InvalidPlace("a place needs the name of a table or of a view")
+        if not 1 <= len(terms) <= _MOST_TERMS or not all([is_term(term) for term in terms]):
+            raise InvalidPlace("a place has one to four terms")
+        if not isinstance(filtered, bool):
+            raise InvalidPlace("filtered is a boolean")
+        self._source = source
+        self._terms = terms
+        self._filtered = filtered
+
+    @classmethod
+    def of(cls, source, terms, *, filtered=False):
+        """The place with a tuple of terms."""
+        if not isinstance(terms, tuple):
+            raise InvalidPlace("the terms are no tuple")
+        return cls(source, *terms, filtered=filtered)
+
+    @property
+    def source(self):
+        """The name of the table or of the view."""
+        return self._source
+
+    @property
+    def terms(self):
+        """The terms."""
+        return self._terms
+
+    @property
+    def filtered(self):
+        """Whether it means living rows only."""
+        return self._filtered
+
+    @property
+    def variables(self):
+        """The variables among the terms, ascending."""
+        return tuple(sorted(set([term for term in self._terms if is_name(term)])))
+
+    def __pos__(self):
+        return Place(self._source, *self._terms, filtered=True)
+
+    def __neg__(self):
+        return Place(self._source, *self._terms)
+
+    def __invert__(self):
+        other = not self._filtered
+        return Place(self._source, *self._terms, filtered=other)
+
+    def __len__(self):
+        return len(self._terms)
+
+    def __eq__(self, other):
+        return (
+            isinstance(other, Place)
+            and self._source == other._source
+            and self._terms == other._terms
+            and self._filtered == other._filtered
+        )
+
+    def __str__(self):
+        return f"{_sign(self._filtered)}{self._source}({_joined(self._terms)})"
+
+
+def row_at(place, numbers):
+    """The row for which the place stands if its variables have these integers."""
+    _check_place(place)
+    _check_numbers(numbers)
+    if not all([name in numbers for name in place.variables]):
+        raise InvalidOperation("a variable of the place has no integer")
+    return tuple([numbers.get(term, term) for term in place.terms])
+
+
+def fits(place, row, numbers):
+    """The integers of the variables with which the place stands for the row, or None."""
+    _check_place(place)
+    if not is_row_of(row, len(place)):
+        raise InvalidRow("no row as long as the place")
+    _check_numbers(numbers)
+    found = {name: numbers[name] for name in numbers}
+    for term, part in zip(place.terms, row):
+        known = found.setdefault(term, part) if is_name(term) else term
+        if known != part:
+            return None
+    return {name: found[name] for name in sorted(found)}
+
+
+def _sign(filtered):
+    return "+" if filtered else ""
+
+
+def _joined(terms):
+    return ", ".join([str(term) for term in terms])
+
+
+def _check_place(place):
+    if not isinstance(place, Place):
+        raise InvalidPlace("no place")
+
+
+def _check_numbers(numbers):
+    if not isinstance(numbers, dict):
+        raise InvalidOperation("no dict")
+    if not all([is_name(name) and is_integer(numbers[name]) for name in numbers]):
+        raise InvalidOperation("the dict is not from names to integers")

@@ -1,0 +1,1 @@
+"""Bases: the living and the gone rows of a scheme."""

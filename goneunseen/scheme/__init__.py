@@ -1,0 +1,1 @@
+"""Names, tables and schemes."""

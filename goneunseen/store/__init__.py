@@ -1,0 +1,1 @@
+"""The store, its histories, and how gone rows come back."""

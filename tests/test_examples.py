@@ -1,0 +1,112 @@
+"""The examples of the document, word for word.
+
+Each pair of lines is what is typed and what is told; "raises X" stands for an error. What is told is computed, too, so
+that it is compared as a value.
+"""
+
+import unittest
+
+from goneunseen import errors
+from goneunseen.ask.places import Place, fits, row_at
+from goneunseen.base.bases import Base
+from goneunseen.scheme.schemes import Scheme
+from goneunseen.scheme.tables import Table
+from goneunseen.store.histories import history_to, is_history, is_history_to, run, steps
+from goneunseen.store.returns import is_hindrance, is_return, is_tight_return, return_paper
+from goneunseen.store.stores import Store
+from tests.values import DAY, SHOP, Case
+
+KNOWN = {
+    "SHOP": SHOP, "DAY": DAY, "Table": Table, "Scheme": Scheme, "Base": Base, "Store": Store, "run": run, "steps": steps,
+    "is_history": is_history, "history_to": history_to, "is_history_to": is_history_to, "return_paper": return_paper,
+    "is_return": is_return, "is_tight_return": is_tight_return, "is_hindrance": is_hindrance, "Place": Place,
+    "row_at": row_at, "fits": fits}
+
+TABLES_AND_SCHEMES = """
+>>> [SHOP.names, SHOP["order"].refers, SHOP["order"].told((5, 1), 0), SHOP["buyer"].key_of((1, 10)), "buyers" in SHOP]
+[('buyer', 'order', 'item'), (((1,), 'buyer'),), (1,), (1,), False]
+>>> lax = SHOP.without(("all", "buyer"))
+>>> [lax["buyer"].scope, lax.within(SHOP), SHOP.within(lax), lax.with_rule(("all", "buyer")) == SHOP, Table.is_key((0, 0), 2)]
+['living', True, False, True, False]
+"""
+BASES = """
+>>> [DAY.size, DAY.living("order"), DAY.gone("order"), DAY["item", (5, 200)], ("buyer", (3, 30)) in DAY, DAY.alive().size]
+[10, ((5, 1), (6, 2)), {(5, 3): 1, (7, 3): 1}, (False, 1), True, 6]
+>>> Base(SHOP, living={"buyer": ((1, 10),)}, gone={"buyer": ((1, 11),)})
+raises BrokenRule
+>>> Base(SHOP, gone={"order": ((5, 1), (5, 1), (5, 2))}).gone("order")
+{(5, 1): 2, (5, 2): 1}
+"""
+STORES = """
+>>> store = Store(SHOP)
+>>> [store.put("buyer", (1, 10)), store.put("order", (5, 1)), store.take("buyer", (1, 10), along=True), store["order", (5, 1)]]
+[(('put', 'buyer', (1, 10)),), (('put', 'order', (5, 1)),), (('take', 'order', (5, 1)), ('take', 'buyer', (1, 10))), 'gone']
+>>> store.put("buyer", (1, 20))
+raises KeyTaken
+>>> [store.mark("buyer", (1, 10), "living"), store.put("order", (5, 1)), store.base["order", (5, 1)], store.purge_all()]
+[(('back', 'buyer', (1, 10)),), (('put', 'order', (5, 1)),), (True, 1), (('purge', 'order', (5, 1)),)]
+"""
+HISTORIES = """
+>>> some = (("put", "buyer", (1, 10)), ("take", "buyer", (1, 10)), ("back", "buyer", (1, 10)), ("put", "order", (5, 1)))
+>>> [run(SHOP, some).size, [base.size for base in steps(SHOP, some)], is_history(SHOP, some[1:]), is_history_to(run(SHOP, some), some)]
+[2, [1, 1, 1, 2], False, True]
+>>> run(SHOP, some[2:])
+raises Stopped
+"""
+RETURNS = """
+>>> broken = Base(SHOP, gone={"buyer": ((3, 30),), "order": ((5, 3), (5, 4)), "item": ((5, 100),)})
+>>> return_paper(broken, "item", (5, 100))
+('back', (('back', 'buyer', (3, 30)), ('back', 'order', (5, 3)), ('back', 'item', (5, 100))))
+>>> [is_return(DAY, "item", (5, 200), (("back", "item", (5, 200)),)), return_paper(DAY, "order", (5, 3))]
+[True, ('hindered', (('order', (5, 3), ('taken', (5, 1))),))]
+"""
+# The other lines of this example belong to the module of rules.
+PLACES = """
+>>> place = Place("order", "o", 5)
+>>> [str(+place), ~~place == place, len(place), place.variables, (+place).filtered]
+['+order(o, 5)', True, 2, ('o',), True]
+>>> [row_at(place, {"o": 9}), fits(place, (7, 5), {"p": 1}), fits(place, (7, 6), {}), fits(place, (7, 5), {"o": 8})]
+[(9, 5), {'o': 7, 'p': 1}, None, None]
+"""
+
+
+class Examples(Case):
+    def check(self, text):
+        """Runs the lines of an example one after another, as the document shows them."""
+        known, typed = dict(KNOWN), None
+        for line in text.strip().split("\n"):
+            if line.startswith(">>> "):
+                if typed is not None:
+                    exec(typed, known)
+                typed = line[4:]
+            elif line.startswith("raises "):
+                self.refused(getattr(errors, line[7:]), eval, typed, known)
+                typed = None
+            else:
+                told = eval(typed, known)
+                self.assertEqual(repr(told), line)
+                self.assert_same(told, eval(line))
+                typed = None
+        self.assertIsNone(typed)
+
+    def test_tables_and_schemes(self):
+        self.check(TABLES_AND_SCHEMES)
+
+    def test_bases(self):
+        self.check(BASES)
+
+    def test_stores(self):
+        self.check(STORES)
+
+    def test_histories(self):
+        self.check(HISTORIES)
+
+    def test_returns(self):
+        self.check(RETURNS)
+
+    def test_places(self):
+        self.check(PLACES)
+
+
+if __name__ == "__main__":
+    unittest.main()
