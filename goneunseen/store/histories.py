@@ -19,9 +19,9 @@ def has_history_form(value):
 def run(scheme, history):
     """The base to which the history leads."""
     base = Base.empty(scheme)
-    _check_form(history)
-    for index, command in enumerate(history):
-        base = _behind_step(base, command, index)
+    # Only the last base counts; the empty history leaves the empty one.
+    for base in steps(scheme, history):
+        pass
     return base
 
 
