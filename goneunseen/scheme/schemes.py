@@ -145,18 +145,21 @@ def _is_rule(value):
 
 
 def _table_without(table, rule):
+    columns, scope, pairs = table.key, table.scope, table.refers
     if rule[0] == "all":
-        return Table(table.name, table.width, key=table.key, refers=table.refers)
+        return Table(table.name, table.width, key=columns, refers=pairs)
     if rule[0] == "key":
-        return Table(table.name, table.width, refers=table.refers)
-    kept = tuple([pair for pair in table.refers if pair != (rule[2], rule[3])])
-    return Table(table.name, table.width, key=table.key, scope=table.scope, refers=kept)
+        return Table(table.name, table.width, refers=pairs)
+    kept = tuple([pair for pair in pairs if pair != (rule[2], rule[3])])
+    return Table(table.name, table.width, key=columns, scope=scope, refers=kept)
 
 
 def _table_with(table, rule):
+    columns, scope, pairs = table.key, table.scope, table.refers
     if rule[0] == "all":
-        return Table(table.name, table.width, key=table.key, scope="all", refers=table.refers)
+        return Table(table.name, table.width, key=columns, scope="all", refers=pairs)
     if rule[0] == "key":
-        return Table(table.name, table.width, key=rule[2], refers=table.refers)
-    more = table.refers + ((rule[2], rule[3]),)
-    return Table(table.name, table.width, key=table.key, scope=table.scope, refers=more)
+        wanted = rule[2]
+        return Table(table.name, table.width, key=wanted, refers=pairs)
+    more = pairs + ((rule[2], rule[3]),)
+    return Table(table.name, table.width, key=columns, scope=scope, refers=more)
