@@ -7,20 +7,27 @@ that it is compared as a value.
 import unittest
 
 from goneunseen import errors
+from goneunseen.ask.answers import answers, matches, numbers
 from goneunseen.ask.places import Place, fits, row_at
+from goneunseen.ask.programs import Program, below, origins, unfolded
+from goneunseen.ask.rules import Rule, tables_fit
+from goneunseen.ask.spots import Spots
+from goneunseen.ask.tallies import Tally
 from goneunseen.base.bases import Base
 from goneunseen.scheme.schemes import Scheme
 from goneunseen.scheme.tables import Table
 from goneunseen.store.histories import history_to, is_history, is_history_to, run, steps
 from goneunseen.store.returns import is_hindrance, is_return, is_tight_return, return_paper
 from goneunseen.store.stores import Store
-from tests.values import DAY, SHOP, Case
+from tests.values import DAY, SALES, SHOP, Case
 
 KNOWN = {
     "SHOP": SHOP, "DAY": DAY, "Table": Table, "Scheme": Scheme, "Base": Base, "Store": Store, "run": run, "steps": steps,
     "is_history": is_history, "history_to": history_to, "is_history_to": is_history_to, "return_paper": return_paper,
     "is_return": is_return, "is_tight_return": is_tight_return, "is_hindrance": is_hindrance, "Place": Place,
-    "row_at": row_at, "fits": fits}
+    "row_at": row_at, "fits": fits, "Rule": Rule, "tables_fit": tables_fit, "SALES": SALES, "Program": Program, "Spots": Spots,
+    "unfolded": unfolded, "origins": origins, "below": below, "Tally": Tally, "answers": answers, "numbers": numbers,
+    "matches": matches}
 
 TABLES_AND_SCHEMES = """
 >>> [SHOP.names, SHOP["order"].refers, SHOP["order"].told((5, 1), 0), SHOP["buyer"].key_of((1, 10)), "buyers" in SHOP]
@@ -60,13 +67,34 @@ RETURNS = """
 >>> [is_return(DAY, "item", (5, 200), (("back", "item", (5, 200)),)), return_paper(DAY, "order", (5, 3))]
 [True, ('hindered', (('order', (5, 3), ('taken', (5, 1))),))]
 """
-# The other lines of this example belong to the module of rules.
-PLACES = """
+PLACES_AND_RULES = """
 >>> place = Place("order", "o", 5)
 >>> [str(+place), ~~place == place, len(place), place.variables, (+place).filtered]
 ['+order(o, 5)', True, 2, ('o',), True]
+>>> rule = Rule(("o",), place) & +Place("item", "o", "p")
+>>> [str(rule), rule.integers, -place in rule, ~place in rule]
+['(o) if order(o, 5), +item(o, p)', (5,), True, False]
 >>> [row_at(place, {"o": 9}), fits(place, (7, 5), {"p": 1}), fits(place, (7, 6), {}), fits(place, (7, 5), {"o": 8})]
 [(9, 5), {'o': 7, 'p': 1}, None, None]
+>>> Rule(("x",), Place("order", "o", 5))
+raises InvalidRule
+"""
+PROGRAMS = """
+>>> [SALES.names, str(SALES.free), "towns" in SALES, str(below(SALES, "towns"))]
+[('bought', 'parts', 'towns'), '{bought 0 0, bought 0 1, parts 0 1}', True, '{bought 0 0, bought 0 1, bought 0 2}']
+>>> [str(rule) for rule in unfolded(SALES, "towns")]
+['(a) if order(b, c), buyer(c, a), +item(b, d)']
+>>> [str((SALES + Spots(("parts", 0, 1)))["parts"][0]), Spots(("parts", 0, 1)).within(SALES.free)]
+['(p) if +item(o, p), +order(o, b)', True]
+"""
+ANSWERS = """
+>>> [answers(SALES, "bought", DAY), answers(SALES, "bought", DAY, living=True), SALES(DAY)["towns"]]
+[((10, 100), (20, 100), (30, 100)), ((10, 100), (20, 100)), ((10,), (20,), (30,))]
+>>> told = numbers(SALES, "parts", DAY) - numbers(SALES, "parts", DAY, living=True)
+>>> [str(told), str(2 * told + Tally({(7,): 1})), told[(100,)], told.within(numbers(SALES, "parts", DAY)), (200,) in told, bool(told - told)]
+['(100) * 1', '(7) * 1, (100) * 2', 1, True, False, False]
+>>> list(matches(SHOP, SALES["parts"][0], DAY))
+[(((5, 100), True), ((5, 1), True)), (((5, 100), True), ((5, 3), False)), (((6, 100), True), ((6, 2), True))]
 """
 
 
@@ -104,8 +132,14 @@ class Examples(Case):
     def test_returns(self):
         self.check(RETURNS)
 
-    def test_places(self):
-        self.check(PLACES)
+    def test_places_and_rules(self):
+        self.check(PLACES_AND_RULES)
+
+    def test_programs(self):
+        self.check(PROGRAMS)
+
+    def test_answers(self):
+        self.check(ANSWERS)
 
 
 if __name__ == "__main__":

@@ -3,6 +3,10 @@
 import unittest
 
 from goneunseen.ask.places import Place
+from goneunseen.ask.programs import Program
+from goneunseen.ask.rules import Rule
+from goneunseen.ask.spots import Spots
+from goneunseen.ask.tallies import Tally
 from goneunseen.base.bases import Base
 from goneunseen.errors import InvalidRow, KeyTaken, TooMany
 from goneunseen.scheme.schemes import Scheme
@@ -17,6 +21,11 @@ DAY = Base(
     SHOP,
     living={"buyer": ((1, 10), (2, 20)), "order": ((5, 1), (6, 2)), "item": ((5, 100), (6, 100))},
     gone={"buyer": ((3, 30),), "order": ((5, 3), (7, 3)), "item": ((5, 200),)})
+SALES = Program(
+    SHOP,
+    bought=Rule(("t", "p"), Place("order", "o", "b"), Place("buyer", "b", "t"), +Place("item", "o", "p")),
+    parts=Rule(("p",), +Place("item", "o", "p"), Place("order", "o", "b")),
+    towns=Rule(("t",), Place("bought", "t", "p")))
 
 # The greatest integer of rows and terms, and the first one that is too great.
 GREAT = 10 ** 20 - 1
@@ -42,7 +51,10 @@ def wrong_values():
         {(): ()}, {True: True}, nested(0, lambda value: (value,)), nested((), lambda value: [value]),
         nested({}, lambda value: {"a": value}), nested((1, 10), lambda value: (value, [value])),
         SHOP, DAY, Table("a", 1), Store(SHOP), Place("a", "x"), InvalidRow("no"), KeyTaken((1, 10)), TooMany(1),
-        (SHOP,), [DAY], {"buyer": Table("buyer", 2)}, ("put", "buyer", SHOP), (Place("a", "x"), Store(SHOP)),
+        Rule((), Place("a", "x")), Rule(("x",), Place("a", "x"), without=((Place("b", "x"),),)), SALES, Spots(),
+        Spots(("bought", 0, 0)), Tally(), Tally({(1,): 1}), ("bought", 0, 0), ("bought", True, 0), ("bought", 0, -1),
+        ("bought", 0), (("bought", 0, 0),), {(1,): 1}, {(1,): True}, {(True,): 1}, {"v": Rule((), Place("buyer", "b", "t"))},
+        (Rule((), Place("buyer", "b", "t")),), (Place("buyer", "b", "t"),), (SHOP,), [DAY], {"buyer": Table("buyer", 2)}, ("put", "buyer", SHOP), (Place("a", "x"), Store(SHOP)),
     ]
 
 
