@@ -14,6 +14,10 @@ from goneunseen.ask.rules import Rule, tables_fit
 from goneunseen.ask.spots import Spots
 from goneunseen.ask.tallies import Tally
 from goneunseen.base.bases import Base
+from goneunseen.frozen.cores import core, is_core, unreferred
+from goneunseen.frozen.derivations import derivation, is_derivation, rows_behind
+from goneunseen.frozen.folds import match_of
+from goneunseen.frozen.frozen import carried, frozen, is_frozen
 from goneunseen.scheme.schemes import Scheme
 from goneunseen.scheme.tables import Table
 from goneunseen.store.histories import history_to, is_history, is_history_to, run, steps
@@ -27,7 +31,9 @@ KNOWN = {
     "is_return": is_return, "is_tight_return": is_tight_return, "is_hindrance": is_hindrance, "Place": Place,
     "row_at": row_at, "fits": fits, "Rule": Rule, "tables_fit": tables_fit, "SALES": SALES, "Program": Program, "Spots": Spots,
     "unfolded": unfolded, "origins": origins, "below": below, "Tally": Tally, "answers": answers, "numbers": numbers,
-    "matches": matches}
+    "matches": matches, "frozen": frozen, "is_frozen": is_frozen, "carried": carried, "rows_behind": rows_behind,
+    "derivation": derivation, "is_derivation": is_derivation, "match_of": match_of, "core": core, "is_core": is_core,
+    "unreferred": unreferred}
 
 TABLES_AND_SCHEMES = """
 >>> [SHOP.names, SHOP["order"].refers, SHOP["order"].told((5, 1), 0), SHOP["buyer"].key_of((1, 10)), "buyers" in SHOP]
@@ -96,6 +102,36 @@ ANSWERS = """
 >>> list(matches(SHOP, SALES["parts"][0], DAY))
 [(((5, 100), True), ((5, 1), True)), (((5, 100), True), ((5, 3), False)), (((6, 100), True), ((6, 2), True))]
 """
+FROZEN = """
+>>> base, places, head = frozen(SHOP, SALES["parts"][0])
+>>> [base.size, [len(base.living(name)) for name in SHOP.names], [is_living for row, is_living in places], sum(base.gone("order").values())]
+[4, [1, 1, 1], [True, False], 1]
+>>> rule = (SALES + Spots(("bought", 0, 0)))["bought"][0] & +Place("order", "o", 7)
+>>> base, places, head = frozen(SHOP, rule, avoid=(0, 1))
+>>> [places[1][0][0], places[1][1], places[0] == places[3], head[0] == places[1][0][1], base.size]
+[7, True, True, True, 3]
+>>> value = frozen(SHOP, SALES["parts"][0])
+>>> [carried(SHOP, SALES["parts"][0], value, DAY, match)[value[2][0]] for match in matches(SHOP, SALES["parts"][0], DAY)]
+[100, 100, 100]
+"""
+DERIVATIONS = """
+>>> rows_behind(SHOP, SALES["parts"][0], (("refers", 0, 0),))
+(('item', ('o', 'p'), True), ('order', ('o', 'b'), False), ('order', ('o', '1'), True))
+>>> is_derivation(SALES, "parts", 0, ((("refers", 0, 0),), ("fold", 0, (0, 2))))
+True
+>>> filtered = SALES + Spots(("bought", 0, 0))
+>>> right = ((("refers", 0, 0), ("same", 1, 3)), ("living",))
+>>> [is_derivation(filtered, "bought", 0, right, mode=mode) for mode in ("answers", "numbers")] + [is_derivation(SALES, "bought", 0, right)]
+[True, True, False]
+"""
+CORES = """
+>>> [match_of(SHOP, SALES["parts"][0], DAY, (100,), living=True) is None, match_of(SHOP, SALES["parts"][0], DAY, (200,), living=True)]
+[False, None]
+>>> rule = Rule(("o",), Place("item", "o", "p"), Place("item", "o", "q"))
+>>> (base, places, head), fold, rows = core(SHOP, rule)
+>>> [base.size, [table for table, row in rows], [table for table, row in unreferred(SHOP, rows)], fold[head[0]] == head[0]]
+[4, ['buyer', 'order', 'item'], ['item'], True]
+"""
 
 
 class Examples(Case):
@@ -140,6 +176,15 @@ class Examples(Case):
 
     def test_answers(self):
         self.check(ANSWERS)
+
+    def test_frozen(self):
+        self.check(FROZEN)
+
+    def test_derivations(self):
+        self.check(DERIVATIONS)
+
+    def test_cores(self):
+        self.check(CORES)
 
 
 if __name__ == "__main__":

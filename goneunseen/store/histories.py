@@ -36,7 +36,7 @@ def steps(scheme, history):
 
 def is_history(scheme, value):
     """Whether the value is a history of the scheme."""
-    return _end_of(Base.empty(scheme), value) is not None
+    return end_of(Base.empty(scheme).scheme, value) is not None
 
 
 def history_to(base):
@@ -59,7 +59,7 @@ def is_history_to(base, value):
     """Whether the value is a history that leads to the base."""
     if not isinstance(base, Base):
         raise InvalidBase("no base")
-    return _end_of(Base.empty(base.scheme), value) == base
+    return end_of(base.scheme, value) == base
 
 
 def _check_form(history):
@@ -74,12 +74,12 @@ def _behind_step(base, command, index):
         raise Stopped(index) from refusal
 
 
-def _end_of(base, value):
-    """The base to which the value leads from an empty base, or None if it is no history."""
+def end_of(scheme, value):
+    """The base to which the value leads, or None if it is no history of the scheme."""
     if not has_history_form(value):
         return None
     try:
-        return run(base.scheme, value)
+        return run(scheme, value)
     except Stopped:
         return None
 

@@ -1,0 +1,1 @@
+"""Whether programs are faithful, and the papers that show it."""

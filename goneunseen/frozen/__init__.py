@@ -1,0 +1,1 @@
+"""Frozen rules, derivations, matches of one answer, and cores."""
