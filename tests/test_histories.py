@@ -10,7 +10,7 @@ from goneunseen.errors import (
 from goneunseen.scheme.schemes import Scheme
 from goneunseen.scheme.tables import Table
 from goneunseen.store.histories import history_to, is_history, is_history_to, run, steps
-from tests.oracle import random_command, random_model, some_schemes
+from tests.oracle import Model, random_command, random_model, some_schemes
 from tests.values import DAY, SHOP, Case, wrong_but, wrong_values
 
 PLAIN = Scheme(Table("a", 1), Table("b", 2))
@@ -98,6 +98,41 @@ class Runs(Case):
         self.assertIs(is_history_to(run(PLAIN, LONG[:2000]), LONG[:2000]), True)
         self.assertIs(is_history_to(run(PLAIN, LONG[:1]), LONG[:2001]), False)
 
+    def test_long_histories(self):
+        dice = random.Random(19)
+        for scheme in some_schemes():
+            for span in (1, 4):
+                model, done = random_model(dice, scheme, 6000, span)
+                history = done[:2000]
+                self.assertIs(is_history(scheme, history), True)
+                model, at = Model(scheme), -1
+                for at, base in enumerate(steps(scheme, history)):
+                    model.do(history[at])
+                    if at < 50 or at > len(history) - 50:
+                        self.assertTrue(model.agrees(base))
+                        self.assertEqual(base, run(scheme, history[:at + 1]))
+                        self.assertIs(is_history_to(base, history[:at + 1]), True)
+                self.assertEqual(at, len(history) - 1)
+                for _ in range(30):
+                    command = random_command(dice, scheme, span)
+                    refusal = model.refusal(command)
+                    self.assertIs(is_history(scheme, history[:1999] + (command,)), model_accepts(scheme, history[:1999], command))
+                    if refusal is not None and len(history) < 2000:
+                        raised = self.refused(Stopped, run, scheme, history + (command,))
+                        self.assert_same(raised.index, len(history))
+                        self.assertIs(type(raised.__cause__), refusal[0])
+
+    def test_bases_that_were_told_do_not_change(self):
+        dice = random.Random(20)
+        for scheme in some_schemes():
+            _, history = random_model(dice, scheme, 200)
+            told = []
+            for base in steps(scheme, history):
+                told.append((base, {name: (base.living(name), base.gone(name)) for name in scheme.names}))
+            for at, (base, rows) in enumerate(told):
+                self.assertEqual({name: (base.living(name), base.gone(name)) for name in scheme.names}, rows)
+                self.assertEqual(base, run(scheme, history[:at + 1]))
+
     def test_is_history_takes_every_value(self):
         self.assertIs(is_history(SHOP, ()), True)
         self.assertIs(is_history(PLAIN, (PUT, TAKE)), True)
@@ -105,6 +140,13 @@ class Runs(Case):
             self.assertIs(is_history(PLAIN, value), False)
         for value in wrong_but(()):
             self.assertIs(is_history(SHOP, value), False)
+
+
+def model_accepts(scheme, history, command):
+    model = Model(scheme)
+    for one in history:
+        model.do(one)
+    return model.refusal(command) is None
 
 
 class HistoriesTo(Case):

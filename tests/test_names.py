@@ -18,7 +18,7 @@ class Names(Case):
 
     def test_names_are_one_to_eight_lowercase_letters(self):
         self.holds(is_name, *string.ascii_lowercase, "abcdefgh", "stuvwxyz", "self", "aa")
-        self.fails(is_name, "", "abcdefghi", "A", "aB", "a1", "a_b", "a b", " a", "a\n", "1", "-", "`", "{")
+        self.fails(is_name, "", "abcdefghi", "A", "aB", "a1", "a_b", "a b", " a", "a\n", "1", "-", "`", "{", "\u00e9", "a\u00df")
         self.fails(is_name, None, True, 1, ("a",), ["a"], {"a": 1}, ())
 
     def test_integers_have_at_most_twenty_digits_and_are_no_booleans(self):

@@ -251,6 +251,16 @@ class Judges(Case):
             self.assertIs(is_return(more, "item", (5, 100), commands), True)
             self.assertIs(is_tight_return(more, "item", (5, 100), commands), False)
         self.assertIs(is_return(more, "item", (5, 100), (BUYER, ORDER, ITEM, spare)), False)
+        for word in ("put", "take", "purge"):
+            for row in ((8, 80), (3, 30), (9, 90)):
+                self.assertIs(is_return(more, "item", (5, 100), ((word, "buyer", row), BUYER, ORDER, ITEM)), False)
+                self.assertIs(is_tight_return(more, "item", (5, 100), (BUYER, ORDER, (word, "buyer", row), ITEM)), False)
+        for other in (("back", "nosuch", (8, 80)), ("back", "buyer", (8,)), ("back", "buyer", (8, 80, 0)), ("back", "buyer", (8, 81))):
+            self.assertIs(is_return(more, "item", (5, 100), (other, BUYER, ORDER, ITEM)), False)
+            self.assertIs(is_tight_return(more, "item", (5, 100), (BUYER, ORDER, other, ITEM)), False)
+        living = Base(SHOP, living={"buyer": ((3, 30),)}, gone={"order": ((5, 3),)})
+        self.assertIs(is_return(living, "order", (5, 3), (ORDER,)), True)
+        self.assertIs(is_return(living, "order", (5, 3), (BUYER, ORDER)), False)
 
     def test_copies_of_the_same_row_come_back_once(self):
         base = Base(Scheme(Table("a", 1)), gone={"a": ((1,), (1,), (2,))})
@@ -311,6 +321,45 @@ class Judges(Case):
         self.assertGreater(found.count((True, False)), 50)
         self.assertGreater(found.count((False, True)), 50)
         self.assertEqual(found.count((True, True)), 0)
+
+    def test_long_returns(self):
+        dice = random.Random(37)
+        found = []
+        for scheme in some_schemes():
+            for _ in range(40):
+                base = run(scheme, random_model(dice, scheme, 60)[1])
+                if dice.random() < 0.5:
+                    base = Base(scheme, gone={name: base.living(name) + tuple(base.gone(name)) for name in scheme.names})
+                gone = [(name, row) for name in scheme.names for row in base.gone(name)]
+                for name, row in gone[-4:]:
+                    # All that is accepted one after another, and what is left of it without some commands.
+                    commands = ()
+                    for pair in [pair for pair in gone if dice.random() < 0.8 and pair != (name, row)] + [(name, row)]:
+                        if brings_back(base, commands + (("back", *pair),)):
+                            commands += (("back", *pair),)
+                    word, what = return_paper(base, name, row)
+                    less = [tuple(command for command in commands if dice.random() < 0.8) for _ in range(3)]
+                    for some in [commands, *less] + [what] * (word == "back"):
+                        right, tight = judged_return(base, name, row, some), judged_tight(base, name, row, some)
+                        self.assertIs(is_return(base, name, row, some), right)
+                        self.assertIs(is_tight_return(base, name, row, some), tight)
+                        found.append((right, tight, len(some) > 2))
+        self.assertGreater(found.count((True, True, True)), 10)
+        self.assertGreater(found.count((True, False, True)), 50)
+        self.assertGreater(found.count((False, False, True)), 50)
+
+    def test_a_hundred_rows_come_back(self):
+        scheme = Scheme(
+            Table("a", 2, key=(0,)), Table("b", 2, key=(0,), refers=(((1,), "a"),)),
+            Table("c", 2, key=(0,), refers=(((1,), "b"),)), Table("d", 2, refers=(((0,), "c"), ((1,), "c"))))
+        rows = tuple((number, number) for number in range(25))
+        base = Base(scheme, gone={name: rows for name in "abcd"})
+        commands = tuple(("back", name, row) for name in "abcd" for row in rows)
+        self.assertIs(is_return(base, "d", (24, 24), commands), True)
+        self.assertIs(is_tight_return(base, "d", (24, 24), commands), False)
+        self.assertIs(is_return(base, "d", (24, 24), commands[1:]), False)
+        self.assertIs(is_tight_return(base, "d", (24, 24), commands[24::25]), True)
+        self.assertEqual(return_paper(base, "d", (7, 7)), ("back", commands[7::25]))
 
     def some_reason(self, dice, base, name, row):
         references = len(base.scheme[name].refers)

@@ -440,6 +440,44 @@ class Modelled(Case):
                 self.assertTrue(model.agrees(store.base), command)
                 self.assertEqual(len(store), model.size)
 
+    def test_random_tries(self):
+        dice = random.Random(13)
+        ends = []
+        for scheme in some_schemes():
+            for _ in range(60):
+                model, done = random_model(dice, scheme, 40)
+                store = filled(scheme, *done)
+                commands = [random_command(dice, scheme) for _ in range(dice.choice((1, 6, 20)))]
+                # Often so many as are accepted.
+                fair, twin = [], model.twin()
+                for command in commands:
+                    if twin.refusal(command) is None or dice.random() < 0.05:
+                        fair.append(command)
+                        if twin.refusal(command) is None:
+                            twin.do(command)
+                end = None
+                for index, command in enumerate(fair):
+                    if model.refusal(command) is not None:
+                        end = index
+                        break
+                    model.do(command)
+                before = store.base
+                base, index = store.tried(tuple(fair))
+                self.assertEqual(index, end)
+                self.assertTrue(model.agrees(base))
+                self.assertEqual(store.base, before)
+                ends.append((len(fair), end))
+        self.assertGreater(len([pair for pair in ends if pair[0] > 2 and pair[1] is None]), 20)
+        self.assertGreater(len([pair for pair in ends if pair[1] is not None]), 20)
+
+    def test_tries_with_keys_of_gone_rows(self):
+        for scope, refused in (("all", 0), ("living", None)):
+            scheme = Scheme(Table("a", 2, key=(0,), scope=scope))
+            store = filled(scheme, ("put", "a", (1, 1)), ("take", "a", (1, 1)))
+            self.assertEqual(store.tried((("put", "a", (1, 2)),))[1], refused)
+            self.assertEqual(store.tried((("purge", "a", (1, 1)), ("put", "a", (1, 2))))[1], None)
+            self.assertEqual(store.tried((("back", "a", (1, 1)), ("take", "a", (1, 1)), ("put", "a", (1, 2))))[1], 2 if scope == "all" else None)
+
     def test_random_takes_along(self):
         dice = random.Random(11)
         for scheme in some_schemes():

@@ -6,6 +6,14 @@ from goneunseen.scheme.schemes import Scheme, check_row, have_same_tables
 from goneunseen.scheme.tables import picked
 
 
+class Kept:
+    """Rows that are known to keep the rules of their scheme: dicts from its tables to what a base has of them."""
+
+    def __init__(self, living, gone):
+        self.living_rows = living
+        self.gone_rows = gone
+
+
 class Base:
     """Rows that keep the rules of their scheme; a base never changes."""
 
@@ -14,18 +22,10 @@ class Base:
     def __init__(self, scheme, *, living=None, gone=None):
         if not isinstance(scheme, Scheme):
             raise InvalidScheme("a base needs a scheme")
-        if not _are_rows(scheme, living) or _has_row_twice(living):
-            raise InvalidBase("the living rows are no dict from tables to tuples of different rows")
-        if not _are_rows(scheme, gone):
-            raise InvalidBase("the gone rows are no dict from tables to tuples of rows")
+        kept = living if isinstance(living, Kept) else _checked_rows(scheme, living, gone)
         self._scheme = scheme
-        self._living = {name: _sorted_rows(living, name) for name in scheme.names}
-        self._gone = {name: _counted(_sorted_rows(gone, name)) for name in scheme.names}
-        if self.size > Base.MAX_ROWS:
-            raise TooMany(Base.MAX_ROWS)
-        broken = [rule for rule in scheme.rules if _is_broken(self, rule)]
-        if broken:
-            raise BrokenRule(broken[0])
+        self._living = kept.living_rows
+        self._gone = kept.gone_rows
 
     @classmethod
     def empty(cls, scheme):
@@ -96,17 +96,40 @@ class Base:
         return f"base of {_how_many_living(self._living)} living rows, {_how_many_copies(self._gone)} copies"
 
 
-def with_rows(base, table, living, gone):
-    """The base in which this table has these rows instead.
+def base_of(scheme, living, gone):
+    """The base with the rows of dicts from the tables: lists of the living rows, and dicts of the gone ones.
 
-    It is not checked again, as a store makes many of them: the caller sees to it that they keep the rules.
+    It is not checked, as many of them are made: the caller sees to it that they keep the rules.
     """
-    result = Base.empty(base.scheme)
-    result._living = {name: base._living[name] for name in base._living}
-    result._living[table] = tuple(sorted(living))
-    result._gone = {name: base._gone[name] for name in base._gone}
-    result._gone[table] = {row: gone[row] for row in sorted(gone)}
-    return result
+    ascending = {name: tuple(sorted(living[name])) for name in living}
+    return Base(scheme, living=Kept(ascending, {name: _ascending(gone[name]) for name in gone}))
+
+
+def with_row(base, table, row, is_living, copies):
+    """The base in which a row is living or not, and has so many copies; it is not checked either."""
+    living, gone = base._living[table], base._gone[table]
+    if is_living != (row in living):
+        others = [other for other in living if other != row]
+        living = tuple(sorted([*others, row])) if is_living else tuple(others)
+    if copies != gone.get(row, 0):
+        gone = _counted_anew(gone, row, copies)
+    return Base(base._scheme, living=Kept({**base._living, table: living}, {**base._gone, table: gone}))
+
+
+def _checked_rows(scheme, living, gone):
+    """The rows of a base, if they are rows of the scheme and keep its rules."""
+    if not _are_rows(scheme, living) or _has_row_twice(living):
+        raise InvalidBase("the living rows are no dict from tables to tuples of different rows")
+    if not _are_rows(scheme, gone):
+        raise InvalidBase("the gone rows are no dict from tables to tuples of rows")
+    alive = {name: _sorted_rows(living, name) for name in scheme.names}
+    copies = {name: _counted(_sorted_rows(gone, name)) for name in scheme.names}
+    if _how_many_living(alive) + _how_many_copies(copies) > Base.MAX_ROWS:
+        raise TooMany(Base.MAX_ROWS)
+    broken = [rule for rule in scheme.rules if _is_broken(scheme, alive, copies, rule)]
+    if broken:
+        raise BrokenRule(broken[0])
+    return Kept(alive, copies)
 
 
 def _are_rows(scheme, value):
@@ -144,6 +167,18 @@ def _counted(rows):
     return counts
 
 
+def _ascending(counts):
+    return {row: counts[row] for row in sorted(counts)}
+
+
+def _counted_anew(counts, row, many):
+    """The counts, ascending, in which a row is counted otherwise."""
+    if many == 0:
+        return {other: counts[other] for other in counts if other != row}
+    changed = {**counts, row: many}
+    return changed if row in counts else _ascending(changed)
+
+
 def _with_copies(counts):
     """The list of the rows, each as often as it is counted."""
     return [row for row in counts for _ in range(counts[row])]
@@ -157,18 +192,14 @@ def _how_many_copies(gone):
     return sum([many for name in gone for many in gone[name].values()])
 
 
-def _is_broken(base, rule):
+def _is_broken(scheme, living, gone, rule):
     name = rule[1]
     if rule[0] == "refers":
-        return _lacks_target(base, name, rule[2], rule[3])
-    rows = list(base.living(name))
+        key = scheme[rule[3]].key
+        keys = {picked(row, key): True for row in living[rule[3]]}
+        return any([picked(row, rule[2]) not in keys for row in living[name]])
+    rows = list(living[name])
     if rule[0] == "all":
-        rows.extend(_with_copies(base.gone(name)))
-    columns = base.scheme[name].key
+        rows.extend(_with_copies(gone[name]))
+    columns = scheme[name].key
     return len(set([picked(row, columns) for row in rows])) < len(rows)
-
-
-def _lacks_target(base, name, columns, target):
-    key = base.scheme[target].key
-    keys = {picked(row, key): True for row in base.living(target)}
-    return any([picked(row, columns) not in keys for row in base.living(name)])

@@ -1,8 +1,8 @@
 """What may stand as a name, an integer, a term or a row."""
 
-_LETTERS = "abcdefghijklmnopqrstuvwxyz"
 _LONGEST_NAME = 8
 _TOO_GREAT = 100000000000000000000
+_TOO_SMALL = -100000000000000000000
 _WIDEST_ROW = 4
 
 
@@ -10,7 +10,7 @@ def is_name(value):
     """Whether the value is a name."""
     if not isinstance(value, str) or not 1 <= len(value) <= _LONGEST_NAME:
         return False
-    return all([letter in _LETTERS for letter in value])
+    return value.isascii() and value.isalpha() and value.islower()
 
 
 def is_whole(value):
@@ -21,7 +21,7 @@ def is_whole(value):
 
 def is_integer(value):
     """Whether the value is an integer of at most twenty digits."""
-    return is_whole(value) and -_TOO_GREAT < value < _TOO_GREAT
+    return is_whole(value) and _TOO_SMALL < value < _TOO_GREAT
 
 
 def is_term(value):
@@ -33,7 +33,11 @@ def is_row(value):
     """Whether the value is a row."""
     if not isinstance(value, tuple) or not 1 <= len(value) <= _WIDEST_ROW:
         return False
-    return all([is_integer(part) for part in value])
+    # Rows are looked at very often, so is_integer is written out here.
+    for part in value:
+        if not isinstance(part, int) or isinstance(part, bool) or not _TOO_SMALL < part < _TOO_GREAT:
+            return False
+    return True
 
 
 def is_row_of(value, width):

@@ -92,6 +92,9 @@ class Table:
 
 def picked(row, columns):
     """The tuple of what a row has in these columns."""
+    # Most keys have one column, and this is asked very often.
+    if len(columns) == 1:
+        return (row[columns[0]],)
     return tuple([row[column] for column in columns])
 
 

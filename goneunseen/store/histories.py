@@ -3,7 +3,8 @@
 from goneunseen.base.bases import Base
 from goneunseen.errors import GoneError, InvalidBase, InvalidHistory, Stopped, TooMany, UnknownName
 from goneunseen.scheme.tables import picked
-from goneunseen.store.commands import behind, is_command
+from goneunseen.store.commands import are_commands
+from goneunseen.store.ledger import Ledger
 
 _LONGEST = 2000
 _MOST_ROWS = 60
@@ -11,32 +12,34 @@ _MOST_ROWS = 60
 
 def has_history_form(value):
     """Whether the value is a tuple of so many commands as a history can have."""
-    if not isinstance(value, tuple) or len(value) > _LONGEST:
-        return False
-    return all([is_command(command) for command in value])
+    return isinstance(value, tuple) and len(value) <= _LONGEST and are_commands(value)
 
 
 def run(scheme, history):
     """The base to which the history leads."""
     base = Base.empty(scheme)
-    # Only the last base counts; the empty history leaves the empty one.
-    for base in steps(scheme, history):
-        pass
-    return base
+    _check_form(history)
+    ledger = Ledger(base)
+    for index, command in enumerate(history):
+        _do_step(ledger, command, index)
+    return ledger.base_now()
 
 
 def steps(scheme, history):
     """Yields the bases behind each command of the history."""
     base = Base.empty(scheme)
     _check_form(history)
+    ledger = Ledger(base)
     for index, command in enumerate(history):
-        base = _behind_step(base, command, index)
+        _do_step(ledger, command, index)
+        base = ledger.base_behind(base, command)
         yield base
 
 
 def is_history(scheme, value):
     """Whether the value is a history of the scheme."""
-    return end_of(Base.empty(scheme).scheme, value) is not None
+    base = Base.empty(scheme)
+    return has_history_form(value) and Ledger(base).refused_at(value) is None
 
 
 def history_to(base):
@@ -46,11 +49,12 @@ def history_to(base):
     if base.size > _MOST_ROWS:
         raise TooMany(_MOST_ROWS)
     names = base.scheme.names
+    tables = {table.name: (table.refers, table.key, table.width) for table in base.scheme}
     commands = []
     # Later tables come first, as the rows that a copy needs stand in earlier tables: none of them is gone by then.
     for name in reversed(list(names)):
         for row, many in base.gone(name).items():
-            commands.extend(_making_copy(base.scheme, name, row) * many)
+            commands.extend(_making_copy(tables, name, row) * many)
     commands.extend([("put", name, row) for name in names for row in base.living(name)])
     return tuple(commands)
 
@@ -67,9 +71,9 @@ def _check_form(history):
         raise InvalidHistory("no tuple of at most 2000 commands")
 
 
-def _behind_step(base, command, index):
+def _do_step(ledger, command, index):
     try:
-        return behind(base, command)
+        ledger.do(command)
     except (GoneError, UnknownName, TooMany) as refusal:
         raise Stopped(index) from refusal
 
@@ -78,36 +82,43 @@ def end_of(scheme, value):
     """The base to which the value leads, or None if it is no history of the scheme."""
     if not has_history_form(value):
         return None
-    try:
-        return run(scheme, value)
-    except Stopped:
+    ledger = Ledger(Base.empty(scheme))
+    if ledger.refused_at(value) is not None:
         return None
+    return ledger.base_now()
 
 
-def _making_copy(scheme, name, row):
+def _making_copy(tables, name, row):
     """The commands that make a copy of a row where no row is living, and leave nothing else."""
-    needed = _needed(scheme, name, row)
-    backwards = needed[::-1]
-    puts = [("put", table, other) for table, other in [*needed, (name, row)]]
-    takes = [("take", table, other) for table, other in [(name, row), *backwards]]
-    return puts + takes + [("purge", table, other) for table, other in backwards]
+    puts, takes, purges = [], [("take", name, row)], []
+    needed = _needed(tables, name, row)
+    for place in needed:
+        for other in needed[place]:
+            puts.append(("put", place, other))
+    for _, place, other in reversed(puts):
+        takes.append(("take", place, other))
+        purges.append(("purge", place, other))
+    return [*puts, ("put", name, row), *takes, *purges]
 
 
-def _needed(scheme, name, row):
-    """Rows to which a row refers, also through others, as pairs with their tables, earlier tables first."""
-    needed = {(name, row): True}
-    for table in reversed(list(scheme)):
-        rows = [other for place, other in needed if place == table.name]
-        told = [(target, picked(other, columns)) for other in rows for columns, target in table.refers]
-        for target, key in told:
-            needed[target, _row_with_key(scheme[target], key)] = True
-    del needed[name, row]
-    return [(place, other) for table in scheme.names for place, other in needed if place == table]
+def _needed(tables, name, row):
+    """The rows to which a row refers, also through others: a dict from all tables to dicts of their rows."""
+    needed = {place: {} for place in tables}
+    needed[name][row] = True
+    # References lead to earlier tables, so all rows of a table are found ahead of those to which they refer.
+    for place in reversed(list(tables)):
+        refers = tables[place][0]
+        for other in list(needed[place]):
+            for columns, target in refers:
+                needed[target][_row_with(tables[target], picked(other, columns))] = True
+    del needed[name][row]
+    return needed
 
 
-def _row_with_key(table, key):
-    """A row with this key; one key always gets the same row."""
-    parts = [0] * table.width
-    for column, part in zip(table.key, key):
+def _row_with(table, told):
+    """A row with the key that is told; one key always gets the same row."""
+    _, key, width = table
+    parts = [0] * width
+    for column, part in zip(key, told):
         parts[column] = part
     return tuple(parts)

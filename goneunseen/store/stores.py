@@ -4,7 +4,8 @@ from goneunseen.base.bases import Base
 from goneunseen.errors import InvalidCommand, InvalidNumber, InvalidOperation, NotGone, NotLiving, UnknownName
 from goneunseen.scheme.names import is_whole
 from goneunseen.scheme.schemes import check_row
-from goneunseen.store.commands import behind, behind_or_none, is_command, taken_along
+from goneunseen.store.commands import are_commands, is_command
+from goneunseen.store.ledger import Ledger
 
 
 class Store:
@@ -12,6 +13,7 @@ class Store:
 
     def __init__(self, scheme):
         self._base = Base.empty(scheme)
+        self._ledger = Ledger(self._base)
 
     @property
     def scheme(self):
@@ -25,6 +27,7 @@ class Store:
 
     def put(self, table, row):
         """Stores a new living row."""
+        check_row(self.scheme, table, row)
         return self._carry_out((("put", table, row),))
 
     def take(self, table, row, *, along=False):
@@ -36,10 +39,11 @@ class Store:
             return self._carry_out((("take", table, row),))
         if row not in self._base.living(table):
             raise NotLiving(row)
-        return self._carry_out(taken_along(self._base, table, row))
+        return self._carry_out(self._ledger.taken_along(table, row))
 
     def back(self, table, row):
         """Turns a copy into the living row."""
+        check_row(self.scheme, table, row)
         return self._carry_out((("back", table, row),))
 
     def purge(self, table, row, *, many=1):
@@ -81,15 +85,11 @@ class Store:
         """The base behind the commands up to the first refused one, and its index; the store stays as it is."""
         if not isinstance(commands, tuple):
             raise InvalidOperation("the commands are no tuple")
-        if not all([is_command(command) for command in commands]):
+        if not are_commands(commands):
             raise InvalidCommand("no command")
-        base = self._base
-        for index, command in enumerate(commands):
-            after = behind_or_none(base, command)
-            if after is None:
-                return base, index
-            base = after
-        return base, None
+        ledger = Ledger(self._base)
+        index = ledger.refused_at(commands)
+        return ledger.base_now(), index
 
     def __getitem__(self, at):
         is_living, copies = self._base[at]
@@ -115,11 +115,10 @@ class Store:
         return isinstance(other, Store) and self._base == other._base
 
     def _carry_out(self, commands):
-        """Does all commands, or none if one of them is refused."""
-        base = self._base
+        """Does the commands. Only the first of several can be refused, so that what is refused changes nothing."""
         for command in commands:
-            base = behind(base, command)
-        self._base = base
+            self._ledger.do(command)
+            self._base = self._ledger.base_behind(self._base, command)
         return commands
 
 
