@@ -32,6 +32,92 @@ def properties_and_methods():
     return found["property"], found["method"]
 
 
+OPERATORS = set(
+    "eq ne lt le gt ge str repr len bool contains getitem add sub mul rmul and or xor neg pos invert abs".split())
+MODIFYING = set("append clear extend insert pop remove reverse setdefault update add discard sort".split())
+MAKERS = {"list", "dict", "sorted"}
+
+
+def functions():
+    """All functions and methods by their bare names: lists of (file, function, the name of its class or None)."""
+    found = {}
+    for name, tree in TREES.items():
+        inside = {id(part): node.name for node in ast.walk(tree) if isinstance(node, ast.ClassDef) for part in node.body}
+        for node in ast.walk(tree):
+            if isinstance(node, ast.FunctionDef):
+                found.setdefault(node.name, []).append((name, node, inside.get(id(node))))
+    return found
+
+
+def quiet_functions():
+    """What properties and operators run: they themselves, and all that has the bare name of something that they call."""
+    known, classes = functions(), {node.name for _, node in nodes(ast.ClassDef)}
+    quiet, queue = {}, []
+    for name, places in known.items():
+        for place in places:
+            is_operator = name.startswith("__") and name.strip("_") in OPERATORS
+            if is_operator or "property" in [ast.unparse(word) for word in place[1].decorator_list]:
+                queue.append(place)
+    while queue:
+        place = queue.pop()
+        if id(place[1]) in quiet:
+            continue
+        quiet[id(place[1])] = place
+        for called in called_names(place[1]):
+            if called in classes:
+                queue += [other for other in known["__init__"] if other[2] == called]
+            elif not called.startswith("__"):
+                queue += known.get(called, ())
+    return list(quiet.values())
+
+
+def called_names(node):
+    calls = [part.func for part in ast.walk(node) if isinstance(part, ast.Call)]
+    return [func.id if isinstance(func, ast.Name) else func.attr for func in calls if isinstance(func, (ast.Name, ast.Attribute))]
+
+
+def own_lists(node):
+    """The local names that a function assigns nothing but lists and dicts which it creates."""
+    kinds = {}
+    for part in ast.walk(node):
+        if isinstance(part, ast.Assign):
+            for target in part.targets:
+                names = target.elts if isinstance(target, ast.Tuple) else [target]
+                values = part.value.elts if isinstance(target, ast.Tuple) and isinstance(part.value, ast.Tuple) else [part.value] * len(names)
+                for one, value in zip(names, values):
+                    if isinstance(one, ast.Name):
+                        is_call = isinstance(value, ast.Call) and isinstance(value.func, ast.Name) and value.func.id in MAKERS
+                        is_own = is_call or isinstance(value, (ast.List, ast.Dict, ast.ListComp))
+                        kinds.setdefault(one.id, []).append(is_own and not (isinstance(target, ast.Tuple) and not isinstance(part.value, ast.Tuple)))
+    return {name for name, are_own in kinds.items() if all(are_own)}
+
+
+def changes(node, is_init):
+    """What a function changes beside the lists and dicts that it creates, and what it calls that it is passed."""
+    own, found = own_lists(node), []
+    known = {arg.arg for arg in [*node.args.args, *node.args.kwonlyargs]}
+    known |= {part.id for part in ast.walk(node) if isinstance(part, ast.Name) and isinstance(part.ctx, ast.Store)}
+    for part in ast.walk(node):
+        if isinstance(part, (ast.Attribute, ast.Subscript)) and isinstance(part.ctx, (ast.Store, ast.Del)):
+            is_self = isinstance(part, ast.Attribute) and isinstance(part.value, ast.Name) and part.value.id == "self"
+            is_own = isinstance(part, ast.Subscript) and isinstance(part.value, ast.Name) and part.value.id in own
+            if not is_own and not (is_init and is_self):
+                found.append(part)
+        if isinstance(part, ast.AugAssign) and isinstance(part.target, ast.Name):
+            if not (isinstance(part.value, ast.Constant) and isinstance(part.value.value, int)):
+                found.append(part)
+        if isinstance(part, ast.Call) and isinstance(part.func, ast.Attribute) and part.func.attr in MODIFYING:
+            if not (isinstance(part.func.value, ast.Name) and part.func.value.id in own):
+                found.append(part)
+        if isinstance(part, ast.Call) and not isinstance(part.func, (ast.Name, ast.Attribute)):
+            found.append(part)
+        if isinstance(part, ast.Call) and isinstance(part.func, ast.Name) and part.func.id in known - {"cls"}:
+            found.append(part)
+        if isinstance(part, (ast.Yield, ast.YieldFrom, ast.Nonlocal)):
+            found.append(part)
+    return found
+
+
 class Language(unittest.TestCase):
     def check(self, found):
         self.assertEqual([f"{name} row {node.lineno}: {ast.unparse(node)}" for name, node in found], [])
@@ -45,6 +131,21 @@ class Language(unittest.TestCase):
                 self.assertTrue(all(" " <= letter <= "~" for letter in row), f"{name} row {index}")
         for name, node in nodes(ast.FunctionDef):
             self.assertLess(node.end_lineno - node.lineno, 40, f"{name} {node.name}")
+
+    def test_properties_and_operators_change_nothing(self):
+        self.check([
+            (name, part) for name, node, owner in quiet_functions() for part in changes(node, node.name == "__init__")])
+
+    def test_functions_have_names_of_their_own(self):
+        # What a property or an operator calls is looked up by its bare name, over the whole package.
+        for called, places in functions().items():
+            if [place for place in places if place[2] is None]:
+                self.assertEqual([place[0] for place in places[1:]], [], called)
+
+    def test_reversed_stands_over_lists(self):
+        self.check([
+            (name, node) for name, node in nodes(ast.Call) if isinstance(node.func, ast.Name) and node.func.id == "reversed"
+            and not (isinstance(node.args[0], ast.Call) and node.args[0].func.id in ("list", "tuple", "sorted", "range"))])
 
     def test_no_property_is_passed_as_key(self):
         self.check([

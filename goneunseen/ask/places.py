@@ -69,7 +69,7 @@ class Place:
         )
 
     def __str__(self):
-        return f"{_sign(self._filtered)}{self._source}({_joined(self._terms)})"
+        return f"{_sign(self._filtered)}{self._source}({_terms_text(self._terms)})"
 
 
 def row_at(place, numbers):
@@ -99,7 +99,7 @@ def _sign(filtered):
     return "+" if filtered else ""
 
 
-def _joined(terms):
+def _terms_text(terms):
     return ", ".join([str(term) for term in terms])
 
 

@@ -69,11 +69,11 @@ class Program:
         return {name: told_answers(unfolded(self, name), base, False) for name in self._views}
 
     def __add__(self, other):
-        _check_spots(self, other)
+        _check_spots_of(self, other)
         return Program(self._scheme, of=Named(_marked_views(self._views, other, True)))
 
     def __sub__(self, other):
-        _check_spots(self, other)
+        _check_spots_of(self, other)
         return Program(self._scheme, of=Named(_marked_views(self._views, other, False)))
 
     def __iter__(self):
@@ -127,7 +127,7 @@ def _check_view(program, name):
         raise UnknownName(name)
 
 
-def _check_spots(program, value):
+def _check_spots_of(program, value):
     if not isinstance(value, Spots) or not value.within(program.places):
         raise InvalidOperation("no spots of places of tables")
 

@@ -100,7 +100,7 @@ class Rule:
         )
 
     def __str__(self):
-        return f"({_joined(self._head)}) if {_joined(self._places)}{_without(self._parts)}"
+        return f"({_texts(self._head)}) if {_texts(self._places)}{_parts_text(self._parts)}"
 
 
 def tables_fit(scheme, rule):
@@ -147,9 +147,9 @@ def _renamed(place, names):
     return Place.of(place.source, _renamed_terms(place.terms, names), filtered=filtered)
 
 
-def _joined(parts):
+def _texts(parts):
     return ", ".join([str(part) for part in parts])
 
 
-def _without(parts):
-    return "".join([f" without {_joined(part)}" for part in parts])
+def _parts_text(parts):
+    return "".join([f" without {_texts(part)}" for part in parts])

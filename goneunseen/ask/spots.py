@@ -26,21 +26,21 @@ class Spots:
 
     def within(self, other):
         """Whether the other set has all these spots."""
-        _check_spots(other)
+        _check_is_spots(other)
         return all([spot in other._spots for spot in self._spots])
 
     def __or__(self, other):
-        _check_spots(other)
+        _check_is_spots(other)
         either = [*self._spots, *other._spots]
         return Spots(*either)
 
     def __and__(self, other):
-        _check_spots(other)
+        _check_is_spots(other)
         both = [spot for spot in self._spots if spot in other._spots]
         return Spots(*both)
 
     def __sub__(self, other):
-        _check_spots(other)
+        _check_is_spots(other)
         kept = [spot for spot in self._spots if spot not in other._spots]
         return Spots(*kept)
 
@@ -60,7 +60,7 @@ class Spots:
         return isinstance(other, Spots) and self._spots == other._spots
 
     def __str__(self):
-        return "".join(["{", ", ".join([_text(spot) for spot in self._spots]), "}"])
+        return "".join(["{", ", ".join([_spot_text(spot) for spot in self._spots]), "}"])
 
 
 def _is_spot(value):
@@ -69,11 +69,11 @@ def _is_spot(value):
     return all([is_whole(index) and index >= 0 for index in value[1:]])
 
 
-def _check_spots(value):
+def _check_is_spots(value):
     if not isinstance(value, Spots):
         raise InvalidOperation("no set of spots")
 
 
-def _text(spot):
+def _spot_text(spot):
     name, index, at = spot
     return f"{name} {index} {at}"

@@ -73,7 +73,7 @@ class Tally:
     def __str__(self):
         if not self._counts:
             return "none"
-        return ", ".join([_text(answer, self._counts[answer]) for answer in self._counts])
+        return ", ".join([_answer_text(answer, self._counts[answer]) for answer in self._counts])
 
 
 def _is_answer(value):
@@ -109,5 +109,5 @@ def _times(counts, many):
     return Tally(Counted({answer: many * counts[answer] for answer in counts}))
 
 
-def _text(answer, many):
+def _answer_text(answer, many):
     return "".join(["(", ", ".join([str(part) for part in answer]), f") * {many}"])

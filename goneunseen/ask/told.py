@@ -27,7 +27,7 @@ def told_numbers(rules, base, living):
     check_combinations(rules, base)
     counts = {}
     for rule in rules:
-        found = _counted(rule, base, living)
+        found = _counts_of_rule(rule, base, living)
         for answer in found:
             counts[answer] = counts.get(answer, 0) + found[answer]
     return {answer: counts[answer] for answer in sorted(counts)}
@@ -56,7 +56,7 @@ def _can_stand_for(place, row):
     return row == tuple([row[columns[term]] if term in columns else term for term in place.terms])
 
 
-def _counted(rule, base, living):
+def _counts_of_rule(rule, base, living):
     """A dict from the answers of a rule to their numbers.
 
     Place by place it keeps only the integers of those variables that stand in the head or in a later place, so that
@@ -65,7 +65,7 @@ def _counted(rule, base, living):
     names, counts = (), {(): 1}
     for at, place in enumerate(rule):
         later = [*rule.head, *[term for other in rule.places[at + 1:] for term in other.terms]]
-        names, counts = _joined(names, counts, place, _weights(place, base, living), later)
+        names, counts = _behind_place(names, counts, place, _weights(place, base, living), later)
     return _headed(rule.head, names, counts)
 
 
@@ -79,7 +79,7 @@ def _weights(place, base, living):
     return {row: weights[row] for row in weights if _can_stand_for(place, row)}
 
 
-def _joined(names, counts, place, weights, later):
+def _behind_place(names, counts, place, weights, later):
     """The names and the counts behind one place more: keys of the counts are the integers of the names."""
     columns = columns_of(place)
     known = [name for name in columns if name in names]

@@ -123,7 +123,7 @@ def _checked_rows(scheme, living, gone):
     if not _are_rows(scheme, gone):
         raise InvalidBase("the gone rows are no dict from tables to tuples of rows")
     alive = {name: _sorted_rows(living, name) for name in scheme.names}
-    copies = {name: _counted(_sorted_rows(gone, name)) for name in scheme.names}
+    copies = {name: _copies_of_rows(_sorted_rows(gone, name)) for name in scheme.names}
     if _how_many_living(alive) + _how_many_copies(copies) > Base.MAX_ROWS:
         raise TooMany(Base.MAX_ROWS)
     broken = [rule for rule in scheme.rules if _is_broken(scheme, alive, copies, rule)]
@@ -160,7 +160,7 @@ def _sorted_rows(rows, name):
     return tuple(sorted(rows.get(name, ())))
 
 
-def _counted(rows):
+def _copies_of_rows(rows):
     counts = {}
     for row in rows:
         counts[row] = counts.get(row, 0) + 1

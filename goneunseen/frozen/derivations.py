@@ -59,7 +59,7 @@ def is_right(scheme, rules, index, value, mode):
         return value[1] == ("empty",)
     if value[1] == ("living",):
         return _are_living(rules[index], rows)
-    return mode == "answers" and _is_fold(rules, index, rows, value[1])
+    return mode == "answers" and _is_fold_ending(rules, index, rows, value[1])
 
 
 def _checked_rules(program, name, index):
@@ -128,7 +128,7 @@ def _folded(rule, rows, head):
     return None if found is None else tuple([number for terms, number in found])
 
 
-def _is_fold(rules, index, rows, value):
+def _is_fold_ending(rules, index, rows, value):
     if len(value) != 3 or value[0] != "fold" or not isinstance(value[2], tuple):
         return False
     if not is_whole(value[1]) or not 0 <= value[1] < len(rules):

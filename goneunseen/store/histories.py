@@ -95,7 +95,7 @@ def _making_copy(tables, name, row):
     for place in needed:
         for other in needed[place]:
             puts.append(("put", place, other))
-    for _, place, other in reversed(puts):
+    for _, place, other in reversed(list(puts)):
         takes.append(("take", place, other))
         purges.append(("purge", place, other))
     return [*puts, ("put", name, row), *takes, *purges]

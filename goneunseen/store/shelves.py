@@ -91,7 +91,7 @@ class Shelf:
 
     def back(self, row):
         """Turns a copy into the living row."""
-        self._check_gone(row)
+        self._check_has_copy(row)
         key = picked(row, self._columns)
         # With the scope "all" no other gone row has the key of one that is gone, so the living ones are all that count.
         if key in self._living:
@@ -102,10 +102,10 @@ class Shelf:
 
     def purge(self, row):
         """Removes a copy."""
-        self._check_gone(row)
+        self._check_has_copy(row)
         self._drop_copy(row)
 
-    def _check_gone(self, row):
+    def _check_has_copy(self, row):
         if row not in self._gone:
             raise NotGone(row)
 
