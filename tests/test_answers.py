@@ -122,6 +122,17 @@ class Answers(Case):
         base = Base(PLAIN, living={"s": singles(100)})
         self.assertEqual(answers(program, "v", base), ())
 
+    def test_no_rows_of_one_table_and_many_of_others(self):
+        # One hundred million combinations of the others are no matter then.
+        rule = Rule(("a", "b", "c", "d"), *[Place("s", name) for name in "abcd"], Place("t", "x", "x"))
+        program = Program(PLAIN, v=rule)
+        base = Base(PLAIN, living={"s": singles(100)})
+        for living in (False, True):
+            self.assertEqual(answers(program, "v", base, living=living), ())
+            self.assertEqual(numbers(program, "v", base, living=living), Tally())
+            self.assertEqual(list(matches(PLAIN, rule, base, living=living)), [])
+        self.assertEqual(program(base), {"v": ()})
+
     def test_the_order_of_errors(self):
         huge = Base(PLAIN, living={"s": singles(100)})
         program = Program(PLAIN, v=Rule((), S, S, S))

@@ -147,6 +147,22 @@ class Language(unittest.TestCase):
             (name, node) for name, node in nodes(ast.Call) if isinstance(node.func, ast.Name) and node.func.id == "reversed"
             and not (isinstance(node.args[0], ast.Call) and node.args[0].func.id in ("list", "tuple", "sorted", "range"))])
 
+    def test_behind_stars_stand_plain_things(self):
+        properties, _ = properties_and_methods()
+
+        def is_plain(part):
+            if isinstance(part, ast.Attribute):
+                return isinstance(part.value, ast.Name) and part.attr not in properties
+            if isinstance(part, (ast.List, ast.Tuple)):
+                return all(is_plain(one) for one in part.elts)
+            return isinstance(part, (ast.Name, ast.Constant))
+        for name, node in nodes(ast.Call):
+            stars = [at for at, arg in enumerate(node.args) if isinstance(arg, ast.Starred)]
+            doubles = [word for word in node.keywords if word.arg is None]
+            if stars or doubles:
+                parts = [arg.value if isinstance(arg, ast.Starred) else arg for arg in node.args[stars[0] if stars else 0:]]
+                self.check([(name, part) for part in [*parts, *[word.value for word in node.keywords]] if not is_plain(part)])
+
     def test_no_property_is_passed_as_key(self):
         self.check([
             (name, node) for name, node in nodes(ast.Call) for word in node.keywords

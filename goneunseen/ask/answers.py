@@ -1,25 +1,26 @@
 """Answers of views, their numbers, and matches of rules."""
 
 from goneunseen.ask.arguments import check_base, check_living, check_table_rule
-from goneunseen.ask.programs import unfolded
+from goneunseen.ask.programs import outlines_of
+from goneunseen.ask.rules import outline_of
 from goneunseen.ask.tallies import Counted, Tally
-from goneunseen.ask.told import check_combinations, columns_of, pairs_for, told_answers, told_numbers
+from goneunseen.ask.told import check_product, columns_of, pairs_for, told_answers, told_numbers
 
 
 def answers(program, name, base, *, living=False):
     """The ascending tuple of the answers of a view."""
-    rules = unfolded(program, name)
+    outlines = outlines_of(program, name)
     check_base(program.scheme, base)
     check_living(living)
-    return told_answers(rules, base, living)
+    return told_answers(outlines, base, living)
 
 
 def numbers(program, name, base, *, living=False):
     """The tally of the answers of a view."""
-    rules = unfolded(program, name)
+    outlines = outlines_of(program, name)
     check_base(program.scheme, base)
     check_living(living)
-    return Tally(Counted(told_numbers(rules, base, living)))
+    return Tally(Counted(told_numbers(outlines, base, living)))
 
 
 def matches(scheme, rule, base, *, living=False):
@@ -27,38 +28,47 @@ def matches(scheme, rule, base, *, living=False):
     check_table_rule(scheme, rule)
     check_base(scheme, base)
     check_living(living)
-    check_combinations((rule,), base)
-    plans = _plans(rule, base, living)
-    for found in _from_place(plans, 0, {}):
-        yield found
+    _, triples = outline_of(rule)
+    check_product(base, triples)
+    plans = _plans(base, triples, living)
+    found = _beginnings(plans)
+    spots, buckets = plans[-1]
+    for values, pairs in found:
+        for pair, _ in buckets.get(tuple([values[at] for at in spots]), ()):
+            yield pairs + (pair,)
 
 
-def _plans(rule, base, living):
-    """For each place how its pairs are found.
+def _plans(base, triples, living):
+    """For each place how its pairs are found, if places before it have some.
 
-    The names that earlier places know; a dict from their integers to the pairs; and the other names with their columns.
+    Where in their values those of its variables stand that are known by then, and a dict from such values to its pairs,
+    each with the values that it adds.
     """
-    plans, names = [], {}
-    for place in rule:
-        columns = columns_of(place)
-        known = [name for name in columns if name in names]
-        more = [(name, columns[name]) for name in columns if name not in names]
+    plans, names = [], []
+    for triple in triples:
+        columns = columns_of(triple[1])
+        more = [name for name in columns if name not in names]
+        known = [columns[name] for name in names if name in columns]
+        added = [columns[name] for name in more]
         buckets = {}
-        for pair in pairs_for(place, base, living):
-            buckets.setdefault(tuple([pair[0][columns[name]] for name in known]), []).append(pair)
-        plans.append((known, buckets, more))
-        names.update(columns)
+        for pair in pairs_for(base, triple, living):
+            key = tuple([pair[0][column] for column in known])
+            buckets.setdefault(key, []).append((pair, tuple([pair[0][column] for column in added])))
+        plans.append(([at for at, name in enumerate(names) if name in columns], buckets))
+        names.extend(more)
     return plans
 
 
-def _from_place(plans, at, values):
-    """Yields the ends of matches from the place with this index on, if its variables have these integers."""
-    if at == len(plans):
-        yield ()
-    else:
-        known, buckets, more = plans[at]
-        after = at + 1
-        for pair in buckets.get(tuple([values[name] for name in known]), ()):
-            found = {**values, **{name: pair[0][column] for name, column in more}}
-            for rest in _from_place(plans, after, found):
-                yield (pair, *rest)
+def _beginnings(plans):
+    """The list of the pairs that matches can have at all places but the last one, behind their values, ascending."""
+    # Where a place has no pairs at all, there is no end to what the others could have together.
+    if not all([bool(buckets) for _, buckets in plans]):
+        return []
+    found = [((), ())]
+    for spots, buckets in plans[:-1]:
+        longer = []
+        for values, pairs in found:
+            for pair, more in buckets.get(tuple([values[at] for at in spots]), ()):
+                longer.append((values + more, pairs + (pair,)))
+        found = longer
+    return found

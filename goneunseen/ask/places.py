@@ -1,5 +1,6 @@
 """Places: a table or a view with terms, and the rows for which they stand."""
 
+from goneunseen.ask.sound import Sound
 from goneunseen.errors import InvalidOperation, InvalidPlace, InvalidRow
 from goneunseen.scheme.names import is_integer, is_name, is_row_of, is_term
 
@@ -10,15 +11,13 @@ class Place:
     """A place of a query, filtered or free; a place never changes."""
 
     def __init__(self, source, *terms, filtered=False):
-        if not is_name(source):
-            raise InvalidPlace("a place needs the name of a table or of a view")
-        if not 1 <= len(terms) <= _MOST_TERMS or not all([is_term(term) for term in terms]):
-            raise InvalidPlace("a place has one to four terms")
-        if not isinstance(filtered, bool):
-            raise InvalidPlace("filtered is a boolean")
         self._source = source
         self._terms = terms
-        self._filtered = filtered
+        if isinstance(filtered, Sound):
+            self._filtered = filtered.worth
+        else:
+            self._filtered = filtered
+            _check_parts(source, terms, filtered)
 
     @classmethod
     def of(cls, source, terms, *, filtered=False):
@@ -45,17 +44,16 @@ class Place:
     @property
     def variables(self):
         """The variables among the terms, ascending."""
-        return tuple(sorted(set([term for term in self._terms if is_name(term)])))
+        return tuple(sorted(set([term for term in self._terms if isinstance(term, str)])))
 
     def __pos__(self):
-        return Place(self._source, *self._terms, filtered=True)
+        return _place_with(self._source, self._terms, Sound(True))
 
     def __neg__(self):
-        return Place(self._source, *self._terms)
+        return _place_with(self._source, self._terms, Sound(False))
 
     def __invert__(self):
-        other = not self._filtered
-        return Place(self._source, *self._terms, filtered=other)
+        return _place_with(self._source, self._terms, Sound(not self._filtered))
 
     def __len__(self):
         return len(self._terms)
@@ -70,6 +68,17 @@ class Place:
 
     def __str__(self):
         return f"{_sign(self._filtered)}{self._source}({_terms_text(self._terms)})"
+
+
+def triples_of(places):
+    """For each place the triple of its source, its terms and whether it is filtered: most work is done on these."""
+    return tuple([(place._source, place._terms, place._filtered) for place in places])
+
+
+def places_of(triples):
+    """The places with these triples, which come from other places."""
+    marks = {True: Sound(True), False: Sound(False)}
+    return [_place_with(source, terms, marks[filtered]) for source, terms, filtered in triples]
 
 
 def row_at(place, numbers):
@@ -95,12 +104,25 @@ def fits(place, row, numbers):
     return {name: found[name] for name in sorted(found)}
 
 
+def _place_with(source, terms, mark):
+    return Place(source, *terms, filtered=mark)
+
+
 def _sign(filtered):
     return "+" if filtered else ""
 
 
 def _terms_text(terms):
     return ", ".join([str(term) for term in terms])
+
+
+def _check_parts(source, terms, filtered):
+    if not is_name(source):
+        raise InvalidPlace("a place needs the name of a table or of a view")
+    if not 1 <= len(terms) <= _MOST_TERMS or not all([is_term(term) for term in terms]):
+        raise InvalidPlace("a place has one to four terms")
+    if not isinstance(filtered, bool):
+        raise InvalidPlace("filtered is a boolean")
 
 
 def _check_place(place):

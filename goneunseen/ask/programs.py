@@ -1,10 +1,11 @@
 """Programs: views over the tables of a scheme and over earlier views."""
 
 from goneunseen.ask.arguments import check_base
-from goneunseen.ask.rules import Rule
-from goneunseen.ask.spots import Spots
+from goneunseen.ask.rules import Rule, rule_of
+from goneunseen.ask.sound import Sound
+from goneunseen.ask.spots import Spots, spots_of
 from goneunseen.ask.told import told_answers
-from goneunseen.ask.unfolding import unfolded_views
+from goneunseen.ask.unfolding import marked_outlines, outlined_views, sketched_views
 from goneunseen.errors import InvalidOperation, InvalidProgram, InvalidScheme, UnknownName
 from goneunseen.scheme.names import is_name
 from goneunseen.scheme.schemes import Scheme, have_same_tables
@@ -26,9 +27,17 @@ class Program:
     def __init__(self, scheme, **views):
         if not isinstance(scheme, Scheme):
             raise InvalidScheme("a program needs a scheme")
+        given = views.get("of")
         self._scheme = scheme
-        self._views = _checked_views(scheme, _passed_views(views))
-        self._unfolded = unfolded_views(self._views)
+        if isinstance(given, Sound):
+            # They come from another program, whose tables are as wide.
+            self._views, self._sketches, self._outlines = given.worth
+        else:
+            self._views = _checked_views(scheme, given.views if isinstance(given, Named) else views)
+            self._sketches = sketched_views(self._views)
+            # The outlines of all views, and the unfolded rules of a view, are made when they are asked for first.
+            self._outlines = {}
+        self._unfolded = {}
 
     @classmethod
     def of(cls, scheme, views):
@@ -48,13 +57,12 @@ class Program:
     @property
     def places(self):
         """The spots of all places of tables."""
-        return _spots_in(self._scheme, self._views, self._views)
+        return spots_of([spot for spot, _ in _table_places(self._views, self._views)])
 
     @property
     def free(self):
         """The spots of all free places of tables."""
-        spots = [spot for spot in self.places if not _place_at(self._views, spot).filtered]
-        return Spots(*spots)
+        return spots_of([spot for spot, place in _table_places(self._views, self._views) if not place.filtered])
 
     def under(self, scheme):
         """The same program with another scheme."""
@@ -62,19 +70,17 @@ class Program:
             raise InvalidScheme("no scheme")
         if not have_same_tables(self._scheme, scheme):
             raise InvalidOperation("the scheme has other tables")
-        return Program.of(scheme, self._views)
+        return Program(scheme, of=Sound((self._views, self._sketches, self._outlines)))
 
     def __call__(self, base):
         check_base(self._scheme, base)
-        return {name: told_answers(unfolded(self, name), base, False) for name in self._views}
+        return {name: told_answers(outlines_of(self, name), base, False) for name in self._views}
 
     def __add__(self, other):
-        _check_spots_of(self, other)
-        return Program(self._scheme, of=Named(_marked_views(self._views, other, True)))
+        return _marked_program(self, other, True)
 
     def __sub__(self, other):
-        _check_spots_of(self, other)
-        return Program(self._scheme, of=Named(_marked_views(self._views, other, False)))
+        return _marked_program(self, other, False)
 
     def __iter__(self):
         raise TypeError("a program cannot be iterated over")
@@ -98,14 +104,23 @@ class Program:
 
 def unfolded(program, name):
     """The unfolded rules of a view."""
-    _check_view(program, name)
-    return tuple([rule for rule, spots in program._unfolded[name]])
+    outlines = outlines_of(program, name)
+    if name not in program._unfolded:
+        program._unfolded[name] = tuple([rule_of(head, triples) for head, triples, _ in outlines])
+    return program._unfolded[name]
 
 
 def origins(program, name):
     """For each unfolded rule of a view the spots from which its places come."""
+    return tuple([spots for _, _, spots in outlines_of(program, name)])
+
+
+def outlines_of(program, name):
+    """For each unfolded rule of a view the head, the triples of the places, and the spots from which they come."""
     _check_view(program, name)
-    return tuple([spots for rule, spots in program._unfolded[name]])
+    if not program._outlines:
+        program._outlines.update(outlined_views(program._views, program._sketches))
+    return tuple(program._outlines[name])
 
 
 def below(program, name):
@@ -113,11 +128,11 @@ def below(program, name):
     _check_view(program, name)
     used = {name: True}
     # A view uses only earlier ones, so all that use one have been seen before it.
-    for view in reversed(list(program.names)):
+    for view in reversed(list(program._views)):
         if view in used:
-            for source in [place.source for rule in program[view] for place in rule]:
-                used[source] = True
-    return _spots_in(program.scheme, program._views, used)
+            for rule in program._views[view]:
+                used.update({place.source: True for place in rule})
+    return spots_of([spot for spot, _ in _table_places(program._views, used)])
 
 
 def _check_view(program, name):
@@ -125,16 +140,6 @@ def _check_view(program, name):
         raise InvalidProgram("no program")
     if name not in program:
         raise UnknownName(name)
-
-
-def _check_spots_of(program, value):
-    if not isinstance(value, Spots) or not value.within(program.places):
-        raise InvalidOperation("no spots of places of tables")
-
-
-def _passed_views(views):
-    given = views.get("of")
-    return given.views if isinstance(given, Named) else views
 
 
 def _checked_views(scheme, views):
@@ -172,30 +177,40 @@ def _can_stand(scheme, earlier, place):
     return len(place) == len(earlier[place.source][0].head)
 
 
-def _spots_in(scheme, views, names):
-    """The spots of all places of tables in those of the views that have these names."""
-    spots = [
-        (name, index, at) for name in views if name in names for index, rule in enumerate(views[name])
-        for at, place in enumerate(rule) if place.source in scheme]
-    return Spots(*spots)
+def _table_places(views, names):
+    """The places of tables in those of the views that have these names, as pairs with their spots."""
+    return [
+        ((name, index, at), place) for name in views if name in names for index, rule in enumerate(views[name])
+        for at, place in enumerate(rule) if place.source not in views]
 
 
-def _place_at(views, spot):
+def _marked_program(program, spots, filtered):
+    """The program in which the places at these spots are filtered or free."""
+    views = program._views
+    if not isinstance(spots, Spots) or not all([_is_table_spot(views, spot) for spot in spots]):
+        raise InvalidOperation("no spots of places of tables")
+    wanted = {spot: True for spot in spots}
+    touched = {(name, index): True for name, index, _ in spots}
+    marked = {
+        name: tuple([
+            _marked_rule(name, index, rule, wanted, filtered) if (name, index) in touched else rule
+            for index, rule in enumerate(views[name])])
+        for name in views}
+    outlines = marked_outlines(program._outlines, wanted, filtered)
+    return Program(program._scheme, of=Sound((marked, program._sketches, outlines)))
+
+
+def _is_table_spot(views, spot):
     name, index, at = spot
-    return views[name][index][at]
-
-
-def _marked_views(views, spots, filtered):
-    return {name: _marked_rules(name, views[name], spots, filtered) for name in views}
-
-
-def _marked_rules(name, rules, spots, filtered):
-    return tuple([_marked_rule(name, index, rule, spots, filtered) for index, rule in enumerate(rules)])
+    if name not in views or index >= len(views[name]) or at >= len(views[name][index]):
+        return False
+    return views[name][index][at].source not in views
 
 
 def _marked_rule(name, index, rule, spots, filtered):
     places = [_marked(place, filtered) if (name, index, at) in spots else place for at, place in enumerate(rule)]
-    return Rule(rule.head, *places)
+    head, mark = rule.head, Sound(())
+    return Rule(head, *places, without=mark)
 
 
 def _marked(place, filtered):

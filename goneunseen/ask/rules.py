@@ -1,6 +1,7 @@
 """Rules: a head over places, perhaps without parts."""
 
-from goneunseen.ask.places import Place
+from goneunseen.ask.places import Place, places_of, triples_of
+from goneunseen.ask.sound import Sound
 from goneunseen.errors import InvalidNumber, InvalidOperation, InvalidRule, InvalidScheme
 from goneunseen.scheme.names import is_name, is_term, is_whole
 from goneunseen.scheme.schemes import Scheme
@@ -14,20 +15,16 @@ class Rule:
     """What holds if its places do, and none of its parts does; a rule never changes."""
 
     def __init__(self, head, *places, without=()):
-        _check_head(head)
-        _check_places(places, _MOST_PLACES)
-        if not isinstance(without, tuple) or len(without) > _MOST_PARTS:
-            raise InvalidRule("the parts are a tuple of at most three")
-        for part in without:
-            _check_places(part, _MOST_PLACES - len(places))
-        variables = _variables_of(places)
-        if not all([term in variables for term in head if is_name(term)]):
-            raise InvalidRule("a variable of the head stands in no place")
-        if without and not all([name in head for name in variables]):
-            raise InvalidRule("with parts, the head has all variables of the places")
         self._head = head
         self._places = places
-        self._parts = without
+        if isinstance(without, Sound):
+            self._parts = without.worth
+        else:
+            self._parts = without
+            _check_head(head)
+            _check_places(places, _MOST_PLACES)
+            _check_without(places, without)
+            _check_variables(head, places, without)
 
     @classmethod
     def of(cls, head, places, *, without=()):
@@ -59,13 +56,14 @@ class Rule:
     @property
     def variables(self):
         """The variables of the places, ascending."""
-        return _variables_of(self._places)
+        return tuple(sorted(set([term for term in _terms_in(self._places) if isinstance(term, str)])))
 
     @property
     def integers(self):
         """The integers in the head, the places and the parts, ascending."""
-        terms = [term for place in _all_places(self) for term in place.terms]
-        return tuple(sorted(set([term for term in [*self._head, *terms] if is_whole(term)])))
+        inside = [term for part in self._parts for term in _terms_in(part)]
+        terms = [*self._head, *_terms_in(self._places), *inside]
+        return tuple(sorted(set([term for term in terms if isinstance(term, int)])))
 
     def renamed(self, names):
         """The rule with other variables."""
@@ -109,7 +107,20 @@ def tables_fit(scheme, rule):
         raise InvalidScheme("no scheme")
     if not isinstance(rule, Rule):
         raise InvalidRule("no rule")
-    return all([place.source in scheme and len(place) == scheme[place.source].width for place in _all_places(rule)])
+    widths = {table.name: table.width for table in scheme}
+    inside = [place for part in rule._parts for place in part]
+    return all([len(terms) == widths.get(source) for source, terms, _ in triples_of([*rule._places, *inside])])
+
+
+def outline_of(rule):
+    """The head of a rule and the triples of its places: what is asked of many rules is asked of their outlines."""
+    return rule._head, triples_of(rule._places)
+
+
+def rule_of(head, triples):
+    """The rule without parts that has this outline, which comes from other rules."""
+    places, mark = places_of(triples), Sound(())
+    return Rule(head, *places, without=mark)
 
 
 def _check_head(head):
@@ -124,14 +135,24 @@ def _check_places(places, most):
         raise InvalidRule("one of the places is no place")
 
 
-def _variables_of(places):
-    return tuple(sorted(set([name for place in places for name in place.variables])))
+def _check_without(places, parts):
+    if not isinstance(parts, tuple) or len(parts) > _MOST_PARTS:
+        raise InvalidRule("the parts are a tuple of at most three")
+    for part in parts:
+        _check_places(part, _MOST_PLACES - len(places))
 
 
-def _all_places(rule):
-    """The places of a rule, and behind them those of its parts."""
-    inside = [place for part in rule.parts for place in part]
-    return [*rule.places, *inside]
+def _check_variables(head, places, parts):
+    terms = _terms_in(places)
+    if not all([term in terms for term in head if isinstance(term, str)]):
+        raise InvalidRule("a variable of the head stands in no place")
+    if parts and not all([term in head for term in terms if isinstance(term, str)]):
+        raise InvalidRule("with parts, the head has all variables of the places")
+
+
+def _terms_in(places):
+    """The terms of the places, as often as they stand there."""
+    return [term for _, terms, _ in triples_of(places) for term in terms]
 
 
 def _renamed_terms(terms, names):
@@ -139,12 +160,8 @@ def _renamed_terms(terms, names):
 
 
 def _renamed_places(places, names):
-    return tuple([_renamed(place, names) for place in places])
-
-
-def _renamed(place, names):
-    filtered = place.filtered
-    return Place.of(place.source, _renamed_terms(place.terms, names), filtered=filtered)
+    triples = [(source, _renamed_terms(terms, names), filtered) for source, terms, filtered in triples_of(places)]
+    return tuple(places_of(triples))
 
 
 def _texts(parts):

@@ -1,5 +1,6 @@
 """Spots: where places stand in the rules of a program."""
 
+from goneunseen.ask.sound import Sound
 from goneunseen.errors import InvalidOperation, InvalidSpot
 from goneunseen.scheme.names import is_name, is_whole
 
@@ -8,9 +9,10 @@ class Spots:
     """A set of spots, triples of the name of a view, the index of a rule and the index of a place."""
 
     def __init__(self, *spots):
-        if not all([_is_spot(spot) for spot in spots]):
-            raise InvalidSpot("a spot is a triple of a name and two integers of at least 0")
-        self._spots = tuple(sorted(set(spots)))
+        if len(spots) == 1 and isinstance(spots[0], Sound):
+            self._spots = spots[0].worth
+        else:
+            self._spots = _checked_spots(spots)
 
     @classmethod
     def of(cls, spots):
@@ -31,18 +33,15 @@ class Spots:
 
     def __or__(self, other):
         _check_is_spots(other)
-        either = [*self._spots, *other._spots]
-        return Spots(*either)
+        return Spots(Sound(tuple(sorted(set([*self._spots, *other._spots])))))
 
     def __and__(self, other):
         _check_is_spots(other)
-        both = [spot for spot in self._spots if spot in other._spots]
-        return Spots(*both)
+        return Spots(Sound(tuple([spot for spot in self._spots if spot in other._spots])))
 
     def __sub__(self, other):
         _check_is_spots(other)
-        kept = [spot for spot in self._spots if spot not in other._spots]
-        return Spots(*kept)
+        return Spots(Sound(tuple([spot for spot in self._spots if spot not in other._spots])))
 
     def __len__(self):
         return len(self._spots)
@@ -61,6 +60,17 @@ class Spots:
 
     def __str__(self):
         return "".join(["{", ", ".join([_spot_text(spot) for spot in self._spots]), "}"])
+
+
+def spots_of(spots):
+    """The set of a list of different spots that are known to be some."""
+    return Spots(Sound(tuple(sorted(spots))))
+
+
+def _checked_spots(spots):
+    if not all([_is_spot(spot) for spot in spots]):
+        raise InvalidSpot("a spot is a triple of a name and two integers of at least 0")
+    return tuple(sorted(set(spots)))
 
 
 def _is_spot(value):

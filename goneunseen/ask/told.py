@@ -1,108 +1,136 @@
-"""What unfolded rules tell in a base: their answers, and how often they are told."""
+"""What unfolded rules tell in a base: their answers, and how often they are told.
 
+Rules are told by their outlines here: the head, the triples of the places, and perhaps more behind these.
+"""
+
+from goneunseen.base.bases import kept_rows
 from goneunseen.errors import TooMany
-from goneunseen.scheme.names import is_name, is_whole
 
 _MOST_COMBINATIONS = 50000
 
 
-def check_combinations(rules, base):
+def check_combinations(outlines, base):
     """Raises an error if a rule has too many combinations of different stored rows."""
-    different = {name: len(set([*base.living(name), *base.gone(name)])) for name in base.scheme.names}
-    for rule in rules:
-        many = 1
-        for place in rule:
-            many = many * different[place.source]
-        if many > _MOST_COMBINATIONS:
-            raise TooMany(_MOST_COMBINATIONS)
+    for outline in outlines:
+        check_product(base, outline[1])
 
 
-def told_answers(rules, base, living):
+def check_product(base, triples):
+    """Raises an error if places have too many combinations of different stored rows."""
+    many = 1
+    for source, _, _ in triples:
+        many = many * _how_many_different(base, source)
+    if many > _MOST_COMBINATIONS:
+        raise TooMany(_MOST_COMBINATIONS)
+
+
+def _how_many_different(base, table):
+    living, gone = kept_rows(base, table)
+    if not gone:
+        return len(living)
+    return len(gone) + len([row for row in living if row not in gone])
+
+
+def told_answers(outlines, base, living):
     """The ascending tuple of the answers that the rules tell."""
-    return tuple(told_numbers(rules, base, living))
+    return tuple(told_numbers(outlines, base, living))
 
 
-def told_numbers(rules, base, living):
+def told_numbers(outlines, base, living):
     """A dict from the answers that the rules tell, ascending, to their numbers of matches."""
-    check_combinations(rules, base)
+    check_combinations(outlines, base)
     counts = {}
-    for rule in rules:
-        found = _counts_of_rule(rule, base, living)
+    for outline in outlines:
+        found = counts_of_outline(outline[0], outline[1], base, living)
         for answer in found:
             counts[answer] = counts.get(answer, 0) + found[answer]
     return {answer: counts[answer] for answer in sorted(counts)}
 
 
-def columns_of(place):
-    """A dict from the variables of a place to the first columns in which they stand."""
-    columns = {}
-    for column, term in enumerate(place.terms):
-        if is_name(term):
-            columns.setdefault(term, column)
-    return columns
-
-
-def pairs_for(place, base, living):
-    """The ascending pairs of a row for which the place can stand, and whether this is the living one or copies."""
-    pairs = [(row, True) for row in base.living(place.source)]
-    if not living and not place.filtered:
-        pairs.extend([(row, False) for row in base.gone(place.source)])
-    return sorted([pair for pair in pairs if _can_stand_for(place, pair[0])])
-
-
-def _can_stand_for(place, row):
-    """Whether the place can stand for the row, whatever integers its variables have elsewhere."""
-    columns = columns_of(place)
-    return row == tuple([row[columns[term]] if term in columns else term for term in place.terms])
-
-
-def _counts_of_rule(rule, base, living):
-    """A dict from the answers of a rule to their numbers.
+def counts_of_outline(head, triples, base, living):
+    """A dict from the answers of a rule, in any order, to their numbers.
 
     Place by place it keeps only the integers of those variables that stand in the head or in a later place, so that
     matches which differ in other variables are counted together.
     """
-    names, counts = (), {(): 1}
-    for at, place in enumerate(rule):
-        later = [*rule.head, *[term for other in rule.places[at + 1:] for term in other.terms]]
-        names, counts = _behind_place(names, counts, place, _weights(place, base, living), later)
-    return _headed(rule.head, names, counts)
+    weights = [_weights(base, triple, living) for triple in triples]
+    if not all([bool(rows) for rows in weights]):
+        return {}
+    names, counts = [], {(): 1}
+    for at, (_, terms, _) in enumerate(triples):
+        later = [*head, *[term for _, others, _ in triples[at + 1:] for term in others]]
+        names, counts = _behind_place(names, counts, terms, weights[at], later)
+    return _headed(head, names, counts)
 
 
-def _weights(place, base, living):
+def columns_of(terms):
+    """A dict from the variables among the terms of a place to the first columns in which they stand."""
+    columns = {}
+    for column, term in enumerate(terms):
+        if isinstance(term, str) and term not in columns:
+            columns[term] = column
+    return columns
+
+
+def fitting_rows(terms, rows):
+    """The list of those rows for which a place with these terms can stand, whatever its variables are elsewhere."""
+    columns = columns_of(terms)
+    if len(columns) == len(terms):
+        return list(rows)
+    return [row for row in rows if row == tuple([row[columns[term]] if term in columns else term for term in terms])]
+
+
+def pairs_for(base, triple, living):
+    """The ascending pairs of a row for which the place can stand, and whether this is the living one or copies."""
+    source, terms, filtered = triple
+    alive, gone = kept_rows(base, source)
+    pairs = [(row, True) for row in fitting_rows(terms, alive)]
+    if living or filtered or not gone:
+        return pairs
+    return sorted([*pairs, *[(row, False) for row in fitting_rows(terms, gone)]])
+
+
+def _weights(base, triple, living):
     """A dict from the rows for which a place can stand to their numbers: the living one, and the copies."""
-    weights = {row: 1 for row in base.living(place.source)}
-    if not living and not place.filtered:
-        gone = base.gone(place.source)
-        for row in gone:
+    source, terms, filtered = triple
+    alive, gone = kept_rows(base, source)
+    weights = {row: 1 for row in fitting_rows(terms, alive)}
+    if not living and not filtered:
+        for row in fitting_rows(terms, gone):
             weights[row] = weights.get(row, 0) + gone[row]
-    return {row: weights[row] for row in weights if _can_stand_for(place, row)}
+    return weights
 
 
-def _behind_place(names, counts, place, weights, later):
+def _behind_place(names, counts, terms, weights, later):
     """The names and the counts behind one place more: keys of the counts are the integers of the names."""
-    columns = columns_of(place)
-    known = [name for name in columns if name in names]
+    columns = columns_of(terms)
+    known = [columns[name] for name in names if name in columns]
+    spots = [at for at, name in enumerate(names) if name in columns]
+    more = [name for name in columns if name not in names and name in later]
+    kept = [at for at, name in enumerate(names) if name in later]
+    added = [columns[name] for name in more]
     buckets = {}
     for row in weights:
-        buckets.setdefault(tuple([row[columns[name]] for name in known]), []).append(row)
-    more = [name for name in columns if name not in names]
-    behind = [*names, *more]
-    kept = [at for at, name in enumerate(behind) if name in later]
-    spots = [names.index(name) for name in known]
+        key = tuple([row[column] for column in known])
+        if key not in buckets:
+            buckets[key] = []
+        buckets[key].append((tuple([row[column] for column in added]), weights[row]))
     found = {}
     for values in counts:
-        for row in buckets.get(tuple([values[at] for at in spots]), ()):
-            every = values + tuple([row[columns[name]] for name in more])
-            key = tuple([every[at] for at in kept])
-            found[key] = found.get(key, 0) + counts[values] * weights[row]
-    return tuple([behind[at] for at in kept]), found
+        rest = tuple([values[at] for at in kept])
+        for ending, weight in buckets.get(tuple([values[at] for at in spots]), ()):
+            key = rest + ending
+            found[key] = found.get(key, 0) + counts[values] * weight
+    return [*[names[at] for at in kept], *more], found
 
 
 def _headed(head, names, counts):
     """The counts by heads instead of by the integers of the names: the names are the variables of the head."""
+    if names == list(head):
+        return counts
+    spots = [names.index(term) if isinstance(term, str) else None for term in head]
     found = {}
     for values in counts:
-        answer = tuple([term if is_whole(term) else values[names.index(term)] for term in head])
+        answer = tuple([term if at is None else values[at] for term, at in zip(head, spots)])
         found[answer] = counts[values]
     return found

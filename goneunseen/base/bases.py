@@ -44,13 +44,13 @@ class Base:
 
     def living(self, table):
         """The ascending tuple of the living rows of a table."""
-        if table not in self._scheme:
+        if not isinstance(table, str) or table not in self._living:
             raise UnknownName(table)
         return self._living[table]
 
     def gone(self, table):
         """A dict from the gone rows of a table to their numbers of copies."""
-        if table not in self._scheme:
+        if not isinstance(table, str) or table not in self._gone:
             raise UnknownName(table)
         copies = self._gone[table]
         return {row: copies[row] for row in copies}
@@ -94,6 +94,11 @@ class Base:
 
     def __str__(self):
         return f"base of {_how_many_living(self._living)} living rows, {_how_many_copies(self._gone)} copies"
+
+
+def kept_rows(base, table):
+    """The living rows and the dict of the gone rows of a table, as they are kept: only to be looked at."""
+    return base._living[table], base._gone[table]
 
 
 def base_of(scheme, living, gone):

@@ -1,9 +1,9 @@
 """Papers: what shows that a program is faithful at a view, or misled there."""
 
-from goneunseen.ask.programs import Program, unfolded
+from goneunseen.ask.programs import Program, outlines_of
 from goneunseen.ask.told import pairs_for
 from goneunseen.errors import InvalidPaper
-from goneunseen.frozen.derivations import check_mode, is_derivation
+from goneunseen.frozen.derivations import check_mode, is_right
 from goneunseen.frozen.folds import is_answer_of, match_among
 from goneunseen.store.histories import end_of
 
@@ -59,10 +59,15 @@ class Derived(Paper):
 
     def shows(self, program, name):
         """Whether the derivations are right ones for all unfolded rules of the view, in their order."""
-        if not _is_view(program, name) or len(self._derivations) != len(unfolded(program, name)):
+        if not _is_view(program, name):
             return False
-        pairs = list(enumerate(self._derivations))
-        return all([is_derivation(program, name, index, value, mode=self._mode) for index, value in pairs])
+        outlines = outlines_of(program, name)
+        if len(self._derivations) != len(outlines):
+            return False
+        for index, value in enumerate(self._derivations):
+            if not is_right(program.scheme, outlines, index, value, self._mode):
+                return False
+        return True
 
     def __eq__(self, other):
         return isinstance(other, Derived) and self._mode == other._mode and self._derivations == other._derivations
@@ -102,10 +107,10 @@ class Misleading(Paper):
         base = end_of(program.scheme, self._history)
         if base is None or base.size > _MOST_ROWS:
             return False
-        rules = [rule for rule in unfolded(program, name) if is_answer_of(rule, self._answer)]
+        outlines = [outline for outline in outlines_of(program, name) if is_answer_of(outline[0], self._answer)]
         if self._mode == "numbers":
-            return _has_match_from_gone(rules, base, self._answer)
-        return _has_match(rules, base, self._answer, False) and not _has_match(rules, base, self._answer, True)
+            return _has_match_from_gone(outlines, base, self._answer)
+        return _has_match(outlines, base, self._answer, False) and not _has_match(outlines, base, self._answer, True)
 
     def __eq__(self, other):
         return (
@@ -131,21 +136,21 @@ def _copied(value):
     return value
 
 
-def _has_match(rules, base, answer, living):
+def _has_match(outlines, base, answer, living):
     """Whether one of the rules has a match with this head."""
-    return any([match_among(rule, answer, _pairs(rule, base, living)) is not None for rule in rules])
-
-
-def _has_match_from_gone(rules, base, answer):
-    """Whether one of the rules has a match with this head and with a copy of a gone row."""
-    for rule in rules:
-        pairs = _pairs(rule, base, False)
-        for at in range(len(rule)):
-            gone = [pair for pair in pairs[at] if not pair[1]]
-            if match_among(rule, answer, [*pairs[:at], gone, *pairs[at + 1:]]) is not None:
-                return True
+    for head, triples, _ in outlines:
+        pairs = [pairs_for(base, triple, living) for triple in triples]
+        if match_among(head, triples, answer, pairs) is not None:
+            return True
     return False
 
 
-def _pairs(rule, base, living):
-    return [pairs_for(place, base, living) for place in rule]
+def _has_match_from_gone(outlines, base, answer):
+    """Whether one of the rules has a match with this head and with a copy of a gone row."""
+    for head, triples, _ in outlines:
+        pairs = [pairs_for(base, triple, False) for triple in triples]
+        for at in range(len(triples)):
+            gone = [pair for pair in pairs[at] if not pair[1]]
+            if gone and match_among(head, triples, answer, [*pairs[:at], gone, *pairs[at + 1:]]) is not None:
+                return True
+    return False

@@ -1,8 +1,10 @@
 """Cores: the fewest rows onto which a frozen rule folds."""
 
+from goneunseen.ask.arguments import check_table_rule
+from goneunseen.ask.rules import outline_of
 from goneunseen.errors import InvalidOperation, InvalidScheme
 from goneunseen.frozen.folds import match_among
-from goneunseen.frozen.frozen import carried, frozen, is_frozen
+from goneunseen.frozen.frozen import carried_by, chased_rule, frozen_by, is_frozen_by
 from goneunseen.scheme.names import is_row_of, is_whole
 from goneunseen.scheme.schemes import Scheme
 from goneunseen.scheme.tables import picked
@@ -10,27 +12,28 @@ from goneunseen.scheme.tables import picked
 
 def core(scheme, rule):
     """A frozen rule, frozen as living, a fold of it onto a core, and the rows of this core."""
-    value = frozen(scheme, rule, living=True)
-    _check_not_empty(value)
+    found = _chased_as_living(scheme, rule)
+    value, outline = frozen_by(scheme, rule, found, ()), outline_of(rule)
     rows = _living_rows(value[0])
     fold = {number: number for number in _integers(rows)}
-    smaller = _smaller_fold(scheme, rule, value, rows)
+    smaller = _smaller_match(scheme, outline, value[2], rows)
     while smaller is not None:
-        fold = smaller
+        fold = carried_by(found, value, value[0], smaller)
         rows = _image(value[0], fold)
-        smaller = _smaller_fold(scheme, rule, value, rows)
+        smaller = _smaller_match(scheme, outline, value[2], rows)
     return value, _keeping(fold, _integers(rows)), rows
 
 
 def is_core(scheme, rule, value):
     """Whether the value is a frozen rule, frozen as living, with a fold onto a core and the rows of this core."""
-    _check_not_empty(frozen(scheme, rule, living=True))
-    if not isinstance(value, tuple) or len(value) != 3 or not is_frozen(scheme, rule, value[0], living=True):
+    found = _chased_as_living(scheme, rule)
+    if not isinstance(value, tuple) or len(value) != 3 or not is_frozen_by(scheme, rule, found, value[0], ()):
         return False
     if not _is_fold(rule, value[0], value[1]) or not _are_table_rows(scheme, value[2]):
         return False
-    # All cores have equally many rows.
-    return value[2] == _image(value[0][0], value[1]) and len(value[2]) == len(core(scheme, rule)[2])
+    # What is carried to no fewer rows is a core, as all cores have equally many.
+    image = _image(value[0][0], value[1])
+    return value[2] == image and _smaller_match(scheme, outline_of(rule), value[0][2], image) is None
 
 
 def unreferred(scheme, rows):
@@ -53,9 +56,13 @@ def _is_told(scheme, pair, told):
     return key is not None and (name, picked(row, key)) in told
 
 
-def _check_not_empty(value):
-    if value is None:
+def _chased_as_living(scheme, rule):
+    """The numbered rows to which a rule comes, frozen as living; raises an error if it is empty."""
+    check_table_rule(scheme, rule)
+    rows = chased_rule(scheme, rule, True)
+    if rows.is_empty():
         raise InvalidOperation("the rule is empty, frozen as living")
+    return rows
 
 
 def _living_rows(base):
@@ -78,19 +85,18 @@ def _image(base, fold):
     return tuple([pair for pair in _living_rows(base) if pair in image])
 
 
-def _smaller_fold(scheme, rule, value, rows):
-    """A dict that carries a frozen rule to fewer of these rows, to which it can be carried; or None.
+def _smaller_match(scheme, outline, head, rows):
+    """A match that carries a frozen rule to fewer of these rows, to which it can be carried; or None.
 
     If it can be carried to fewer, then also to all but one to which none of them refers: what it is carried to has
     with each row those to which this one refers.
     """
-    base, _, head = value
     for left_out in unreferred(scheme, rows):
         kept = [pair for pair in rows if pair != left_out]
-        pairs = [[(row, True) for name, row in kept if name == place.source] for place in rule]
-        found = match_among(rule, head, pairs)
+        pairs = [[(row, True) for name, row in kept if name == source] for source, _, _ in outline[1]]
+        found = match_among(outline[0], outline[1], head, pairs)
         if found is not None:
-            return carried(scheme, rule, value, base, found)
+            return found
     return None
 
 

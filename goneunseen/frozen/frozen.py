@@ -1,9 +1,10 @@
 """Frozen rules: bases in which a rule has its most general match."""
 
 from goneunseen.ask.arguments import check_base, check_living, check_table_rule
-from goneunseen.base.bases import Base
+from goneunseen.ask.rules import outline_of
+from goneunseen.base.bases import Base, base_of
 from goneunseen.errors import InvalidOperation, InvalidPaper
-from goneunseen.frozen.chase import chased
+from goneunseen.frozen.chase import as_living, chased
 from goneunseen.frozen.folds import is_match
 from goneunseen.frozen.search import values_of
 from goneunseen.scheme.names import is_row_of, is_whole
@@ -15,10 +16,7 @@ def frozen(scheme, rule, *, avoid=(), living=False):
     check_table_rule(scheme, rule)
     _check_avoid(avoid)
     check_living(living)
-    rows, _ = chased(scheme, rule, living)
-    if rows.is_empty():
-        return None
-    return _frozen_with(scheme, rule, rows, _new_integers(rows, [*rule.integers, *avoid]))
+    return frozen_by(scheme, rule, chased_rule(scheme, rule, living), avoid)
 
 
 def is_frozen(scheme, rule, value, *, avoid=(), living=False):
@@ -26,10 +24,10 @@ def is_frozen(scheme, rule, value, *, avoid=(), living=False):
     check_table_rule(scheme, rule)
     _check_avoid(avoid)
     check_living(living)
-    rows, _ = chased(scheme, rule, living)
+    rows = chased_rule(scheme, rule, living)
     if rows.is_empty():
         return value is None
-    return _is_frozen_by(scheme, rule, rows, value, avoid)
+    return is_frozen_by(scheme, rule, rows, value, avoid)
 
 
 def carried(scheme, rule, value, base, match):
@@ -39,13 +37,68 @@ def carried(scheme, rule, value, base, match):
     if rows is None:
         raise InvalidPaper("no frozen rule of the rule")
     check_base(scheme, base)
-    if not is_match(rule, base, match, living):
+    if not is_match(outline_of(rule)[1], base, match, living):
         raise InvalidOperation("no match of the rule in the base")
+    return carried_by(rows, value, base, match)
+
+
+def chased_rule(scheme, rule, living):
+    """The numbered rows to which a rule comes."""
+    _, triples = outline_of(rule)
+    return chased(scheme, as_living(triples) if living else triples)[0]
+
+
+def frozen_by(scheme, rule, rows, avoid):
+    """The frozen rule to which the numbered rows of a rule come, or None if it is empty."""
+    if rows.is_empty():
+        return None
+    return frozen_with(scheme, outline_of(rule), rows, _new_integers(rows, [*rule.integers, *avoid]))
+
+
+def frozen_anew(scheme, outline, rows, barred):
+    """The frozen rule of an outline whose rows are not empty; none of its new integers is barred."""
+    return frozen_with(scheme, outline, rows, _new_integers(rows, barred))
+
+
+def is_frozen_by(scheme, rule, rows, value, avoid):
+    """Whether the value is what the numbered rows come to with some new integers."""
+    if not isinstance(value, tuple) or len(value) != 3:
+        return False
+    base, places, head = value
+    if not isinstance(base, Base) or not base.scheme == scheme or not _are_pairs(rule, places):
+        return False
+    if not isinstance(head, tuple) or not all([is_whole(number) for number in head]):
+        return False
+    numbers = _values(rows, base, places)
+    if numbers is None or not _are_new(numbers, [*rule.integers, *avoid]):
+        return False
+    return frozen_with(scheme, outline_of(rule), rows, numbers) == value
+
+
+def carried_by(rows, value, base, match):
+    """The dict of what the integers of a frozen rule, to which the rows come, are in a match."""
     before, behind = _values(rows, value[0], value[1]), _values(rows, base, match)
-    numbers = {term: term for term in _terms(rows) if is_whole(term)}
+    numbers = {term: term for term in _terms(rows) if isinstance(term, int)}
     for term in before:
         numbers[before[term]] = behind[term]
     return {number: numbers[number] for number in sorted(numbers)}
+
+
+def frozen_with(scheme, outline, rows, numbers):
+    """The frozen rule in which the terms have these integers."""
+    head, triples = outline[0], outline[1]
+    living = {name: [] for name in scheme.names}
+    gone = {name: {} for name in scheme.names}
+    for number in _first_numbers(rows):
+        name, row = rows.table_of(number).name, _numbered_row(rows, number, numbers)
+        if rows.is_living(number):
+            living[name].append(row)
+        else:
+            gone[name][row] = gone[name].get(row, 0) + 1
+    # What freezing ends with keeps the rules, and different terms have different integers.
+    base = base_of(scheme, living, gone)
+    places = tuple([(_numbered_row(rows, number, numbers), rows.is_living(number)) for number in range(len(triples))])
+    return base, places, tuple([numbers.get(term, term) for term in rows.ends_of(head)])
 
 
 def _check_avoid(avoid):
@@ -56,8 +109,8 @@ def _check_avoid(avoid):
 def _frozen_either_way(scheme, rule, value):
     """The numbered rows that come to the value, and whether it is frozen only as living; or None and False."""
     for living in (False, True):
-        rows, _ = chased(scheme, rule, living)
-        if not rows.is_empty() and _is_frozen_by(scheme, rule, rows, value, ()):
+        rows = chased_rule(scheme, rule, living)
+        if not rows.is_empty() and is_frozen_by(scheme, rule, rows, value, ()):
             return rows, living
     return None, False
 
@@ -78,7 +131,7 @@ def _new_integers(rows, barred):
     numbers = {}
     fresh = 0
     for term in _terms(rows):
-        if not is_whole(term) and term not in numbers:
+        if not isinstance(term, int) and term not in numbers:
             while fresh in used:
                 fresh += 1
             numbers[term] = fresh
@@ -86,39 +139,8 @@ def _new_integers(rows, barred):
     return numbers
 
 
-def _frozen_with(scheme, rule, rows, numbers):
-    """The frozen rule in which the terms have these integers."""
-    living = {name: [] for name in scheme.names}
-    gone = {name: [] for name in scheme.names}
-    for number in _first_numbers(rows):
-        kept = living if rows.is_living(number) else gone
-        kept[rows.table_of(number).name].append(_row_of(rows, number, numbers))
-    base = Base(scheme, living=_tuples(living), gone=_tuples(gone))
-    places = tuple([(_row_of(rows, number, numbers), rows.is_living(number)) for number in range(len(rule))])
-    return base, places, tuple([numbers.get(term, term) for term in rows.ends_of(rule.head)])
-
-
-def _row_of(rows, number, numbers):
+def _numbered_row(rows, number, numbers):
     return tuple([numbers.get(term, term) for term in rows.terms_of(number)])
-
-
-def _tuples(lists):
-    return {name: tuple(lists[name]) for name in lists}
-
-
-def _is_frozen_by(scheme, rule, rows, value, avoid):
-    """Whether the value is what the numbered rows come to with some new integers."""
-    if not isinstance(value, tuple) or len(value) != 3:
-        return False
-    base, places, head = value
-    if not isinstance(base, Base) or not base.scheme == scheme or not _are_pairs(rule, places):
-        return False
-    if not isinstance(head, tuple) or not all([is_whole(number) for number in head]):
-        return False
-    numbers = _values(rows, base, places)
-    if numbers is None or not _are_new(numbers, [*rule.integers, *avoid]):
-        return False
-    return _frozen_with(scheme, rule, rows, numbers) == value
 
 
 def _are_pairs(rule, value):
@@ -162,7 +184,8 @@ def _values(rows, base, pairs):
 def _referred(base, reference, row):
     """The living row to which a row refers, or None."""
     columns, target = reference
+    key, wanted = base.scheme[target].key, picked(row, columns)
     for other in base.living(target):
-        if picked(other, base.scheme[target].key) == picked(row, columns):
+        if picked(other, key) == wanted:
             return other
     return None

@@ -1,18 +1,22 @@
 """Numbered rows: the rows of a rule's places, and what steps make of them."""
 
-from goneunseen.scheme.names import is_name, is_whole
+from goneunseen.scheme.names import is_name
+from goneunseen.scheme.schemes import tables_by_name
 from goneunseen.scheme.tables import picked
 
 
 class Numbered:
-    """Rows with numbers, whose terms can be equated; rows that become one keep all their numbers."""
+    """Rows with numbers, whose terms can be equated; rows that become one keep all their numbers.
 
-    def __init__(self, scheme, rule, living):
-        self._scheme = scheme
-        self._tables = [scheme[place.source] for place in rule]
-        self._written = [place.terms for place in rule]
-        self._are_living = [living or place.filtered for place in rule]
-        self._one_with = list(range(len(rule)))
+    The first ones are told by triples of a table, terms, and whether the row is living.
+    """
+
+    def __init__(self, scheme, triples):
+        self._by_name = tables_by_name(scheme)
+        self._tables = [self._by_name[source] for source, _, _ in triples]
+        self._written = [terms for _, terms, _ in triples]
+        self._are_living = [is_living for _, _, is_living in triples]
+        self._one_with = list(range(len(triples)))
         self._stands_for = {}
         self._referring = []
         self._made = 0
@@ -44,13 +48,28 @@ class Numbered:
         """Whether a row is living."""
         return self._are_living[self.first_of(number)]
 
+    def are_living(self, many):
+        """Whether as many of the first rows are living."""
+        return all([self.is_living(number) for number in range(many)])
+
     def ends_of(self, terms):
         """The terms that are told for these terms."""
+        # Most often nothing is equated at all.
+        if not self._stands_for:
+            return terms
         return tuple([self._end_of(term) for term in terms])
 
     def terms_of(self, number):
         """The terms of a row, as they are told."""
         return self.ends_of(self._written[number])
+
+    def by_table(self, only_living):
+        """A dict from the names of tables to the pairs of terms and number of their rows, or of the living ones."""
+        found = {}
+        for number, table in enumerate(self._tables):
+            if not only_living or self.is_living(number):
+                found.setdefault(table.name, []).append((self.terms_of(number), number))
+        return found
 
     def told_by(self, number, index):
         """The key that a row tells by the reference with this index."""
@@ -65,7 +84,7 @@ class Numbered:
             return False
         return 0 <= second < len(self._tables[first].refers)
 
-    def do(self, step):
+    def do_step(self, step):
         """Does a step that is possible."""
         word, first, second = step
         if word == "same":
@@ -97,14 +116,14 @@ class Numbered:
     def _equate(self, first, second):
         if first == second:
             return
-        if is_whole(first) and is_whole(second):
+        if isinstance(first, int) and isinstance(second, int):
             self._is_empty = True
         if _rank(second) < _rank(first):
             first, second = second, first
         self._stands_for[second] = first
 
     def _refer(self, number, index):
-        target = self._scheme[self._tables[number].refers[index][1]]
+        target = self._by_name[self._tables[number].refers[index][1]]
         key = dict(zip(target.key, self.told_by(number, index)))
         self._referring.append((number, index))
         self._one_with.append(self.how_many())
@@ -120,12 +139,13 @@ class Numbered:
 
 def key_columns(table):
     """The columns by which living rows of a table are told apart."""
-    return tuple(range(table.width)) if table.key is None else table.key
+    key = table.key
+    return tuple(range(table.width)) if key is None else key
 
 
 def _rank(term):
     """What is told for equal terms comes first: an integer, the least variable, the new term that was made first."""
-    if is_whole(term):
+    if isinstance(term, int):
         return 0, 0, ""
     if is_name(term):
         return 1, 0, term

@@ -1,13 +1,11 @@
 """A search for rows that some patterns of terms can stand for, all at once."""
 
-from goneunseen.scheme.names import is_name, is_whole
-
 
 def values_of(terms, row, values):
     """The values with which the terms stand for the row, or None; some can be known, an integer stands for itself."""
     found = {term: values[term] for term in values}
     for term, value in zip(terms, row):
-        known = term if is_whole(term) else found.setdefault(term, value)
+        known = term if isinstance(term, int) else found.setdefault(term, value)
         if known != value:
             return None
     return found
@@ -30,14 +28,37 @@ def _narrowed(patterns, choices, places, values):
     """A dict from these places to their choices that fit the values, or None if one has none."""
     narrowed = {}
     for at in places:
-        narrowed[at] = [pair for pair in choices[at] if values_of(patterns[at], pair[0], values) is not None]
-        if not narrowed[at]:
+        fitting = _fitting(patterns[at], choices[at], values)
+        if not fitting:
             return None
+        narrowed[at] = fitting
     return narrowed
+
+
+def _fitting(terms, pairs, values):
+    """Those of the pairs for whose rows the terms can stand with these values."""
+    columns, wanted, alike = [], [], []
+    for column, term in enumerate(terms):
+        if isinstance(term, int) or term in values:
+            columns.append(column)
+            wanted.append(term if isinstance(term, int) else values[term])
+        elif terms.index(term) < column:
+            alike.append((terms.index(term), column))
+    if len(columns) == 1:
+        # Nearly always there is one, and this is asked very often.
+        column, value = columns[0], wanted[0]
+        pairs = [pair for pair in pairs if pair[0][column] == value]
+    elif columns:
+        pairs = [pair for pair in pairs if [pair[0][column] for column in columns] == wanted]
+    for first, second in alike:
+        pairs = [pair for pair in pairs if pair[0][first] == pair[0][second]]
+    return pairs
 
 
 def _solved(patterns, choices, places, values, failed):
     """A dict from these places to pairs, or None; each of them has choices, which fit the values."""
+    if len(places) == 1:
+        return {places[0]: choices[places[0]][0]}
     found = {}
     for part in _parts(patterns, places, values):
         more = _solved_part(patterns, choices, part, values, failed)
@@ -51,7 +72,7 @@ def _parts(patterns, places, values):
     """The places in parts that have no variables in common but those with values: each can be solved apart."""
     parts = []
     for at in places:
-        names = [term for term in patterns[at] if is_name(term) and term not in values]
+        names = [term for term in patterns[at] if isinstance(term, str) and term not in values]
         near = [part for part in parts if any([name in part[1] for name in names])]
         apart = [part for part in parts if part not in near]
         inside = [place for part in near for place in part[0]]

@@ -91,6 +91,11 @@ class Scheme:
         return Scheme.of(tuple([changed if table.name == changed.name else table for table in self._tables]))
 
 
+def tables_by_name(scheme):
+    """The dict from the names of a scheme's tables to the tables, as it is kept: only to be looked at."""
+    return scheme._by_name
+
+
 def have_same_tables(first, second):
     """Whether two schemes have tables with the same names and widths in the same order."""
     return [(table.name, table.width) for table in first] == [(table.name, table.width) for table in second]
