@@ -14,10 +14,16 @@ from goneunseen.ask.rules import Rule, tables_fit
 from goneunseen.ask.spots import Spots
 from goneunseen.ask.tallies import Tally
 from goneunseen.base.bases import Base
+from goneunseen.faith.checks import check_answers, check_paper, is_check_paper, is_faithful_check, misleads_check
+from goneunseen.faith.faithful import faith_paper, is_faithful, misled_views, misleads
 from goneunseen.frozen.cores import core, is_core, unreferred
 from goneunseen.frozen.derivations import derivation, is_derivation, rows_behind
 from goneunseen.frozen.folds import match_of
 from goneunseen.frozen.frozen import carried, frozen, is_frozen
+from goneunseen.least.classes import classes, is_classes
+from goneunseen.least.filters import (
+    fewest, is_fewest, is_least_paper, is_mending, is_needy, is_tight, least_paper, needy_sets, tight_sets)
+from goneunseen.least.resting import is_loosest, is_resting, loosest, rests_on
 from goneunseen.scheme.schemes import Scheme
 from goneunseen.scheme.tables import Table
 from goneunseen.store.histories import history_to, is_history, is_history_to, run, steps
@@ -33,7 +39,12 @@ KNOWN = {
     "unfolded": unfolded, "origins": origins, "below": below, "Tally": Tally, "answers": answers, "numbers": numbers,
     "matches": matches, "frozen": frozen, "is_frozen": is_frozen, "carried": carried, "rows_behind": rows_behind,
     "derivation": derivation, "is_derivation": is_derivation, "match_of": match_of, "core": core, "is_core": is_core,
-    "unreferred": unreferred}
+    "unreferred": unreferred, "faith_paper": faith_paper, "is_faithful": is_faithful, "misled_views": misled_views, "misleads": misleads,
+    "check_answers": check_answers, "misleads_check": misleads_check, "check_paper": check_paper, "is_check_paper": is_check_paper,
+    "is_faithful_check": is_faithful_check, "fewest": fewest, "least_paper": least_paper, "tight_sets": tight_sets,
+    "needy_sets": needy_sets, "is_mending": is_mending, "is_tight": is_tight, "is_fewest": is_fewest, "is_needy": is_needy,
+    "is_least_paper": is_least_paper, "classes": classes, "is_classes": is_classes, "rests_on": rests_on,
+    "is_resting": is_resting, "loosest": loosest, "is_loosest": is_loosest}
 
 TABLES_AND_SCHEMES = """
 >>> [SHOP.names, SHOP["order"].refers, SHOP["order"].told((5, 1), 0), SHOP["buyer"].key_of((1, 10)), "buyers" in SHOP]
@@ -132,6 +143,43 @@ CORES = """
 >>> [base.size, [table for table, row in rows], [table for table, row in unreferred(SHOP, rows)], fold[head[0]] == head[0]]
 [4, ['buyer', 'order', 'item'], ['item'], True]
 """
+FAITHFUL = """
+>>> paper = faith_paper(SALES, "bought")
+>>> [paper.verdict, paper.shows(SALES, "bought"), paper.shows(SALES + Spots(("bought", 0, 0)), "bought"), misleads(SALES, "bought", run(SHOP, paper.history))]
+['misled', True, False, True]
+>>> [is_faithful(SALES, name) for name in SALES.names] + [is_faithful(SALES, "parts", mode="numbers"), misleads(SALES, "parts", DAY, mode="numbers")]
+[False, True, False, False, True]
+"""
+CHECKS = """
+>>> idle = Rule(("b", "t"), +Place("buyer", "b", "t"), without=((Place("order", "o", "b"),),))
+>>> quiet = Base(SHOP, living={"buyer": ((1, 10),)}, gone={"order": ((5, 1),)})
+>>> [check_answers(SHOP, idle, quiet), check_answers(SHOP, idle, quiet, living=True), check_paper(SHOP, idle)[0]]
+[(), ((1, 10),), 'misled']
+>>> lone = Rule(("b", "t"), +Place("buyer", "b", "t"), without=((+Place("order", "o", "b"),),))
+>>> is_check_paper(SHOP, lone, ("faithful", (((), ("there", (0,))), ((), ("barred", 0, (1,))))))
+True
+"""
+FILTERS = """
+>>> [str(fewest(SALES, name)) for name in SALES.names] + [str(fewest(SALES, "parts", mode="numbers"))]
+['{bought 0 0}', '{}', '{bought 0 0}', '{parts 0 1}']
+>>> loops = Rule((), Place("g", "x", "k"), Place("g", "x", "l"), Place("r", "k", "l"), Place("r", "k", "k"))
+>>> grid = Program(Scheme(Table("g", 2, key=(0,)), Table("r", 2)), v=loops)
+>>> [[str(spots) for spots in tight_sets(grid, "v")], [str(spots) for spots in needy_sets(grid, "v")]]
+[['{v 0 0, v 0 1, v 0 2}', '{v 0 0, v 0 3}'], ['{v 0 0}', '{v 0 1, v 0 3}', '{v 0 2, v 0 3}']]
+>>> firm = Scheme(Table("buyer", 2, key=(0,), scope="all"), Table("order", 2, refers=(((1,), "buyer"),)))
+>>> rule = Rule((), Place("buyer", "c", "u"), Place("order", "o", "b"), Place("buyer", "b", "t"))
+>>> [is_classes(firm, rule, ((1,),)), is_classes(firm, rule, ((0,), (1,)), mode="numbers"), is_classes(firm, rule, ((2,),))]
+[True, True, False]
+"""
+RESTING = """
+>>> filtered = SALES + Spots(("bought", 0, 0))
+>>> list(rests_on(filtered, "bought"))
+[('all', 'buyer'), ('refers', 'order', (1,), 'buyer')]
+>>> [loosest(filtered, "bought").rules, is_loosest(SALES, "parts", SHOP)]
+[(('all', 'buyer'), ('key', 'buyer', (0,)), ('refers', 'order', (1,), 'buyer')), False]
+>>> rests_on(SALES, "bought")
+raises Misled
+"""
 
 
 class Examples(Case):
@@ -185,6 +233,18 @@ class Examples(Case):
 
     def test_cores(self):
         self.check(CORES)
+
+    def test_faithful(self):
+        self.check(FAITHFUL)
+
+    def test_checks(self):
+        self.check(CHECKS)
+
+    def test_filters(self):
+        self.check(FILTERS)
+
+    def test_resting(self):
+        self.check(RESTING)
 
 
 if __name__ == "__main__":

@@ -47,6 +47,11 @@ def told_numbers(outlines, base, living):
     return {answer: counts[answer] for answer in sorted(counts)}
 
 
+def told_both_ways(outlines, base):
+    """Two dicts from answers to their numbers of matches, from all rows and from the living rows."""
+    return told_numbers(outlines, base, False), told_numbers(outlines, base, True)
+
+
 def counts_of_outline(head, triples, base, living):
     """A dict from the answers of a rule, in any order, to their numbers.
 

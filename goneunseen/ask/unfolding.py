@@ -45,10 +45,11 @@ def outlined_views(views, sketches):
 
 def marked_outlines(told, spots, filtered):
     """The outlines of all views with the places at the spots, keys of a dict, filtered or free."""
-    return {name: [_marked_outline(outline, spots, filtered) for outline in told[name]] for name in told}
+    return {name: [marked_outline(outline, spots, filtered) for outline in told[name]] for name in told}
 
 
-def _marked_outline(outline, spots, filtered):
+def marked_outline(outline, spots, filtered):
+    """The outline with the places at the spots, keys of a dict, filtered or free."""
     head, triples, origins = outline
     if not any([spot in spots for spot in origins]):
         return outline

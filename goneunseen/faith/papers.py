@@ -59,15 +59,7 @@ class Derived(Paper):
 
     def shows(self, program, name):
         """Whether the derivations are right ones for all unfolded rules of the view, in their order."""
-        if not _is_view(program, name):
-            return False
-        outlines = outlines_of(program, name)
-        if len(self._derivations) != len(outlines):
-            return False
-        for index, value in enumerate(self._derivations):
-            if not is_right(program.scheme, outlines, index, value, self._mode):
-                return False
-        return True
+        return _is_view(program, name) and shows_faithful(self, program.scheme, outlines_of(program, name))
 
     def __eq__(self, other):
         return isinstance(other, Derived) and self._mode == other._mode and self._derivations == other._derivations
@@ -102,15 +94,7 @@ class Misleading(Paper):
 
     def shows(self, program, name):
         """Whether the history leads to a base with at most 60 rows in which the answer is told too often."""
-        if not _is_view(program, name):
-            return False
-        base = end_of(program.scheme, self._history)
-        if base is None or base.size > _MOST_ROWS:
-            return False
-        outlines = [outline for outline in outlines_of(program, name) if is_answer_of(outline[0], self._answer)]
-        if self._mode == "numbers":
-            return _has_match_from_gone(outlines, base, self._answer)
-        return _has_match(outlines, base, self._answer, False) and not _has_match(outlines, base, self._answer, True)
+        return _is_view(program, name) and shows_misled(self, program.scheme, outlines_of(program, name))
 
     def __eq__(self, other):
         return (
@@ -121,6 +105,28 @@ class Misleading(Paper):
         )
 
 
+def shows_faithful(paper, scheme, outlines):
+    """Whether a `Derived` has right derivations for all unfolded rules of a view, which are told by their outlines."""
+    derivations = paper._derivations
+    if len(derivations) != len(outlines):
+        return False
+    for index, value in enumerate(derivations):
+        if not is_right(scheme, outlines, index, value, paper._mode):
+            return False
+    return True
+
+
+def shows_misled(paper, scheme, outlines):
+    """Whether a `Misleading` tells a history behind which the unfolded rules of a view tell its answer too often."""
+    fitting = [outline for outline in outlines if is_answer_of(outline[0], paper._answer)]
+    base = end_of(scheme, paper._history) if fitting else None
+    if base is None or base.size > _MOST_ROWS:
+        return False
+    if paper._mode == "numbers":
+        return _has_match_from_gone(fitting, base, paper._answer)
+    return _has_match(fitting, base, paper._answer, False) and not _has_match(fitting, base, paper._answer, True)
+
+
 def _is_view(program, name):
     return isinstance(program, Program) and name in program
 
@@ -128,12 +134,17 @@ def _is_view(program, name):
 def _copied(value):
     """The value with copies of the lists and dicts in it, which could be changed from outside."""
     if isinstance(value, tuple):
-        return tuple([_copied(part) for part in value])
+        return value if _is_plain(value) else tuple([_copied(part) for part in value])
     if isinstance(value, list):
         return [_copied(part) for part in value]
     if isinstance(value, dict):
         return {key: _copied(value[key]) for key in value}
     return value
+
+
+def _is_plain(value):
+    """Whether there is nothing in a tuple but integers, strings and such tuples."""
+    return all([isinstance(part, (int, str)) or (isinstance(part, tuple) and _is_plain(part)) for part in value])
 
 
 def _has_match(outlines, base, answer, living):

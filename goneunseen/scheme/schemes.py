@@ -41,7 +41,7 @@ class Scheme:
 
     def without(self, rule):
         """The scheme without one of its rules."""
-        if not _is_rule(rule) or rule not in self._rules:
+        if not is_scheme_rule(rule) or rule not in self._rules:
             raise InvalidOperation("the scheme has no such rule")
         if rule[0] == "key" and self._needs_key(rule[1]):
             raise InvalidOperation("another rule needs the key")
@@ -49,7 +49,7 @@ class Scheme:
 
     def with_rule(self, rule):
         """The scheme with one rule more."""
-        if not _is_rule(rule) or rule in self._rules or rule[1] not in self._by_name:
+        if not is_scheme_rule(rule) or rule in self._rules or rule[1] not in self._by_name:
             raise InvalidOperation("the scheme cannot have this rule, or has it")
         table = self._by_name[rule[1]]
         if rule[0] == "key" and table.key is not None:
@@ -101,6 +101,24 @@ def have_same_tables(first, second):
     return [(table.name, table.width) for table in first] == [(table.name, table.width) for table in second]
 
 
+def is_scheme_rule(value):
+    """Whether the value has the form of a rule; then Python's == tells equal rules rightly."""
+    if not isinstance(value, tuple) or not 2 <= len(value) <= 4 or not is_name(value[1]):
+        return False
+    if len(value) == 2:
+        return value[0] == "all"
+    if not isinstance(value[2], tuple) or not all([is_whole(column) for column in value[2]]):
+        return False
+    if len(value) == 3:
+        return value[0] == "key"
+    return value[0] == "refers" and is_name(value[3])
+
+
+def loose_rules(scheme):
+    """The rules without which the scheme can be, ascending: no other rule needs them."""
+    return [rule for rule in scheme._rules if rule[0] != "key" or not scheme._needs_key(rule[1])]
+
+
 def check_row(scheme, table, row):
     """Raises an error unless the scheme has a table of this name, and it can have the row."""
     if not is_row_of(row, scheme[table].width):
@@ -134,19 +152,6 @@ def _rules_of(table):
     if table.scope == "all":
         rules.append(("all", table.name))
     return rules
-
-
-def _is_rule(value):
-    """Whether the value has the form of a rule; then Python's == tells equal rules rightly."""
-    if not isinstance(value, tuple) or not 2 <= len(value) <= 4 or not is_name(value[1]):
-        return False
-    if len(value) == 2:
-        return value[0] == "all"
-    if not isinstance(value[2], tuple) or not all([is_whole(column) for column in value[2]]):
-        return False
-    if len(value) == 3:
-        return value[0] == "key"
-    return value[0] == "refers" and is_name(value[3])
 
 
 def _table_without(table, rule):

@@ -1,0 +1,1 @@
+"""The fewest filters that make a program faithful, and the rules on which it rests."""
