@@ -38,7 +38,7 @@ class Mending:
         return [self._outline_with(index, mask) for index in range(len(self._outlines))]
 
     def misled_by(self, mask):
-        """The outline and the rows of an unfolded rule without a right derivation if these spots are filtered, or None."""
+        """The outline and the rows of an unfolded rule that has no right derivation with these filters, or None."""
         for index in range(len(self._outlines)):
             if not self._is_right(index, mask):
                 outline = self._outline_with(index, mask)
