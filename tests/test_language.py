@@ -14,7 +14,7 @@ BUILTINS = set(
 METHODS = set(
     "append clear copy count endswith extend find get index insert isalnum isalpha isdigit islower isspace isupper items join "
     "keys ljust lower lstrip partition pop remove replace reverse rfind rjust rpartition rsplit rstrip setdefault split "
-    "splitlines startswith strip update upper values zfill bit_length isascii isdecimal removeprefix removesuffix".split())
+    "splitlines startswith strip update upper values zfill bit_length isascii isdecimal isprintable removeprefix removesuffix".split())
 
 
 def nodes(*kinds):
@@ -28,7 +28,8 @@ def properties_and_methods():
         for part in node.body:
             if isinstance(part, ast.FunctionDef):
                 words = [ast.unparse(word) for word in part.decorator_list]
-                found.setdefault("property" if "property" in words else "method", set()).add(part.name)
+                is_property = "property" in words or f"{part.name}.setter" in words
+                found.setdefault("property" if is_property else "method", set()).add(part.name)
     return found["property"], found["method"]
 
 

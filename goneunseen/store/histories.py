@@ -21,7 +21,7 @@ def run(scheme, history):
     _check_form(history)
     ledger = Ledger(base)
     for index, command in enumerate(history):
-        _do_step(ledger, command, index)
+        do_or_stop(ledger, command, index)
     return ledger.base_now()
 
 
@@ -31,7 +31,7 @@ def steps(scheme, history):
     _check_form(history)
     ledger = Ledger(base)
     for index, command in enumerate(history):
-        _do_step(ledger, command, index)
+        do_or_stop(ledger, command, index)
         base = ledger.base_behind(base, command)
         yield base
 
@@ -71,7 +71,8 @@ def _check_form(history):
         raise InvalidHistory("no tuple of at most 2000 commands")
 
 
-def _do_step(ledger, command, index):
+def do_or_stop(ledger, command, index):
+    """Does the command with this index, or raises an error from that for which it is refused."""
     try:
         ledger.do(command)
     except (GoneError, UnknownName, TooMany) as refusal:

@@ -13,7 +13,8 @@ class Store:
 
     def __init__(self, scheme):
         self._base = Base.empty(scheme)
-        self._ledger = Ledger(self._base)
+        # The ledger with the rows of the base, if there is one.
+        self._ledger = None
 
     @property
     def scheme(self):
@@ -39,7 +40,7 @@ class Store:
             return self._carry_out((("take", table, row),))
         if row not in self._base.living(table):
             raise NotLiving(row)
-        return self._carry_out(self._ledger.taken_along(table, row))
+        return self._carry_out(self._present_ledger().taken_along(table, row))
 
     def back(self, table, row):
         """Turns a copy into the living row."""
@@ -114,11 +115,20 @@ class Store:
     def __eq__(self, other):
         return isinstance(other, Store) and self._base == other._base
 
+    def _present_ledger(self):
+        if self._ledger is None:
+            self._ledger = Ledger(self._base)
+        return self._ledger
+
     def _carry_out(self, commands):
         """Does the commands. Only the first of several can be refused, so that what is refused changes nothing."""
+        ledger = self._present_ledger()
         for command in commands:
-            self._ledger.do(command)
-            self._base = self._ledger.base_behind(self._base, command)
+            ledger.do(command)
+        if len(commands) == 1:
+            self._base = ledger.base_behind(self._base, commands[0])
+        elif commands:
+            self._base = ledger.base_now()
         return commands
 
 

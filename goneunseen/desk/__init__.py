@@ -1,0 +1,1 @@
+"""A desk: a store that guards its programs, and keeps a journal."""

@@ -1,0 +1,1 @@
+"""Texts of values, columns, and a shell over a desk."""
