@@ -14,6 +14,8 @@ from goneunseen.ask.rules import Rule, tables_fit
 from goneunseen.ask.spots import Spots
 from goneunseen.ask.tallies import Tally
 from goneunseen.base.bases import Base
+from goneunseen.desk.desk import Desk
+from goneunseen.desk.journal import Journal
 from goneunseen.faith.checks import check_answers, check_paper, is_check_paper, is_faithful_check, misleads_check
 from goneunseen.faith.faithful import faith_paper, is_faithful, misled_views, misleads
 from goneunseen.frozen.cores import core, is_core, unreferred
@@ -29,6 +31,10 @@ from goneunseen.scheme.tables import Table
 from goneunseen.store.histories import history_to, is_history, is_history_to, run, steps
 from goneunseen.store.returns import is_hindrance, is_return, is_tight_return, return_paper
 from goneunseen.store.stores import Store
+from goneunseen.text.columns import base_columns, in_columns
+from goneunseen.text.formats import (
+    format_base, format_history, format_program, format_scheme, parse_base, parse_history, parse_program, parse_rule, parse_scheme)
+from goneunseen.text.shell import Shell
 from tests.values import DAY, SALES, SHOP, Case
 
 KNOWN = {
@@ -44,7 +50,10 @@ KNOWN = {
     "is_faithful_check": is_faithful_check, "fewest": fewest, "least_paper": least_paper, "tight_sets": tight_sets,
     "needy_sets": needy_sets, "is_mending": is_mending, "is_tight": is_tight, "is_fewest": is_fewest, "is_needy": is_needy,
     "is_least_paper": is_least_paper, "classes": classes, "is_classes": is_classes, "rests_on": rests_on,
-    "is_resting": is_resting, "loosest": loosest, "is_loosest": is_loosest}
+    "is_resting": is_resting, "loosest": loosest, "is_loosest": is_loosest, "Journal": Journal, "Desk": Desk,
+    "format_scheme": format_scheme, "format_base": format_base, "format_history": format_history, "format_program": format_program,
+    "parse_scheme": parse_scheme, "parse_rule": parse_rule, "parse_history": parse_history, "parse_base": parse_base,
+    "parse_program": parse_program, "in_columns": in_columns, "base_columns": base_columns, "Shell": Shell}
 
 TABLES_AND_SCHEMES = """
 >>> [SHOP.names, SHOP["order"].refers, SHOP["order"].told((5, 1), 0), SHOP["buyer"].key_of((1, 10)), "buyers" in SHOP]
@@ -180,6 +189,24 @@ RESTING = """
 >>> rests_on(SALES, "bought")
 raises Misled
 """
+DESKS = """
+>>> desk = Desk(SHOP, policy="mend")
+>>> [str(desk.define("who", SALES, "bought")), str(desk.define("what", SALES, "parts")), desk.do_all((("put", "buyer", (1, 10)), ("put", "order", (5, 1))))[1]]
+['{bought 0 0}', '{}', ('put', 'order', (5, 1))]
+>>> [desk.log[1:], desk.undo(), desk.set_policy("strict"), len(desk), desk.undone]
+[(('define', 'what'), ('do', (('put', 'buyer', (1, 10)), ('put', 'order', (5, 1))))), (('do', (('put', 'buyer', (1, 10)), ('put', 'order', (5, 1)))),), {}, 0, ()]
+>>> desk.define("towns", SALES, "towns")
+raises Misled
+"""
+TEXTS = """
+>>> [format_scheme(SHOP).split("\\n")[1], base_columns(DAY, "order").split("\\n")[:2], in_columns((("ab", "c"), ("d", "efgh")), sides=">^", fill=".", between="|")]
+['order 2 key 0 living refers 1 buyer', ['5 1 living 1', '5 3 gone   1'], 'ab|.c..\\n.d|efgh']
+>>> shell = Shell(SHOP)
+>>> list(shell.results(("put buyer 1,10", "define all towns answers towns: (t) if buyer(b, t)", "take buyer 1,10", "tell all", "surplus all")))
+['put buyer 1,10', '{}', 'take buyer 1,10', '10', '10']
+>>> [shell.do("show buyer"), shell.log[2:]]
+['1 10 gone 1', ('take buyer 1,10',)]
+"""
 
 
 class Examples(Case):
@@ -245,6 +272,12 @@ class Examples(Case):
 
     def test_resting(self):
         self.check(RESTING)
+
+    def test_desks(self):
+        self.check(DESKS)
+
+    def test_texts(self):
+        self.check(TEXTS)
 
 
 if __name__ == "__main__":
