@@ -341,7 +341,8 @@ class Judging(Case):
         again = ((), ("barred", 1, (1,)))
         self.check_case(PLAIN, rule, 1, (there, None, again), [
             (other, True), (((), ("barred", 1, (2,))), True), (((), ("barred", 1, (1,))), False), (((), ("barred", 2, (1,))), False),
-            (((), ("barred", -1, (2,))), False), (((), ("barred", True, (2,))), False), (((), ("barred", 1, (-1,))), False)])
+            (((), ("barred", -1, (2,))), False), (((), ("barred", True, (2,))), False), (((), ("barred", 1, (-1,))), False),
+            (((), ("Barred", 1, (2,))), False), (((), ("fold", 1, (2,))), False), (((), ("barred", 1, (2,), 0)), False)])
         # A variable that stands twice, and integers.
         rule = Rule(("x", "y"), +T, without=((+Place("t", "z", "z"),), (+Place("t", "x", 5),), (+T,)))
         right = [((), ("there", (0,))), *[((), ("barred", 2, (0,)))] * 3]

@@ -143,6 +143,73 @@ class Language(unittest.TestCase):
             if [place for place in places if place[2] is None]:
                 self.assertEqual([place[0] for place in places[1:]], [], called)
 
+    def test_no_name_has_two_meanings_in_a_file(self):
+        for name, tree in TREES.items():
+            known = {alias.asname or alias.name for node in ast.walk(tree) if isinstance(node, ast.ImportFrom) for alias in node.names}
+            known |= {node.name for node in tree.body if isinstance(node, ast.ClassDef)}
+            for node in ast.walk(tree):
+                if isinstance(node, ast.arg):
+                    self.assertNotIn(node.arg, known, f"{name} row {node.lineno}")
+                if isinstance(node, ast.Name) and isinstance(node.ctx, (ast.Store, ast.Del)):
+                    self.assertNotIn(node.id, known, f"{name} row {node.lineno}")
+
+    def test_no_name_is_a_method_and_an_attribute(self):
+        properties, methods = properties_and_methods()
+        stored = {node.attr for _, node in nodes(ast.Attribute) if isinstance(node.ctx, ast.Store)} - {"policy"}
+        self.assertEqual(stored & (methods | properties), set())
+        read = {node.attr for _, node in nodes(ast.Attribute) if isinstance(node.ctx, ast.Load)}
+        values = {part.targets[0].id for _, node in nodes(ast.ClassDef) for part in node.body if isinstance(part, ast.Assign)}
+        self.assertEqual(read - stored - methods - properties - values - METHODS - {"setter"}, set())
+
+    def test_words_that_do_not_occur(self):
+        barred = set(
+            "type typing typing_extensions enum Enum IntEnum StrEnum Flag IntFlag Generic Protocol ABC ABCMeta namedtuple NamedTuple TypedDict abstractmethod".split())
+        never = set("register mro elements open input law version_info with_traceback add_note".split())
+        names = set(
+            "attrgetter breakpoint builtins compile copyright credits delattr dir eval exec exit gc getattr globals hasattr help id importlib license locals methodcaller os "
+            "quit setattr type vars sys _cold _tuplegetter _outside _record _written_out _member_names".split())
+        for name, node in nodes(ast.Name, ast.arg, ast.FunctionDef, ast.ClassDef, ast.Attribute, ast.keyword):
+            word = getattr(node, "id", None) or getattr(node, "arg", None) or getattr(node, "name", None) or getattr(node, "attr", None)
+            self.assertNotIn(word, barred | never, name)
+            if not isinstance(node, (ast.Attribute, ast.keyword)):
+                self.assertNotIn(word, names, name)
+            if word is not None and not (word.startswith("__") and word.endswith("__")):
+                self.assertRegex(word, r"^(_|_?[A-Za-z][A-Za-z0-9_]*)$")
+        for name, text in FILES.items():
+            for word in ("_wall", "Meta", "metaclass=", "(type)", "dataclass", "overload", "contextmanager"):
+                self.assertNotIn(word, text, name)
+
+    def test_sets_stand_where_they_may(self):
+        # Each set is made in the place where it is used up at once.
+        parents = {id(child): parent for _, tree in TREES.items() for parent in ast.walk(tree) for child in ast.iter_child_nodes(parent)}
+        for name, node in nodes(ast.Call, ast.SetComp, ast.Set):
+            if isinstance(node, ast.Call) and not (isinstance(node.func, ast.Name) and node.func.id == "set"):
+                continue
+            above = parents[id(node)]
+            is_used_up = isinstance(above, ast.Call) and isinstance(above.func, ast.Name) and above.func.id in ("sorted", "len") and not above.keywords
+            self.assertTrue(is_used_up, f"{name} row {node.lineno}")
+
+    def test_only_the_statements_that_are_allowed(self):
+        kinds = (
+            ast.Import, ast.Global, ast.Nonlocal, ast.AsyncFunctionDef, ast.AsyncFor, ast.AsyncWith, ast.Await, ast.NamedExpr, ast.Match, ast.Assert, ast.AnnAssign,
+            ast.GeneratorExp)
+        self.check(nodes(*kinds))
+        for name, node in nodes(ast.FunctionDef):
+            words = [ast.unparse(word) for word in node.decorator_list]
+            self.assertIn(words, [[], ["property"], ["classmethod"], ["staticmethod"], [f"{node.name}.setter"]])
+
+    def test_what_is_iterated_is_iterated_at_once(self):
+        # zip, enumerate, reversed, range and the views of dicts stand behind `in`, or are the first argument of a call that goes over them.
+        parents = {id(child): parent for _, tree in TREES.items() for parent in ast.walk(tree) for child in ast.iter_child_nodes(parent)}
+        for name, node in nodes(ast.Call):
+            plain = isinstance(node.func, ast.Name) and node.func.id in ("zip", "enumerate", "reversed", "range")
+            view = isinstance(node.func, ast.Attribute) and node.func.attr in ("items", "keys", "values")
+            if plain or view:
+                above = parents[id(node)]
+                goes = isinstance(above, (ast.For, ast.comprehension)) and above.iter is node
+                call = isinstance(above, ast.Call) and isinstance(above.func, ast.Name) and above.args[0] is node
+                self.assertTrue(goes or (call and above.func.id in ("list", "tuple", "dict", "sorted", "sum", "len", "enumerate")), f"{name} row {node.lineno}")
+
     def test_reversed_stands_over_lists(self):
         self.check([
             (name, node) for name, node in nodes(ast.Call) if isinstance(node.func, ast.Name) and node.func.id == "reversed"

@@ -1,7 +1,7 @@
 """Strings in columns, and the rows of a table in columns."""
 
 from goneunseen.base.bases import Base
-from goneunseen.errors import InvalidBase, InvalidOperation, UnknownName
+from goneunseen.errors import InvalidBase, InvalidOperation
 from goneunseen.text.formats import row_lines
 
 _MOST_COLUMNS = 8
@@ -31,8 +31,6 @@ def base_columns(base, table):
     """The rows of a table in columns."""
     if not isinstance(base, Base):
         raise InvalidBase("no base")
-    if table not in base.scheme:
-        raise UnknownName(table)
     rows = []
     for row, words in row_lines(base, table):
         many = words[1] if len(words) > 1 else "1"
