@@ -348,6 +348,9 @@ class Unfolding(Case):
         self.assertEqual(below(program, "b"), Spots(("b", 0, 0)))
         self.assertEqual(below(program, "c"), Spots(("a", 0, 0), ("a", 1, 0), ("c", 0, 1)))
         self.assertEqual(below(program, "d"), Spots(("a", 0, 0), ("a", 1, 0), ("c", 0, 1)))
+        # What other views use is not below a view.
+        later = Program(PLAIN, a=Rule(("x",), S), b=Rule(("x",), S), c=Rule(("x",), Place("b", "x")))
+        self.assertEqual([below(later, name) for name in "abc"], [Spots(("a", 0, 0)), Spots(("b", 0, 0)), Spots(("b", 0, 0))])
         # Also what stands in choices that are left out.
         empty = Program(PLAIN, a=Rule((1,), S), b=Rule((), Place("a", 2), T))
         self.assertEqual([told(empty, "b"), below(empty, "b")], [[], Spots(("a", 0, 0), ("b", 0, 1))])
@@ -384,6 +387,32 @@ class Unfolding(Case):
                             origin = program[view][index][at]
                             self.assertEqual((place.source, place.filtered), (origin.source, origin.filtered))
         self.assertGreater(seen, 200)
+
+    def test_programs_made_from_others_are_those_made_anew(self):
+        # Also if their unfolded rules were asked for before, or were not.
+        dice = random.Random(9)
+        for scheme in some_schemes():
+            for _ in range(40):
+                program = random_program(dice, scheme)
+                if program is None:
+                    continue
+                loose = scheme
+                for rule in scheme.rules:
+                    if rule[0] != "key" and dice.random() < 0.5:
+                        loose = loose.without(rule)
+                some = Spots(*[spot for spot in program.places if dice.random() < 0.5])
+                for is_asked in (False, True):
+                    for made in (program + some, program - some, program + program.places, program - program.places, program.under(loose), (program + some).under(loose) - program.places):
+                        views = {name: made[name] for name in made.names}
+                        anew = Program.of(made.scheme, views)
+                        self.assertEqual(made, anew)
+                        for name in made.names:
+                            self.assertEqual(list(zip(map(str, unfolded(made, name)), origins(made, name))), unfold(anew)[name])
+                            self.assertEqual(unfolded(made, name), unfolded(anew, name))
+                        self.assertEqual([made.places, made.free], [anew.places, anew.free])
+                    if not is_asked:
+                        for name in program.names:
+                            unfolded(program, name)
 
     def test_unfolded_rules_tell_what_the_views_tell(self):
         dice = random.Random(8)
