@@ -48,6 +48,15 @@ class Cores(Case):
                     self.assertIs(is_core(scheme, rule, (value, other, ordered(scheme, image))), many == min(images))
         return [len([row for other, row in rows if other == name]) for name in scheme.names]
 
+    def test_folds_one_after_another(self):
+        # What is found first is not yet a core here.
+        for head, places in (
+                (("w",), [t("u", "z"), t("w", "w"), Place("s", "x"), t("u", "y"), t("u", "y"), t("v", "v")]),
+                (("u", "w"), [t("v", "y"), t("w", "v"), t("w", "u"), t("u", "x"), t("z", "y"), t("v", "x")]),
+                (("u", "z"), [t("z", "z"), t("z", "y"), Place("s", "w"), t("v", "u"), Place("s", "v"), Place("s", "v")]),
+                (("x", "y"), [Place("s", "v"), t("z", "x"), t("z", "z"), t("x", "y"), Place("s", "y"), t("w", "y")])):
+            self.check(PLAIN, Rule(head, *places), 10 ** 6)
+
     def test_sizes(self):
         for places, head, expected in (
                 ([t("x", "y"), t("x", "z")], (), 1), ([t("x", "y"), t("x", "z")], ("y", "z"), 2), ([t("x", "y"), t("x", "z")], ("y",), 1),

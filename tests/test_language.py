@@ -78,18 +78,17 @@ def called_names(node):
 
 
 def own_lists(node):
-    """The local names that a function assigns nothing but lists and dicts which it creates."""
+    """The local names that a function assigns nothing but lists and dicts which it creates, each in a statement of its own."""
     kinds = {}
     for part in ast.walk(node):
         if isinstance(part, ast.Assign):
+            value = part.value
+            is_call = isinstance(value, ast.Call) and isinstance(value.func, ast.Name) and value.func.id in MAKERS
+            is_own = is_call or isinstance(value, (ast.List, ast.Dict, ast.ListComp))
             for target in part.targets:
-                names = target.elts if isinstance(target, ast.Tuple) else [target]
-                values = part.value.elts if isinstance(target, ast.Tuple) and isinstance(part.value, ast.Tuple) else [part.value] * len(names)
-                for one, value in zip(names, values):
-                    if isinstance(one, ast.Name):
-                        is_call = isinstance(value, ast.Call) and isinstance(value.func, ast.Name) and value.func.id in MAKERS
-                        is_own = is_call or isinstance(value, (ast.List, ast.Dict, ast.ListComp))
-                        kinds.setdefault(one.id, []).append(is_own and not (isinstance(target, ast.Tuple) and not isinstance(part.value, ast.Tuple)))
+                for one in ast.walk(target):
+                    if isinstance(one, ast.Name) and isinstance(one.ctx, ast.Store):
+                        kinds.setdefault(one.id, []).append(is_own and one is target)
     return {name for name, are_own in kinds.items() if all(are_own)}
 
 
@@ -155,7 +154,7 @@ class Language(unittest.TestCase):
 
     def test_no_name_is_a_method_and_an_attribute(self):
         properties, methods = properties_and_methods()
-        stored = {node.attr for _, node in nodes(ast.Attribute) if isinstance(node.ctx, ast.Store)} - {"policy"}
+        stored = {node.attr for _, node in nodes(ast.Attribute) if isinstance(node.ctx, ast.Store)}
         self.assertEqual(stored & (methods | properties), set())
         read = {node.attr for _, node in nodes(ast.Attribute) if isinstance(node.ctx, ast.Load)}
         values = {part.targets[0].id for _, node in nodes(ast.ClassDef) for part in node.body if isinstance(part, ast.Assign)}

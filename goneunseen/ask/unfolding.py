@@ -98,7 +98,8 @@ def _choices(triples, earlier):
 
 def _equated(triples, choice, earlier):
     """What is equal in an unfolded rule, as a sketch keeps it, or None if two different integers are equated."""
-    found, stands_for = [], {}
+    found = []
+    stands_for = {}
     for (_, terms, _), option in zip(triples, choice):
         known = {}
         head = () if option is None else earlier[option[0]][option[1]].new_head
@@ -126,7 +127,8 @@ def _end_of_chain(term, stands_for):
 
 def _lettered(head, ends):
     """The head of an unfolded rule: its variables come first among those that are renamed."""
-    names, found = {}, []
+    names = {}
+    found = []
     for term in head:
         end = ends.get(term, term)
         if isinstance(end, str) and end not in names:
