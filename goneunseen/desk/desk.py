@@ -188,11 +188,11 @@ class Desk(Store, Journal):
     def adopt(self, scheme):
         """Gives another scheme to the base and the programs, and returns the new filters."""
         base = self._base.on(scheme)
-        questions = {}
+        moved = {}
         for name in self._questions:
             program, view, mode = self._questions[name]
-            questions[name] = (program.under(scheme), view, mode)
-        questions, filters = all_guarded(self._policy, questions)
+            moved[name] = (program.under(scheme), view, mode)
+        questions, filters = all_guarded(self._policy, moved)
         self._base, self._ledger, self._questions = base, None, questions
         self.enter(("adopt",))
         return filters
