@@ -78,7 +78,10 @@ def called_names(node):
 
 
 def own_lists(node):
-    """The local names that a function assigns nothing but lists and dicts which it creates, each in a statement of its own."""
+    """The local names that stand for nothing in a function but lists and dicts which it creates, each in a statement of its own.
+
+    Parameters count, and what loops, comprehensions, handlers and nested functions bind, too.
+    """
     kinds = {}
     for part in ast.walk(node):
         if isinstance(part, ast.Assign):
@@ -86,10 +89,83 @@ def own_lists(node):
             is_call = isinstance(value, ast.Call) and isinstance(value.func, ast.Name) and value.func.id in MAKERS
             is_own = is_call or isinstance(value, (ast.List, ast.Dict, ast.ListComp))
             for target in part.targets:
-                for one in ast.walk(target):
-                    if isinstance(one, ast.Name) and isinstance(one.ctx, ast.Store):
-                        kinds.setdefault(one.id, []).append(is_own and one is target)
-    return {name for name, are_own in kinds.items() if all(are_own)}
+                if isinstance(target, ast.Name):
+                    kinds.setdefault(target.id, []).append(is_own)
+    bound = [part.id for part in ast.walk(node) if isinstance(part, ast.Name) and not isinstance(part.ctx, ast.Load)]
+    for part in ast.walk(node):
+        if isinstance(part, ast.arg):
+            bound.append(part.arg)
+        if isinstance(part, (ast.ExceptHandler, ast.FunctionDef)) and part.name is not None:
+            bound.append(part.name)
+    return {name for name, are_own in kinds.items() if all(are_own) and bound.count(name) == len(are_own)}
+
+
+def same_lists(node):
+    """For each name in a function those that can stand for the same list: they are assigned one another, also by a choice."""
+    same = {}
+
+    def join(first, second):
+        both = same.get(first, {first}) | same.get(second, {second})
+        for one in both:
+            same[one] = both
+
+    def plain_names(value):
+        if isinstance(value, ast.Name):
+            return [value.id]
+        if isinstance(value, ast.Attribute):
+            return [ast.unparse(value)]
+        choices = [value.body, value.orelse] if isinstance(value, ast.IfExp) else value.values if isinstance(value, ast.BoolOp) else []
+        return [one for choice in choices for one in plain_names(choice)]
+    for part in ast.walk(node):
+        if isinstance(part, ast.Assign):
+            for target in part.targets:
+                pairs = [(target, part.value)]
+                if isinstance(target, ast.Tuple) and isinstance(part.value, ast.Tuple):
+                    pairs = zip(target.elts, part.value.elts)
+                for one, value in pairs:
+                    for name in plain_names(one):
+                        for other in plain_names(value):
+                            join(name, other)
+    return same
+
+
+def walked_names(iterated):
+    """The names whose lists or dicts a loop over this goes over, also through `zip`, `items` and the like or by a choice."""
+    if isinstance(iterated, (ast.Name, ast.Attribute)):
+        return [ast.unparse(iterated)]
+    inner = []
+    if isinstance(iterated, ast.IfExp):
+        inner = [iterated.body, iterated.orelse]
+    elif isinstance(iterated, ast.BoolOp):
+        inner = iterated.values
+    elif isinstance(iterated, ast.Call) and isinstance(iterated.func, ast.Name) and iterated.func.id in ("enumerate", "zip", "reversed"):
+        inner = iterated.args
+    elif isinstance(iterated, ast.Call) and isinstance(iterated.func, ast.Attribute) and iterated.func.attr in ("items", "keys", "values"):
+        inner = [iterated.func.value]
+    return [name for one in inner for name in walked_names(one)]
+
+
+def changed_in_loops(node):
+    """What a function changes in a loop that goes over it, by its own name or by another one."""
+    same, found = same_lists(node), []
+    for loop in ast.walk(node):
+        walked, inside = [], []
+        if isinstance(loop, ast.For):
+            walked, inside = walked_names(loop.iter), loop.body
+        elif isinstance(loop, (ast.ListComp, ast.SetComp, ast.DictComp)):
+            walked, inside = [name for part in loop.generators for name in walked_names(part.iter)], [loop]
+        barred = {other for name in walked for other in same.get(name, {name})}
+        for part in [part for one in inside for part in ast.walk(one)]:
+            target = None
+            if isinstance(part, ast.Call) and isinstance(part.func, ast.Attribute) and part.func.attr in MODIFYING:
+                target = part.func.value
+            elif isinstance(part, ast.Subscript) and isinstance(part.ctx, (ast.Store, ast.Del)):
+                target = part.value
+            elif isinstance(part, ast.AugAssign):
+                target = part.target
+            if isinstance(target, (ast.Name, ast.Attribute)) and ast.unparse(target) in barred:
+                found.append(part)
+    return found
 
 
 def changes(node, is_init):
@@ -135,6 +211,9 @@ class Language(unittest.TestCase):
     def test_properties_and_operators_change_nothing(self):
         self.check([
             (name, part) for name, node, owner in quiet_functions() for part in changes(node, node.name == "__init__")])
+
+    def test_what_a_loop_goes_over_is_not_changed_in_it(self):
+        self.check([(name, part) for name, node in nodes(ast.FunctionDef) for part in changed_in_loops(node)])
 
     def test_functions_have_names_of_their_own(self):
         # What a property or an operator calls is looked up by its bare name, over the whole package.

@@ -66,9 +66,12 @@ def _beginnings(plans):
         return []
     found = [((), ())]
     for spots, buckets in plans[:-1]:
-        longer = []
-        for values, pairs in found:
-            for pair, more in buckets.get(tuple([values[at] for at in spots]), ()):
-                longer.append((values + more, pairs + (pair,)))
-        found = longer
+        found = _lengthened(found, spots, buckets)
     return found
+
+
+def _lengthened(found, spots, buckets):
+    """The pairs with those of one place more, behind their values."""
+    return [
+        (values + more, pairs + (pair,)) for values, pairs in found
+        for pair, more in buckets.get(tuple([values[at] for at in spots]), ())]

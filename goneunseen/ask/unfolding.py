@@ -115,7 +115,7 @@ def _equated(triples, choice, earlier):
                     stands_for[first] = second
         found.append(known)
     if stands_for:
-        found = [{inner: _end_of_chain(known[inner], stands_for) for inner in known} for known in found]
+        found = [{inner: _end_of_chain(equal[inner], stands_for) for inner in equal} for equal in found]
     return [*found, {term: _end_of_chain(term, stands_for) for term in stands_for}]
 
 
