@@ -1,10 +1,11 @@
 """Answers of views, their numbers, and matches of rules."""
 
 from goneunseen.ask.arguments import check_base, check_living, check_table_rule
+from goneunseen.ask.joins import columns_of
 from goneunseen.ask.programs import outlines_of
 from goneunseen.ask.rules import outline_of
 from goneunseen.ask.tallies import Counted, Tally
-from goneunseen.ask.told import check_product, columns_of, pairs_for, told_answers, told_numbers
+from goneunseen.ask.told import check_product, pairs_for, told_answers, told_numbers
 
 
 def answers(program, name, base, *, living=False):

@@ -11,13 +11,11 @@ class Place:
     """A place of a query, filtered or free; a place never changes."""
 
     def __init__(self, source, *terms, filtered=False):
-        self._source = source
-        self._terms = terms
         if isinstance(filtered, Sound):
-            self._filtered = filtered.worth
+            self._triple = (source, terms, filtered.worth)
         else:
-            self._filtered = filtered
             _check_parts(source, terms, filtered)
+            self._triple = (source, terms, filtered)
 
     @classmethod
     def of(cls, source, terms, *, filtered=False):
@@ -29,56 +27,51 @@ class Place:
     @property
     def source(self):
         """The name of the table or of the view."""
-        return self._source
+        return self._triple[0]
 
     @property
     def terms(self):
         """The terms."""
-        return self._terms
+        return self._triple[1]
 
     @property
     def filtered(self):
         """Whether it means living rows only."""
-        return self._filtered
+        return self._triple[2]
 
     @property
     def variables(self):
         """The variables among the terms, ascending."""
-        return tuple(sorted(set([term for term in self._terms if isinstance(term, str)])))
+        return tuple(sorted(set([term for term in self._triple[1] if isinstance(term, str)])))
 
     def __pos__(self):
-        return _place_with(self._source, self._terms, Sound(True))
+        return _place_with(self._triple, Sound(True))
 
     def __neg__(self):
-        return _place_with(self._source, self._terms, Sound(False))
+        return _place_with(self._triple, Sound(False))
 
     def __invert__(self):
-        return _place_with(self._source, self._terms, Sound(not self._filtered))
+        return _place_with(self._triple, Sound(not self._triple[2]))
 
     def __len__(self):
-        return len(self._terms)
+        return len(self._triple[1])
 
     def __eq__(self, other):
-        return (
-            isinstance(other, Place)
-            and self._source == other._source
-            and self._terms == other._terms
-            and self._filtered == other._filtered
-        )
+        return isinstance(other, Place) and self._triple == other._triple
 
     def __str__(self):
-        return f"{_sign(self._filtered)}{self._source}({_terms_text(self._terms)})"
+        return f"{_sign(self._triple[2])}{self._triple[0]}({_terms_text(self._triple[1])})"
 
 
 def triples_of(places):
     """For each place the triple of its source, its terms and whether it is filtered: most work is done on these."""
-    return tuple([(place._source, place._terms, place._filtered) for place in places])
+    return tuple([place._triple for place in places])
 
 
 def places_of(triples):
     """The places with these triples, which come from other places."""
     marks = {True: Sound(True), False: Sound(False)}
-    return [_place_with(source, terms, marks[filtered]) for source, terms, filtered in triples]
+    return [_place_with(triple, marks[triple[2]]) for triple in triples]
 
 
 def row_at(place, numbers):
@@ -104,7 +97,8 @@ def fits(place, row, numbers):
     return {name: found[name] for name in sorted(found)}
 
 
-def _place_with(source, terms, mark):
+def _place_with(triple, mark):
+    source, terms, _ = triple
     return Place(source, *terms, filtered=mark)
 
 

@@ -38,6 +38,7 @@ class Program:
             # The outlines of all views, and the unfolded rules of a view, are made when they are asked for first.
             self._outlines = {}
         self._unfolded = {}
+        self._mendings = {}
 
     @classmethod
     def of(cls, scheme, views):
@@ -121,6 +122,11 @@ def outlines_of(program, name):
     if not program._outlines:
         program._outlines.update(outlined_views(program._views, program._sketches))
     return tuple(program._outlines[name])
+
+
+def mendings_of(program):
+    """The dict of what was found out about filters at the views of a program, as it is kept: to be added to."""
+    return program._mendings
 
 
 def below(program, name):

@@ -3,8 +3,8 @@
 from goneunseen.ask.places import Place, places_of, triples_of
 from goneunseen.ask.sound import Sound
 from goneunseen.errors import InvalidNumber, InvalidOperation, InvalidRule, InvalidScheme
-from goneunseen.scheme.names import is_name, is_term, is_whole
-from goneunseen.scheme.schemes import Scheme
+from goneunseen.scheme.names import is_integer, is_name, is_whole
+from goneunseen.scheme.schemes import Scheme, plans_of
 
 _LONGEST_HEAD = 4
 _MOST_PLACES = 6
@@ -15,16 +15,20 @@ class Rule:
     """What holds if its places do, and none of its parts does; a rule never changes."""
 
     def __init__(self, head, *places, without=()):
+        if isinstance(without, Sound):
+            parts = without.worth
+        else:
+            parts = without
+            _check_places(places, _MOST_PLACES)
+            _check_without(places, parts)
+            _check_head(head, places, parts)
         self._head = head
         self._places = places
-        if isinstance(without, Sound):
-            self._parts = without.worth
-        else:
-            self._parts = without
-            _check_head(head)
-            _check_places(places, _MOST_PLACES)
-            _check_without(places, without)
-            _check_variables(head, places, without)
+        self._parts = parts
+        self._outline = (head, triples_of(places))
+        self._part_triples = tuple([triples_of(part) for part in parts]) if parts else ()
+        # What was worked out about the rule is kept with it; none of it shows in what is told.
+        self._worked_out = {}
 
     @classmethod
     def of(cls, head, places, *, without=()):
@@ -56,13 +60,13 @@ class Rule:
     @property
     def variables(self):
         """The variables of the places, ascending."""
-        return tuple(sorted(set([term for term in _terms_in(self._places) if isinstance(term, str)])))
+        return tuple(sorted(set([term for term in _terms_in(self._outline[1]) if isinstance(term, str)])))
 
     @property
     def integers(self):
         """The integers in the head, the places and the parts, ascending."""
-        inside = [term for part in self._parts for term in _terms_in(part)]
-        terms = [*self._head, *_terms_in(self._places), *inside]
+        inside = [term for triples in self._part_triples for term in _terms_in(triples)]
+        terms = [*self._head, *_terms_in(self._outline[1]), *inside]
         return tuple(sorted(set([term for term in terms if isinstance(term, int)])))
 
     def renamed(self, names):
@@ -107,25 +111,33 @@ def tables_fit(scheme, rule):
         raise InvalidScheme("no scheme")
     if not isinstance(rule, Rule):
         raise InvalidRule("no rule")
-    widths = {table.name: table.width for table in scheme}
-    inside = [place for part in rule._parts for place in part]
-    return all([len(terms) == widths.get(source) for source, terms, _ in triples_of([*rule._places, *inside])])
+    plans = plans_of(scheme)
+    for triples in (rule._outline[1], *rule._part_triples):
+        for source, terms, _ in triples:
+            if source not in plans or plans[source][0] != len(terms):
+                return False
+    return True
 
 
 def outline_of(rule):
     """The head of a rule and the triples of its places: what is asked of many rules is asked of their outlines."""
-    return rule._head, triples_of(rule._places)
+    return rule._outline
+
+
+def part_triples_of(rule):
+    """For each part of a rule the triples of its places."""
+    return rule._part_triples
+
+
+def worked_out(rule):
+    """The dict of what was worked out about a rule, as it is kept: to be looked at, and added to."""
+    return rule._worked_out
 
 
 def rule_of(head, triples):
     """The rule without parts that has this outline, which comes from other rules."""
     places, mark = places_of(triples), Sound(())
     return Rule(head, *places, without=mark)
-
-
-def _check_head(head):
-    if not isinstance(head, tuple) or len(head) > _LONGEST_HEAD or not all([is_term(term) for term in head]):
-        raise InvalidRule("a head is a tuple of at most four terms")
 
 
 def _check_places(places, most):
@@ -142,17 +154,21 @@ def _check_without(places, parts):
         _check_places(part, _MOST_PLACES - len(places))
 
 
-def _check_variables(head, places, parts):
-    terms = _terms_in(places)
-    if not all([term in terms for term in head if isinstance(term, str)]):
-        raise InvalidRule("a variable of the head stands in no place")
+def _check_head(head, places, parts):
+    if not isinstance(head, tuple) or len(head) > _LONGEST_HEAD:
+        raise InvalidRule("a head is a tuple of at most four terms")
+    terms = _terms_in(triples_of(places))
+    for term in head:
+        # What stands in a place is a variable; Python counts True as equal to 1, so only strings are looked up.
+        if not (term in terms if isinstance(term, str) else is_integer(term)):
+            raise InvalidRule("a term of the head is none, or a variable that stands in no place")
     if parts and not all([term in head for term in terms if isinstance(term, str)]):
         raise InvalidRule("with parts, the head has all variables of the places")
 
 
-def _terms_in(places):
-    """The terms of the places, as often as they stand there."""
-    return [term for _, terms, _ in triples_of(places) for term in terms]
+def _terms_in(triples):
+    """The terms of places, as often as they stand there."""
+    return [term for _, terms, _ in triples for term in terms]
 
 
 def _renamed_terms(terms, names):

@@ -3,7 +3,8 @@
 Rules are told by their outlines here: the head, the triples of the places, and perhaps more behind these.
 """
 
-from goneunseen.base.bases import kept_rows
+from goneunseen.ask.joins import Join, columns_of
+from goneunseen.base.bases import different_rows, kept_rows
 from goneunseen.errors import TooMany
 
 _MOST_COMBINATIONS = 50000
@@ -17,18 +18,21 @@ def check_combinations(outlines, base):
 
 def check_product(base, triples):
     """Raises an error if places have too many combinations of different stored rows."""
-    many = 1
-    for source, _, _ in triples:
-        many = many * _how_many_different(base, source)
+    check_how_many(how_many_combinations(base, triples))
+
+
+def check_how_many(many):
+    """Raises an error if these are too many combinations."""
     if many > _MOST_COMBINATIONS:
         raise TooMany(_MOST_COMBINATIONS)
 
 
-def _how_many_different(base, table):
-    living, gone = kept_rows(base, table)
-    if not gone:
-        return len(living)
-    return len(gone) + len([row for row in living if row not in gone])
+def how_many_combinations(base, triples):
+    """How many combinations of different stored rows places have."""
+    many = 1
+    for source, _, _ in triples:
+        many = many * len(different_rows(base, source, False))
+    return many
 
 
 def told_answers(outlines, base, living):
@@ -55,26 +59,13 @@ def told_both_ways(outlines, base):
 def counts_of_outline(head, triples, base, living):
     """A dict from the answers of a rule, in any order, to their numbers.
 
-    Place by place it keeps only the integers of those variables that stand in the head or in a later place, so that
-    matches which differ in other variables are counted together.
+    Matches which differ in variables that are not needed any more are counted together.
     """
     weights = [_weights(base, triple, living) for triple in triples]
+    # Where a place has no rows at all, there is no end to what the others could have together.
     if not all([bool(rows) for rows in weights]):
         return {}
-    names, counts = [], {(): 1}
-    for at, (_, terms, _) in enumerate(triples):
-        later = [*head, *[term for _, others, _ in triples[at + 1:] for term in others]]
-        names, counts = _behind_place(names, counts, terms, weights[at], later)
-    return _headed(head, names, counts)
-
-
-def columns_of(terms):
-    """A dict from the variables among the terms of a place to the first columns in which they stand."""
-    columns = {}
-    for column, term in enumerate(terms):
-        if isinstance(term, str) and term not in columns:
-            columns[term] = column
-    return columns
+    return Join(triples, head).counts_in(weights)
 
 
 def fitting_rows(terms, rows):
@@ -104,38 +95,3 @@ def _weights(base, triple, living):
         for row in fitting_rows(terms, gone):
             weights[row] = weights.get(row, 0) + gone[row]
     return weights
-
-
-def _behind_place(names, counts, terms, weights, later):
-    """The names and the counts behind one place more: keys of the counts are the integers of the names."""
-    columns = columns_of(terms)
-    known = [columns[name] for name in names if name in columns]
-    spots = [at for at, name in enumerate(names) if name in columns]
-    more = [name for name in columns if name not in names and name in later]
-    kept = [at for at, name in enumerate(names) if name in later]
-    added = [columns[name] for name in more]
-    buckets = {}
-    for row in weights:
-        key = tuple([row[column] for column in known])
-        if key not in buckets:
-            buckets[key] = []
-        buckets[key].append((tuple([row[column] for column in added]), weights[row]))
-    found = {}
-    for values in counts:
-        rest = tuple([values[at] for at in kept])
-        for ending, weight in buckets.get(tuple([values[at] for at in spots]), ()):
-            key = rest + ending
-            found[key] = found.get(key, 0) + counts[values] * weight
-    return [*[names[at] for at in kept], *more], found
-
-
-def _headed(head, names, counts):
-    """The counts by heads instead of by the integers of the names: the names are the variables of the head."""
-    if names == list(head):
-        return counts
-    spots = [names.index(term) if isinstance(term, str) else None for term in head]
-    found = {}
-    for values in counts:
-        answer = tuple([term if at is None else values[at] for term, at in zip(head, spots)])
-        found[answer] = counts[values]
-    return found

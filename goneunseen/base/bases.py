@@ -2,7 +2,7 @@
 
 from goneunseen.errors import BrokenRule, InvalidBase, InvalidOperation, InvalidScheme, TooMany, UnknownName
 from goneunseen.scheme.names import is_row_of
-from goneunseen.scheme.schemes import Scheme, check_row, have_same_tables
+from goneunseen.scheme.schemes import Scheme, check_row, have_same_tables, plans_of
 from goneunseen.scheme.tables import picked
 
 
@@ -22,10 +22,17 @@ class Base:
     def __init__(self, scheme, *, living=None, gone=None):
         if not isinstance(scheme, Scheme):
             raise InvalidScheme("a base needs a scheme")
-        kept = living if isinstance(living, Kept) else _checked_rows(scheme, living, gone)
+        if isinstance(living, Kept):
+            kept = living
+        elif living is None and gone is None:
+            kept = _no_rows(scheme)
+        else:
+            kept = _checked_rows(scheme, living, gone)
         self._scheme = scheme
         self._living = kept.living_rows
         self._gone = kept.gone_rows
+        # The different rows of tables, as they are asked for.
+        self._different = {}
 
     @classmethod
     def empty(cls, scheme):
@@ -101,13 +108,29 @@ def kept_rows(base, table):
     return base._living[table], base._gone[table]
 
 
+def has_gone(base, table):
+    """Whether a table has gone rows."""
+    return len(base._gone[table]) > 0
+
+
+def different_rows(base, table, only_living):
+    """The tuple of the different stored rows of a table, in any order, or of its living rows."""
+    living, gone = base._living[table], base._gone[table]
+    if only_living or not gone:
+        return living
+    if table not in base._different:
+        base._different[table] = (*gone, *[row for row in living if row not in gone])
+    return base._different[table]
+
+
 def base_of(scheme, living, gone):
     """The base with the rows of dicts from the tables: lists of the living rows, and dicts of the gone ones.
 
     It is not checked, as many of them are made: the caller sees to it that they keep the rules.
     """
-    ascending = {name: tuple(sorted(living[name])) for name in living}
-    return Base(scheme, living=Kept(ascending, {name: _ascending(gone[name]) for name in gone}))
+    alive = {name: tuple(sorted(living[name])) for name in living}
+    copies = {name: _ascending(gone[name]) for name in gone}
+    return Base(scheme, living=Kept(alive, copies))
 
 
 def with_row(base, table, row, is_living, copies):
@@ -121,35 +144,41 @@ def with_row(base, table, row, is_living, copies):
     return Base(base._scheme, living=Kept({**base._living, table: living}, {**base._gone, table: gone}))
 
 
+def _no_rows(scheme):
+    names = plans_of(scheme)
+    return Kept({name: () for name in names}, {name: {} for name in names})
+
+
 def _checked_rows(scheme, living, gone):
     """The rows of a base, if they are rows of the scheme and keep its rules."""
-    if not _are_rows(scheme, living) or _has_row_twice(living):
+    plans = plans_of(scheme)
+    if not _are_rows(plans, living) or _has_row_twice(living):
         raise InvalidBase("the living rows are no dict from tables to tuples of different rows")
-    if not _are_rows(scheme, gone):
+    if not _are_rows(plans, gone):
         raise InvalidBase("the gone rows are no dict from tables to tuples of rows")
-    alive = {name: _sorted_rows(living, name) for name in scheme.names}
-    copies = {name: _copies_of_rows(_sorted_rows(gone, name)) for name in scheme.names}
+    alive = {name: _sorted_rows(living, name) for name in plans}
+    copies = {name: _copies_of_rows(_sorted_rows(gone, name)) for name in plans}
     if _how_many_living(alive) + _how_many_copies(copies) > Base.MAX_ROWS:
         raise TooMany(Base.MAX_ROWS)
-    broken = [rule for rule in scheme.rules if _is_broken(scheme, alive, copies, rule)]
-    if broken:
-        raise BrokenRule(broken[0])
+    for rule in scheme.rules:
+        if _is_broken(plans, alive, copies, rule):
+            raise BrokenRule(rule)
     return Kept(alive, copies)
 
 
-def _are_rows(scheme, value):
+def _are_rows(plans, value):
     """Whether the value is None, or a dict from names of tables to tuples of their rows."""
     if value is None:
         return True
     if not isinstance(value, dict):
         return False
-    return all([_are_rows_of(scheme, name, value[name]) for name in value])
+    return all([_are_rows_of(plans, name, value[name]) for name in value])
 
 
-def _are_rows_of(scheme, name, rows):
-    if name not in scheme or not isinstance(rows, tuple):
+def _are_rows_of(plans, name, rows):
+    if name not in plans or not isinstance(rows, tuple):
         return False
-    width = scheme[name].width
+    width = plans[name][0]
     return all([is_row_of(row, width) for row in rows])
 
 
@@ -173,7 +202,7 @@ def _copies_of_rows(rows):
 
 
 def _ascending(counts):
-    return {row: counts[row] for row in sorted(counts)}
+    return {row: counts[row] for row in sorted(counts)} if counts else {}
 
 
 def _counted_anew(counts, row, many):
@@ -197,14 +226,12 @@ def _how_many_copies(gone):
     return sum([many for name in gone for many in gone[name].values()])
 
 
-def _is_broken(scheme, living, gone, rule):
+def _is_broken(plans, living, gone, rule):
     name = rule[1]
     if rule[0] == "refers":
-        key = scheme[rule[3]].key
+        key = plans[rule[3]][1]
         keys = {picked(row, key): True for row in living[rule[3]]}
         return any([picked(row, rule[2]) not in keys for row in living[name]])
-    rows = list(living[name])
-    if rule[0] == "all":
-        rows.extend(_with_copies(gone[name]))
-    columns = scheme[name].key
+    rows = [*living[name], *_with_copies(gone[name])] if rule[0] == "all" else living[name]
+    columns = plans[name][1]
     return len(set([picked(row, columns) for row in rows])) < len(rows)

@@ -120,7 +120,7 @@ def _is_step(value):
 
 
 def _told_row(rows, number):
-    return rows.table_of(number).name, rows.terms_of(number), rows.is_living(number)
+    return rows.source_of(number), rows.terms_of(number), rows.is_living(number)
 
 
 def _folded(outline, head, living):
@@ -144,7 +144,7 @@ def _is_fold_ending(outlines, index, rows, value):
         return False
     values = values_of(head, rows.ends_of(outlines[index][0]), {})
     for (source, terms, _), number in zip(triples, value[2]):
-        if values is None or rows.table_of(number).name != source:
+        if values is None or rows.source_of(number) != source:
             return False
         values = values_of(terms, rows.terms_of(number), values)
     return values is not None

@@ -90,7 +90,7 @@ def frozen_with(scheme, outline, rows, numbers):
     living = {name: [] for name in scheme.names}
     gone = {name: {} for name in scheme.names}
     for number in _first_numbers(rows):
-        name, row = rows.table_of(number).name, _numbered_row(rows, number, numbers)
+        name, row = rows.source_of(number), _numbered_row(rows, number, numbers)
         if rows.is_living(number):
             living[name].append(row)
         else:
@@ -169,7 +169,7 @@ def _values(rows, base, pairs):
     """
     found = [pair[0] for pair in pairs]
     for number, index in rows.referring():
-        target = _referred(base, rows.table_of(number).refers[index], found[number])
+        target = _referred(base, rows.reference_of(number, index), found[number])
         if target is None:
             return None
         found.append(target)

@@ -1,7 +1,6 @@
 """Numbered rows: the rows of a rule's places, and what steps make of them."""
 
-from goneunseen.scheme.names import is_name
-from goneunseen.scheme.schemes import tables_by_name
+from goneunseen.scheme.schemes import plans_of
 from goneunseen.scheme.tables import picked
 
 
@@ -12,19 +11,24 @@ class Numbered:
     """
 
     def __init__(self, scheme, triples):
-        self._by_name = tables_by_name(scheme)
-        self._tables = [self._by_name[source] for source, _, _ in triples]
+        self._plans = plans_of(scheme)
+        self._sources = [source for source, _, _ in triples]
         self._written = [terms for _, terms, _ in triples]
         self._are_living = [is_living for _, _, is_living in triples]
-        self._one_with = list(range(len(triples)))
-        self._stands_for = {}
-        self._referring = []
+        # For each number the least one of its row, and for each term that is equated the one that is told for it.
+        self._firsts = list(range(len(triples)))
+        self._ends = {}
+        self._added_by = []
         self._made = 0
         self._is_empty = False
 
     def how_many(self):
         """How many numbers there are."""
-        return len(self._tables)
+        return len(self._sources)
+
+    def how_many_equated(self):
+        """How many terms another one is told for."""
+        return len(self._ends)
 
     def is_empty(self):
         """Whether two different integers are equated."""
@@ -32,32 +36,33 @@ class Numbered:
 
     def referring(self):
         """For each row behind those of the places the number of the row that refers to it, and by which reference."""
-        return list(self._referring)
+        return list(self._added_by)
 
-    def table_of(self, number):
-        """The table of a row."""
-        return self._tables[number]
+    def source_of(self, number):
+        """The name of the table of a row."""
+        return self._sources[number]
+
+    def reference_of(self, number, index):
+        """The columns and the target of a reference of a row."""
+        return self._plans[self._sources[number]][3][index]
 
     def first_of(self, number):
         """The least number of a row."""
-        while self._one_with[number] != number:
-            number = self._one_with[number]
-        return number
+        return self._firsts[number]
 
     def is_living(self, number):
         """Whether a row is living."""
-        return self._are_living[self.first_of(number)]
+        return self._are_living[self._firsts[number]]
 
     def are_living(self, many):
         """Whether as many of the first rows are living."""
-        return all([self.is_living(number) for number in range(many)])
+        return all([self._are_living[first] for first in self._firsts[:many]])
 
     def ends_of(self, terms):
         """The terms that are told for these terms."""
+        ends = self._ends
         # Most often nothing is equated at all.
-        if not self._stands_for:
-            return terms
-        return tuple([self._end_of(term) for term in terms])
+        return tuple([ends.get(term, term) for term in terms]) if ends else terms
 
     def terms_of(self, number):
         """The terms of a row, as they are told."""
@@ -66,23 +71,19 @@ class Numbered:
     def by_table(self, only_living):
         """A dict from the names of tables to the pairs of terms and number of their rows, or of the living ones."""
         found = {}
-        for number, table in enumerate(self._tables):
-            if not only_living or self.is_living(number):
-                found.setdefault(table.name, []).append((self.terms_of(number), number))
+        for number, source in enumerate(self._sources):
+            if not only_living or self._are_living[self._firsts[number]]:
+                found.setdefault(source, []).append((self.ends_of(self._written[number]), number))
         return found
-
-    def told_by(self, number, index):
-        """The key that a row tells by the reference with this index."""
-        return self.ends_of(picked(self._written[number], self._tables[number].refers[index][0]))
 
     def can_do(self, step):
         """Whether a step is possible now."""
         word, first, second = step
         if word == "same":
-            return 0 <= first < second < self.how_many() and self._can_be_one(first, second)
-        if not 0 <= first < self.how_many() or not self.is_living(first):
+            return 0 <= first < second < len(self._sources) and self._can_be_one(first, second)
+        if not 0 <= first < len(self._sources) or not self.is_living(first):
             return False
-        return 0 <= second < len(self._tables[first].refers)
+        return 0 <= second < len(self._plans[self._sources[first]][3])
 
     def do_step(self, step):
         """Does a step that is possible."""
@@ -92,61 +93,100 @@ class Numbered:
         else:
             self._refer(first, second)
 
-    def _end_of(self, term):
-        while term in self._stands_for:
-            term = self._stands_for[term]
-        return term
+    def merge_once(self):
+        """Makes rows one, in one pass over all of them; the steps that were done."""
+        marked, done = {}, []
+        if len(set(self._sources)) == len(self._sources):
+            return done
+        for number in range(len(self._sources)):
+            _, columns, is_all, _ = self._plans[self._sources[number]]
+            if is_all or self._are_living[self._firsts[number]]:
+                mark = (self._sources[number], self.ends_of(picked(self._written[number], columns)))
+                first = self._firsts[marked.setdefault(mark, number)]
+                if first != self._firsts[number]:
+                    self._make_one(first, number)
+                    done.append(("same", first, number))
+        return done
+
+    def refer_all(self):
+        """Adds the rows to which living rows refer, also through others, unless they are there; no rows can become one.
+
+        The steps that were done, and whether one of the added rows can become one with a gone row.
+        """
+        living = [number for number, first in enumerate(self._firsts) if first == number and self._are_living[number]]
+        if not any([self._plans[self._sources[number]][3] for number in living]):
+            return [], False
+        there = {self._mark_of(number): True for number in living}
+        done, at = [], 0
+        while at < len(living):
+            number = living[at]
+            for index, (columns, target) in enumerate(self._plans[self._sources[number]][3]):
+                mark = (target, self.ends_of(picked(self._written[number], columns)))
+                if mark not in there:
+                    there[mark] = True
+                    living.append(len(self._sources))
+                    self._refer(number, index)
+                    done.append(("refers", number, index))
+            at += 1
+        return done, bool(done) and any([mark in there for mark in self._marks_of_gone()])
+
+    def _mark_of(self, number):
+        """The table and the key of a row: by these, living rows are told apart."""
+        source = self._sources[number]
+        return source, self.ends_of(picked(self._written[number], self._plans[source][1]))
+
+    def _marks_of_gone(self):
+        """The marks of the gone rows whose keys bar others."""
+        return [
+            self._mark_of(number) for number, source in enumerate(self._sources)
+            if self._plans[source][2] and not self.is_living(number)]
 
     def _can_be_one(self, first, second):
-        table = self._tables[first]
-        if self._tables[second].name != table.name:
+        if self._sources[first] != self._sources[second] or self._mark_of(first) != self._mark_of(second):
             return False
-        columns = key_columns(table)
-        if picked(self.terms_of(first), columns) != picked(self.terms_of(second), columns):
-            return False
-        return table.scope == "all" or (self.is_living(first) and self.is_living(second))
+        return self._plans[self._sources[first]][2] or (self.is_living(first) and self.is_living(second))
 
     def _make_one(self, first, second):
+        ends = self._ends
         for term, other in zip(self._written[first], self._written[second]):
-            self._equate(self._end_of(term), self._end_of(other))
-        kept, other = sorted([self.first_of(first), self.first_of(second)])
+            if term != other:
+                self._equate(ends.get(term, term), ends.get(other, other))
+        kept, other = sorted([self._firsts[first], self._firsts[second]])
         self._are_living[kept] = self._are_living[kept] or self._are_living[other]
-        self._one_with[other] = kept
+        self._firsts = [kept if number == other else number for number in self._firsts]
 
     def _equate(self, first, second):
         if first == second:
             return
         if isinstance(first, int) and isinstance(second, int):
             self._is_empty = True
-        if _rank(second) < _rank(first):
+        elif _is_ahead(second, first):
             first, second = second, first
-        self._stands_for[second] = first
+        ends = self._ends
+        others = [term for term in ends if ends[term] == second]
+        for term in [*others, second]:
+            ends[term] = first
 
     def _refer(self, number, index):
-        target = self._by_name[self._tables[number].refers[index][1]]
-        key = dict(zip(target.key, self.told_by(number, index)))
-        self._referring.append((number, index))
-        self._one_with.append(self.how_many())
+        columns, target = self._plans[self._sources[number]][3][index]
+        width, key, _, _ = self._plans[target]
+        told = dict(zip(key, self.ends_of(picked(self._written[number], columns))))
+        self._added_by.append((number, index))
+        self._firsts.append(len(self._sources))
         self._are_living.append(True)
-        self._tables.append(target)
-        terms = [key[column] if column in key else self._new_term() for column in range(target.width)]
-        self._written.append(tuple(terms))
+        self._sources.append(target)
+        self._written.append(tuple([told[column] if column in told else self._new_term() for column in range(width)]))
 
     def _new_term(self):
         self._made += 1
         return str(self._made)
 
 
-def key_columns(table):
-    """The columns by which living rows of a table are told apart."""
-    key = table.key
-    return tuple(range(table.width)) if key is None else key
-
-
-def _rank(term):
-    """What is told for equal terms comes first: an integer, the least variable, the new term that was made first."""
-    if isinstance(term, int):
-        return 0, 0, ""
-    if is_name(term):
-        return 1, 0, term
-    return 2, int(term), ""
+def _is_ahead(first, second):
+    """Whether the first of two different terms is told for both: an integer, the least variable, the first new term."""
+    if isinstance(first, int) or isinstance(second, int):
+        return isinstance(first, int)
+    if first.isdigit() and second.isdigit():
+        return int(first) < int(second)
+    # Of a variable and a new term it is the variable.
+    return not first.isdigit() and (second.isdigit() or first < second)

@@ -37,21 +37,13 @@ def _narrowed(patterns, choices, places, values):
 
 def _fitting(terms, pairs, values):
     """Those of the pairs for whose rows the terms can stand with these values."""
-    columns, wanted, alike = [], [], []
     for column, term in enumerate(terms):
-        if isinstance(term, int) or term in values:
-            columns.append(column)
-            wanted.append(term if isinstance(term, int) else values[term])
-        elif terms.index(term) < column:
-            alike.append((terms.index(term), column))
-    if len(columns) == 1:
-        # Nearly always there is one, and this is asked very often.
-        column, value = columns[0], wanted[0]
-        pairs = [pair for pair in pairs if pair[0][column] == value]
-    elif columns:
-        pairs = [pair for pair in pairs if [pair[0][column] for column in columns] == wanted]
-    for first, second in alike:
-        pairs = [pair for pair in pairs if pair[0][first] == pair[0][second]]
+        wanted = term if isinstance(term, int) else values.get(term)
+        if wanted is not None:
+            pairs = [pair for pair in pairs if pair[0][column] == wanted]
+        elif term in terms[:column]:
+            first = terms.index(term)
+            pairs = [pair for pair in pairs if pair[0][first] == pair[0][column]]
     return pairs
 
 

@@ -1,7 +1,7 @@
 """Classes of places: each tight set of a rule without filters has one place of each."""
 
 from goneunseen.ask.arguments import check_table_rule
-from goneunseen.ask.rules import outline_of
+from goneunseen.ask.rules import outline_of, worked_out
 from goneunseen.errors import InvalidOperation
 from goneunseen.frozen.chase import as_living, chased
 from goneunseen.frozen.derivations import check_mode
@@ -12,19 +12,18 @@ from goneunseen.scheme.names import is_whole
 def classes(scheme, rule, *, mode="answers"):
     """Classes of a rule."""
     mending = _mending_places(scheme, rule, mode)
-    found = _apart(mending.needy(), _how_many_classes(mending))
+    needy = mending.needy()
+    found = _apart(needy, _how_many_classes(mending))
     return tuple(sorted([mending.spots_in(mask) for mask in found]))
 
 
 def is_classes(scheme, rule, value, *, mode="answers"):
     """Whether the value is classes of a rule."""
     mending = _mending_places(scheme, rule, mode)
-    if not isinstance(value, tuple) or len(value) != _how_many_classes(mending):
-        return False
-    if not all([_are_indices(indices, len(rule)) for indices in value]) or not _is_rising(value):
+    if not isinstance(value, tuple) or not all([_are_indices(indices, len(rule)) for indices in value]):
         return False
     together = [index for indices in value for index in indices]
-    if len(set(together)) < len(together):
+    if not _is_rising(value) or len(set(together)) < len(together) or len(value) != _how_many_classes(mending):
         return False
     everything = mending.everything()
     return not any([mending.mends(everything & ~mending.mask_of(indices)) for indices in value])
@@ -34,6 +33,13 @@ def _mending_places(scheme, rule, mode):
     """What filters at the places of a rule do to it; the spots are the indices of the places."""
     check_table_rule(scheme, rule)
     check_mode(mode)
+    known = worked_out(rule)
+    if mode not in known or not known[mode].is_under(scheme):
+        known[mode] = _new_mending(scheme, rule, mode)
+    return known[mode]
+
+
+def _new_mending(scheme, rule, mode):
     head, triples = outline_of(rule)
     if any([filtered for _, _, filtered in triples]):
         raise InvalidOperation("the rule has filters")
@@ -48,7 +54,7 @@ def _mending_places(scheme, rule, mode):
 
 def _how_many_classes(mending):
     """How many spots a tight set has: all of them have equally many."""
-    return len(mending.spots_in(mending.tight()[0]))
+    return len(mending.spots_in(mending.some_tight()))
 
 
 def _apart(needy, many):

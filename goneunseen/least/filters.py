@@ -1,6 +1,6 @@
 """The fewest filters that make a program faithful at a view."""
 
-from goneunseen.ask.programs import below, outlines_of
+from goneunseen.ask.programs import below, mendings_of, outlines_of
 from goneunseen.ask.spots import Spots, spots_of
 from goneunseen.errors import TooMany
 from goneunseen.faith.faithful import paper_behind, paper_over
@@ -94,10 +94,13 @@ def is_least_paper(program, name, value, *, mode="answers"):
 def _mending_of(program, name, mode):
     outlines = outlines_of(program, name)
     check_mode(mode)
-    free = below(program, name) & program.free
-    if len(free) > _MOST_FREE:
-        raise TooMany(_MOST_FREE)
-    return Mending(program.scheme, outlines, free.listed, mode)
+    known = mendings_of(program)
+    if (name, mode) not in known:
+        free = below(program, name) & program.free
+        if len(free) > _MOST_FREE:
+            raise TooMany(_MOST_FREE)
+        known[name, mode] = Mending(program.scheme, outlines, free.listed, mode)
+    return known[name, mode]
 
 
 def _mending_and_mask(program, name, value, mode):

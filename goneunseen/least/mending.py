@@ -1,6 +1,5 @@
 """Which filters mend a view: sets of free spots are told by integers here, with a bit for each spot."""
 
-from goneunseen.ask.unfolding import marked_outline
 from goneunseen.frozen.chase import chased
 from goneunseen.frozen.derivations import right_ending
 
@@ -14,9 +13,18 @@ class Mending:
         self._free = free
         self._mode = mode
         self._bits = {spot: 1 << at for at, spot in enumerate(free)}
-        # What hangs on a spot of other rules alone is not asked again: for each rule the bits of its own spots.
-        self._own = [self.mask_of([spot for spot in origins if spot in self._bits]) for _, _, origins in outlines]
-        self._known = {}
+        # For each rule the bits of its places, 0 where one is filtered, and these together: filters at the spots of
+        # other rules do nothing to it.
+        self._places = [[self._bits.get(spot, 0) for spot in origins] for _, _, origins in outlines]
+        self._own = [_together(bits) for bits in self._places]
+        # What was found out before: a mending never changes otherwise.
+        self._are_right = {}
+        self._needy = None
+        self._tight = None
+
+    def is_under(self, scheme):
+        """Whether it is about an equal scheme."""
+        return self._scheme == scheme
 
     def everything(self):
         """The integer of all free spots."""
@@ -24,10 +32,7 @@ class Mending:
 
     def mask_of(self, spots):
         """The integer of some of the free spots."""
-        mask = 0
-        for spot in spots:
-            mask |= self._bits[spot]
-        return mask
+        return _together([self._bits[spot] for spot in spots])
 
     def spots_in(self, mask):
         """The tuple of the spots of an integer, ascending."""
@@ -54,46 +59,64 @@ class Mending:
         return True
 
     def needy(self):
-        """The needy sets out of which no spot can be left."""
-        found = []
-        for index in range(len(self._outlines)):
-            found.extend(self._needy_of(index))
-        return _least(found)
+        """The list of the needy sets out of which no spot can be left."""
+        if self._needy is None:
+            self._needy = _least([mask for index in range(len(self._outlines)) for mask in self._needy_of(index)])
+        return list(self._needy)
 
     def tight(self):
-        """The tight sets: those with a spot of each needy set from which none can be left out."""
-        found = [0]
-        for needy in self.needy():
-            longer = [mask for mask in found if mask & needy]
-            longer.extend([mask | bit for mask in found if not mask & needy for bit in _bits_of(needy)])
-            found = _least(longer)
+        """The list of the tight sets: those with a spot of each needy set from which none can be left out."""
+        if self._tight is None:
+            found = [0]
+            for needy in self.needy():
+                there = [mask for mask in found if mask & needy]
+                added = [mask | bit for mask in found if not mask & needy for bit in _bits_of(needy)]
+                found = _least([*there, *added])
+            self._tight = found
+        return list(self._tight)
+
+    def some_tight(self):
+        """A tight set. It takes fewer questions than all of them."""
+        if self._needy is not None:
+            return self.tight()[0]
+        found = self.everything()
+        for bit in _bits_of(found):
+            if self.mends(found & ~bit):
+                found = found & ~bit
         return found
 
+    def _triples_with(self, index, mask):
+        """The triples of an unfolded rule with filters at these spots."""
+        triples, bits = self._outlines[index][1], self._places[index]
+        return [(source, terms, filtered or bit & mask > 0) for (source, terms, filtered), bit in zip(triples, bits)]
+
     def _outline_with(self, index, mask):
-        spots = {spot: True for spot in self.spots_in(mask)}
-        return marked_outline(self._outlines[index], spots, True)
+        head, _, origins = self._outlines[index]
+        return head, tuple(self._triples_with(index, mask)), origins
 
     def _is_right(self, index, mask):
-        """Whether an unfolded rule has a right derivation; filters at the spots of other rules do nothing to it."""
-        mark = (index, mask & self._own[index])
-        if mark not in self._known:
-            rows, _ = chased(self._scheme, self._outline_with(index, mask)[1])
-            self._known[mark] = right_ending(self._outlines, index, rows, self._mode) is not None
-        return self._known[mark]
+        """Whether an unfolded rule has a right derivation."""
+        own = mask & self._own[index]
+        if own == self._own[index]:
+            # All its places are living, whatever its steps are, unless it is empty.
+            return True
+        if (index, own) not in self._are_right:
+            rows, _ = chased(self._scheme, self._triples_with(index, own))
+            self._are_right[index, own] = right_ending(self._outlines, index, rows, self._mode) is not None
+        return self._are_right[index, own]
 
     def _needy_of(self, index):
         """The needy sets that an unfolded rule has, among which are all those out of which no spot can be left."""
-        own = self._own[index]
-        wrong, right, found = [], [], []
-        for mask in _masks_within(own):
-            is_wrong = any([mask | other == other for other in wrong])
-            if not is_wrong and not any([mask & other == other for other in right]):
-                if self._is_right(index, mask):
-                    right.append(mask)
-                else:
-                    greatest = self._greatest_wrong(index, mask, own)
-                    wrong.append(greatest)
-                    found.append(own & ~greatest)
+        own, found = self._own[index], []
+        undecided = _masks_within(own)
+        while undecided:
+            mask = undecided[0]
+            if self._is_right(index, mask):
+                undecided = [other for other in undecided if other & mask != mask]
+            else:
+                greatest = self._greatest_wrong(index, mask, own)
+                found.append(own & ~greatest)
+                undecided = [other for other in undecided if other & ~greatest]
         return found
 
     def _greatest_wrong(self, index, mask, own):
@@ -102,6 +125,14 @@ class Mending:
             if not self._is_right(index, mask | bit):
                 mask |= bit
         return mask
+
+
+def _together(masks):
+    """What is in any of the masks."""
+    everything = 0
+    for mask in masks:
+        everything |= mask
+    return everything
 
 
 def _bits_of(mask):

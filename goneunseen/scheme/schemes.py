@@ -2,7 +2,7 @@
 
 from goneunseen.errors import InvalidOperation, InvalidRow, InvalidScheme, InvalidTable, UnknownName
 from goneunseen.scheme.names import is_name, is_row_of, is_whole
-from goneunseen.scheme.tables import Table
+from goneunseen.scheme.tables import Table, plan_of
 
 _MOST_TABLES = 4
 _MOST_REFERENCES = 4
@@ -15,6 +15,7 @@ class Scheme:
         _check_tables(tables)
         self._tables = tables
         self._by_name = {table.name: table for table in tables}
+        self._plans = {table.name: plan_of(table) for table in tables}
         self._rules = tuple(sorted([rule for table in tables for rule in _rules_of(table)]))
 
     @classmethod
@@ -77,8 +78,8 @@ class Scheme:
         return self._by_name[at]
 
     def __contains__(self, value):
-        # Only names are looked up: other values need not be hashable.
-        return is_name(value) and value in self._by_name
+        # Only strings are looked up: other values need not be hashable.
+        return isinstance(value, str) and value in self._by_name
 
     def __eq__(self, other):
         return isinstance(other, Scheme) and self._tables == other._tables
@@ -91,9 +92,9 @@ class Scheme:
         return Scheme.of(tuple([changed if table.name == changed.name else table for table in self._tables]))
 
 
-def tables_by_name(scheme):
-    """The dict from the names of a scheme's tables to the tables, as it is kept: only to be looked at."""
-    return scheme._by_name
+def plans_of(scheme):
+    """The dict from the names of a scheme's tables to their plans, as it is kept: only to be looked at."""
+    return scheme._plans
 
 
 def have_same_tables(first, second):

@@ -90,6 +90,19 @@ class Table:
             raise InvalidRow("the table has no such row")
 
 
+def key_columns(table):
+    """The columns by which living rows of a table are told apart: without a key, a row counts as its own key."""
+    return tuple(range(table._width)) if table._key is None else table._key
+
+
+def plan_of(table):
+    """What is asked of a table most often.
+
+    Its width, the columns by which living rows are told apart, whether gone ones are, too, and the references.
+    """
+    return table._width, key_columns(table), table._scope == "all", table._refers
+
+
 def picked(row, columns):
     """The tuple of what a row has in these columns."""
     # Most keys have one column, and this is asked very often.

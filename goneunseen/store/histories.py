@@ -2,6 +2,7 @@
 
 from goneunseen.base.bases import Base
 from goneunseen.errors import GoneError, InvalidBase, InvalidHistory, Stopped, TooMany, UnknownName
+from goneunseen.scheme.schemes import plans_of
 from goneunseen.scheme.tables import picked
 from goneunseen.store.commands import are_commands
 from goneunseen.store.ledger import Ledger
@@ -49,12 +50,12 @@ def history_to(base):
     if base.size > _MOST_ROWS:
         raise TooMany(_MOST_ROWS)
     names = base.scheme.names
-    tables = {table.name: (table.refers, table.key, table.width) for table in base.scheme}
+    plans = plans_of(base.scheme)
     commands = []
     # Later tables come first, as the rows that a copy needs stand in earlier tables: none of them is gone by then.
     for name in reversed(list(names)):
         for row, many in base.gone(name).items():
-            commands.extend(_making_copy(tables, name, row) * many)
+            commands.extend(_making_copy(plans, name, row) * many)
     commands.extend([("put", name, row) for name in names for row in base.living(name)])
     return tuple(commands)
 
@@ -89,10 +90,10 @@ def end_of(scheme, value):
     return ledger.base_now()
 
 
-def _making_copy(tables, name, row):
+def _making_copy(plans, name, row):
     """The commands that make a copy of a row where no row is living, and leave nothing else."""
     puts, takes, purges = [], [("take", name, row)], []
-    needed = _needed(tables, name, row)
+    needed = _needed(plans, name, row) if plans[name][3] else {}
     for place in needed:
         for other in needed[place]:
             puts.append(("put", place, other))
@@ -102,23 +103,22 @@ def _making_copy(tables, name, row):
     return [*puts, ("put", name, row), *takes, *purges]
 
 
-def _needed(tables, name, row):
+def _needed(plans, name, row):
     """The rows to which a row refers, also through others: a dict from all tables to dicts of their rows."""
-    needed = {place: {} for place in tables}
+    needed = {place: {} for place in plans}
     needed[name][row] = True
     # References lead to earlier tables, so all rows of a table are found ahead of those to which they refer.
-    for place in reversed(list(tables)):
-        refers = tables[place][0]
+    for place in reversed(list(plans)):
         for other in list(needed[place]):
-            for columns, target in refers:
-                needed[target][_row_with(tables[target], picked(other, columns))] = True
+            for columns, target in plans[place][3]:
+                needed[target][_row_with(plans[target], picked(other, columns))] = True
     del needed[name][row]
     return needed
 
 
-def _row_with(table, told):
+def _row_with(plan, told):
     """A row with the key that is told; one key always gets the same row."""
-    _, key, width = table
+    width, key, _, _ = plan
     parts = [0] * width
     for column, part in zip(key, told):
         parts[column] = part
