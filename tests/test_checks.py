@@ -1,5 +1,6 @@
 """[0.16], [14.1] to [14.4], stage 14: checks."""
 
+import math
 import random
 import unittest
 
@@ -47,6 +48,12 @@ def told(rule, base, living):
         if not barred:
             found.add(tuple(values.get(term, term) for term in rule.head))
     return tuple(sorted(found))
+
+
+def check_size(rule, base):
+    """How many lists of rows the slow way goes over."""
+    many = [math.prod(len(base.living(place.source)) + len(base.gone(place.source)) for place in places) for places in (rule.places, *rule.parts)]
+    return many[0] * max(many[1:])
 
 
 def cases(rule):
@@ -153,11 +160,14 @@ class Answers(Case):
         rows = Base(PLAIN, living={"s": singles(36)})
         self.assertEqual(check_answers(PLAIN, Rule(("x", "y"), *two, without=(part,)), rows), ())
         self.assertIs(misleads_check(PLAIN, Rule(("x", "y"), *two, without=(part,)), rows), False)
+        # A row that is living and gone counts once.
+        twice = Base(PLAIN, living={"s": singles(36)}, gone={"s": singles(36) + singles(20)})
+        self.assertEqual(check_answers(PLAIN, Rule(("x", "y"), *two, without=(part,)), twice), ())
         three = Rule(("x", "y", "z"), *two, *part, without=((Place("t", "x", "y"),),))
         together = Rule(("x", "y"), *two, without=((Place("t", "x", "y"),), part))
         for base in (Base(PLAIN, living={"s": singles(37)}), Base(PLAIN, living={"s": singles(30)}, gone={"s": singles(37)})):
-            # The places alone, though a part has no rows; and only the second part.
-            for rule in (three, together):
+            # The places alone, though a part has no rows; only one part; and only the second one.
+            for rule in (three, Rule(("x", "y"), *two, without=(part,)), together):
                 for living in (False, True):
                     self.refused_with(TooMany, {"limit": 50000}, check_answers, PLAIN, rule, base, living=living)
                 self.refused_with(TooMany, {"limit": 50000}, misleads_check, PLAIN, rule, base)
@@ -166,6 +176,26 @@ class Answers(Case):
         self.assertEqual(check_answers(PLAIN, Rule(("x", "y"), *two, without=parts), rows), ())
         empty = Rule(("x", "y"), T, without=((S, Place("s", "a"), Place("s", "b"), Place("s", "c"), Place("s", "d")),))
         self.assertEqual(check_answers(PLAIN, empty, Base(PLAIN, living={"s": singles(100)})), ())
+
+    def test_many_places(self):
+        # Up to six places together, with variables that are needed later, or never again.
+        dice = random.Random(70)
+        seen = 0
+        for scheme in some_schemes()[:4]:
+            for _ in range(60):
+                tables, many = list(scheme), dice.randint(1, 3)
+
+                def places(many, names):
+                    chosen = [dice.choice(tables) for _ in range(many)]
+                    return tuple(Place(table.name, *random_terms(dice, table.width, names), filtered=dice.random() < 0.4) for table in chosen)
+                inner = places(many, "xyz"[:dice.randint(1, 3)])
+                names = sorted({name for place in inner for name in place.variables})
+                rule = Rule.of(tuple(names), inner, without=(places(dice.randint(1, min(3, 6 - many)), [*names, "v", "w"]),))
+                base = random_base(dice, scheme)
+                if check_size(rule, base) < 1500:
+                    everything, _ = self.check(scheme, rule, base)
+                    seen += bool(everything)
+        self.assertGreater(seen, 40)
 
     def test_random_checks(self):
         dice = random.Random(71)
@@ -437,6 +467,60 @@ class Judging(Case):
                     self.assertIs(is_check_paper(scheme, rule, ("faithful", some)), expected, (str(rule), case, some[case]))
                     seen[expected] += 1
         self.assertGreater(min(seen.values()), 300)
+
+
+def anew(rule):
+    """An equal rule of which nothing was asked yet."""
+    return Rule(rule.head, *[Place.of(place.source, place.terms, filtered=place.filtered) for place in rule], without=rule.parts)
+
+
+class AskedAgain(Case):
+    def test_what_was_asked_before_changes_nothing(self):
+        # The same rule is asked about again, in any order, under schemes that take turns, and so are equal ones.
+        dice = random.Random(75)
+        seen = 0
+        for scheme in [*some_schemes(), *chains()]:
+            schemes = [scheme, Scheme(*scheme.listed)] + [scheme.without(rule) for rule in scheme.rules if rule[0] != "key"]
+            rules = [random_check(dice, scheme) for _ in range(6)]
+            bases = [random_base(dice, scheme) for _ in range(3)]
+            papers = [check_paper(scheme, anew(rule)) for rule in rules]
+            for _ in range(150):
+                at, some, base = dice.randrange(len(rules)), dice.choice(schemes), dice.choice(bases)
+                rule, living = rules[at], dice.random() < 0.5
+                call, more = dice.choice((
+                    (is_faithful_check, ()), (check_paper, ()), (is_check_paper, (papers[at],)), (misleads_check, (base.on(some),)),
+                    (lambda *args: check_answers(*args, living=living), (base.on(some),))))
+                self.assert_same(call(some, rule, *more), call(some, anew(rule), *more))
+                seen += some.rules != scheme.rules
+            self.assertEqual(rules, [anew(rule) for rule in rules])
+        self.assertGreater(seen, 300)
+
+    def test_errors_after_answers(self):
+        lax = PLAIN.with_rule(("key", "s", (0,)))
+        rule = Rule(("x", "y", "z"), S, Place("s", "y"), Place("s", "z"), without=((T,),))
+        few, many = Base(PLAIN, living={"s": singles(2)}), Base(PLAIN, living={"s": singles(37)})
+        for _ in range(2):
+            self.assertEqual(len(check_answers(PLAIN, rule, few)), 8)
+            for _ in range(2):
+                self.refused_with(TooMany, {"limit": 50000}, check_answers, PLAIN, rule, many)
+                self.refused_with(TooMany, {"limit": 50000}, misleads_check, PLAIN, rule, many)
+            self.assertEqual(len(check_answers(PLAIN, rule, few, living=True)), 8)
+            self.refused(InvalidBase, check_answers, lax, rule, few)
+            self.refused(InvalidRule, check_answers, SHOP, rule, few)
+            self.refused(InvalidRule, check_paper, SHOP, rule)
+            self.refused(InvalidScheme, is_faithful_check, None, rule)
+            self.assertEqual(len(check_answers(lax, rule, few.on(lax))), 8)
+            self.assertIs(is_faithful_check(lax, rule), False)
+
+    def test_answers_of_one_base_after_another(self):
+        rule = Rule(("x",), S, without=((T,), (Place("t", "z", "x"),)))
+        one = Base(PLAIN, living={"s": singles(3), "t": ((0, 1),)}, gone={"t": ((2, 2),)})
+        other = Base(PLAIN, living={"s": singles(3)}, gone={"s": ((5,),), "t": ((0, 0),)})
+        for base, everything, living in ((one, (), ((2,),)), (other, ((1,), (2,), (5,)), ((0,), (1,), (2,)))) * 2:
+            self.assertEqual(check_answers(PLAIN, rule, base), everything)
+            self.assertEqual(check_answers(PLAIN, rule, base, living=True), living)
+            self.assertIs(misleads_check(PLAIN, rule, base), True)
+            self.assertIs(misleads_check(PLAIN, rule, base.alive()), False)
 
 
 class Arguments(Case):

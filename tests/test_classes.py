@@ -138,6 +138,49 @@ class Classes(Case):
         self.assertIs(is_classes(SOLD, RULE, ((0, 1), (1,)), mode="numbers"), False)
 
 
+class AskedAgain(Case):
+    def test_what_was_asked_before_changes_nothing(self):
+        # The same rule and the same program are asked about again, in both modes and under schemes that take turns.
+        dice = random.Random(93)
+        for scheme in [FIRM, SOLD, *some_schemes(), *chains()]:
+            schemes = [scheme, Scheme(*scheme.listed)] + [scheme.without(rule) for rule in scheme.rules if rule[0] == "refers"]
+            rules = [random_rule(dice, scheme, 4) for _ in range(3)]
+            programs = [Program.of(scheme, {"zzz": rule}) for rule in rules]
+            for _ in range(40):
+                at, some, mode = dice.randrange(len(rules)), dice.choice(schemes), dice.choice(MODES if is_firm(scheme) else MODES[1:])
+                again = Rule.of(rules[at].head, rules[at].places)
+                found = classes(some, rules[at], mode=mode)
+                self.assert_same(found, classes(some, again, mode=mode))
+                value = dice.choice((found, dice.choice(some_values(len(again)))))
+                self.assertIs(is_classes(some, rules[at], value, mode=mode), is_classes(some, Rule.of(again.head, again.places), value, mode=mode))
+                fresh = Program.of(scheme, {"zzz": again})
+                self.assertEqual(list(tight_sets(programs[at], "zzz", mode=mode)), list(tight_sets(fresh, "zzz", mode=mode)))
+                for indices in found:
+                    spots = Spots(*[("zzz", 0, index) for index in indices])
+                    self.assertIs(is_needy(programs[at], "zzz", spots, mode=mode), is_needy(Program.of(scheme, {"zzz": again}), "zzz", spots, mode=mode))
+
+    def test_errors_after_answers(self):
+        rule, clash = Rule((), Place("s", "x"), Place("s", "y")), Rule((), Place("t", "x", 1), Place("t", "x", 2))
+        keyed = Scheme(Table("t", 2, key=(0,)), Table("s", 1))
+        for _ in range(2):
+            self.assertEqual(classes(PLAIN, rule), ((0, 1),))
+            self.assertEqual(classes(PLAIN, clash), ((0,), (1,)))
+            self.refused(InvalidOperation, classes, keyed, rule)
+            self.refused(InvalidOperation, classes, keyed, clash, mode="numbers")
+            self.assertEqual(classes(keyed, rule, mode="numbers"), ((0,), (1,)))
+            self.refused(InvalidRule, is_classes, SHOP, rule, ((0, 1),))
+            self.refused(InvalidMode, is_classes, PLAIN, rule, ((0, 1),), mode="check")
+            self.refused(InvalidScheme, is_classes, None, rule, ((0, 1),))
+
+    def test_rules_with_filters_or_parts(self):
+        # A rule that is like one that was asked about is another one.
+        rule = Rule(("x",), Place("s", "x"), Place("s", "y"))
+        self.assertEqual(classes(PLAIN, rule, mode="numbers"), ((0,), (1,)))
+        self.refused(InvalidOperation, classes, PLAIN, Rule(("x",), +Place("s", "x"), Place("s", "y")), mode="numbers")
+        self.assertEqual(classes(PLAIN, rule & Place("s", "z"), mode="numbers"), ((0,), (1,), (2,)))
+        self.assertEqual([classes(PLAIN, one) for one in (rule, rule.renamed({"y": "x"}), rule)], [((0,),), ((0, 1),), ((0,),)])
+
+
 class Arguments(Case):
     def test_wrong_arguments(self):
         parted = Rule(("b", "t"), Place("buyer", "b", "t"), without=((Place("buyer", "t", "b"),),))

@@ -96,6 +96,7 @@ class Numbered:
     def merge_once(self):
         """Makes rows one, in one pass over all of them; the steps that were done."""
         marked, done = {}, []
+        # Very often each row is the only one of its table.
         if len(set(self._sources)) == len(self._sources):
             return done
         for number in range(len(self._sources)):
@@ -109,9 +110,10 @@ class Numbered:
         return done
 
     def refer_all(self):
-        """Adds the rows to which living rows refer, also through others, unless they are there; no rows can become one.
+        """Adds the rows to which living rows refer, also through others, unless they are there.
 
-        The steps that were done, and whether one of the added rows can become one with a gone row.
+        It is called where no rows can become one, and tells the steps that were done, and whether two rows can now: an
+        added row differs from all living ones by its key, but a gone row can have it.
         """
         living = [number for number, first in enumerate(self._firsts) if first == number and self._are_living[number]]
         if not any([self._plans[self._sources[number]][3] for number in living]):
@@ -120,7 +122,8 @@ class Numbered:
         done, at = [], 0
         while at < len(living):
             number = living[at]
-            for index, (columns, target) in enumerate(self._plans[self._sources[number]][3]):
+            references = self._plans[self._sources[number]][3]
+            for index, (columns, target) in enumerate(references):
                 mark = (target, self.ends_of(picked(self._written[number], columns)))
                 if mark not in there:
                     there[mark] = True
@@ -142,7 +145,7 @@ class Numbered:
             if self._plans[source][2] and not self.is_living(number)]
 
     def _can_be_one(self, first, second):
-        if self._sources[first] != self._sources[second] or self._mark_of(first) != self._mark_of(second):
+        if self._mark_of(first) != self._mark_of(second):
             return False
         return self._plans[self._sources[first]][2] or (self.is_living(first) and self.is_living(second))
 

@@ -79,11 +79,12 @@ class Mending:
         """A tight set. It takes fewer questions than all of them."""
         if self._needy is not None:
             return self.tight()[0]
-        found = self.everything()
-        for bit in _bits_of(found):
-            if self.mends(found & ~bit):
-                found = found & ~bit
-        return found
+        everything = self.everything()
+        mask = everything
+        for bit in _bits_of(everything):
+            if self.mends(mask & ~bit):
+                mask = mask & ~bit
+        return mask
 
     def _triples_with(self, index, mask):
         """The triples of an unfolded rule with filters at these spots."""
