@@ -7,13 +7,13 @@ class Join:
     """Places over tables, which are matched one after another, and the terms of which the values are asked for."""
 
     def __init__(self, triples, head):
-        # Behind each place those variables are needed that are asked for or stand in a later place.
-        needed = [head]
-        for _, terms, _ in reversed(list(triples[1:])):
-            needed.append(needed[-1] + terms)
         self._steps, names = [], []
-        for _, terms, _ in triples:
-            step, names = _step_from(names, terms, needed.pop())
+        for place, (_, terms, _) in enumerate(triples):
+            # Behind a place those variables are needed that are asked for or stand in a later place.
+            needed = head
+            for _, others, _ in triples[place + 1:]:
+                needed = needed + others
+            step, names = _step_from(names, terms, needed)
             self._steps.append(step)
         self._head = None
         if names != list(head):

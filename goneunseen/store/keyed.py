@@ -1,6 +1,6 @@
 """The rows of a base by their keys, as what asks for returns and hindrances finds them."""
 
-from goneunseen.scheme.tables import picked
+from goneunseen.scheme.tables import key_columns, picked
 
 
 class Keyed:
@@ -11,7 +11,7 @@ class Keyed:
         self._columns = {}
         self._references = {}
         for table in base.scheme:
-            self._columns[table.name] = tuple(range(table.width)) if table.key is None else table.key
+            self._columns[table.name] = key_columns(table)
             self._references[table.name] = table.refers
         # Most questions are about few tables, so the rows of a table are sorted out when they are asked for.
         self._living = {}
